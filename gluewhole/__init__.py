@@ -1,0 +1,1 @@
+"""Gluewhole: what is told on the cells of a space, put together to wholes, or barred."""

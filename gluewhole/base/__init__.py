@@ -1,0 +1,1 @@
+"""Integers, rows and grids."""

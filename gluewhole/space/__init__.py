@@ -1,0 +1,1 @@
+"""Spaces of cells and their maps."""

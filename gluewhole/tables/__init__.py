@@ -1,0 +1,1 @@
+"""Tables on spaces, and what is told on them."""

@@ -1,0 +1,81 @@
+"""The interface: each name stands, with its arguments, in the module under which the document lists it."""
+
+import importlib
+import inspect
+import pathlib
+import unittest
+
+FUNCTIONS = {
+    "gluewhole.base.numbers": """
+        is_integer(value), is_row(value), is_grid(value), dot(one, other), row_sum(one, other),
+        row_difference(one, other), row_multiple(row, number), is_nought(value, modulus), shared(one, other),
+        unit_grid(size), nought_grid(height, width), turned(grid), grid_multiple(grid, number), grid_sum(one, other),
+        grid_difference(one, other), grid_product(one, other), beside(one, other), over(one, other), led(grid, row),
+        read_by(row, grid)""",
+    "gluewhole.base.diagonal": """
+        divisors(grid), rank(grid), kernel_number(grid, m), undone_answer(grid), divisors_answer(grid),
+        alike_answer(one, other)""",
+    "gluewhole.base.made": """
+        made_answer(grid, row), made_modulo_answer(grid, row, m), stairs(grid), lots_answer(one, other), kernel(grid),
+        kernel_answer(grid), coordinates(base, row)""",
+    "gluewhole.space.spaces": """
+        is_cell(value), is_space(value), faces(cell), parts(cell), space_of(cells), degree_of(space), points(space),
+        cells_of(space, degree), tops(space), count(space), border(space, degree), skeleton(space, degree),
+        star(space, cell), closed_star(space, cell), link(space, cell), is_sub(space, value), is_open(space, value),
+        joined(one, other), common(one, other), cone(space, point), hang_answer(space, one, other),
+        is_path(space, one, other, value), is_side(space, one, other, value), pieces(space)""",
+    "gluewhole.space.maps": """
+        is_lead(value), is_map(space, other, value), map_fault(space, other, value), image(lead, cell),
+        cell_sign(lead, cell), same(space), behind(first, second), image_of(space, lead), over(space, lead, sub),
+        map_grid(space, other, lead, degree), step_grid(space, other, first, second, degree),
+        are_near(space, other, first, value), folds(space), folded(space, point, onto), fold_row(space),
+        is_fold_row(space, value), row_lead(space, row)""",
+    "gluewhole.tables.tables": """
+        table_fault(space, ranks, maps), constant(space, rank), on_star(space, cell, rank), on_parts(space, cell, rank),
+        restricted(table, sub), inside(table, sub), outside(table, sub), table_sum(one, other),
+        table_product(one, other), pulled(table, space, lead), framed(table, frames)""",
+    "gluewhole.tables.tellings": """
+        sizes(table), spots(table, degree), is_telling(table, degree, value), is_still(table, degree, value),
+        rise_grid(table, degree), rise(table, degree, telling), part(table, degree, telling, cell),
+        on_cells(table, degree, told), carrier(table, degree, telling), spread(table, degree, cell, row, goal)""",
+}
+CONSTANTS = {
+    "gluewhole.base.numbers": {"MAX_DIGITS": 12, "MAX_SIZE": 60},
+    "gluewhole.space.spaces": {"MOST_POINT": 99, "MOST_LENGTH": 4, "MOST_CELLS": 80},
+    "gluewhole.tables.tables": {"MAX_RANK": 4, "MAX_SIZE": 30},
+}
+
+
+class Interface(unittest.TestCase):
+    def test_functions(self):
+        for path, told in FUNCTIONS.items():
+            module = importlib.import_module(path)
+            for heading in " ".join(told.split()).split("), "):
+                name, arguments = heading.rstrip(")").split("(")
+                function = getattr(module, name)
+                self.assertTrue(inspect.isfunction(function), name)
+                self.assertEqual(function.__module__, path)
+                self.assertEqual(", ".join(inspect.signature(function).parameters), arguments, name)
+
+    def test_the_class_table(self):
+        table = importlib.import_module("gluewhole.tables.tables").Table
+        self.assertEqual(table.__module__, "gluewhole.tables.tables")
+        self.assertEqual(list(inspect.signature(table).parameters), ["space", "ranks", "maps"])
+        self.assertEqual(list(inspect.signature(table.led_by).parameters), ["self", "part", "cell"])
+        for name in ("space", "ranks", "maps"):
+            self.assertIsInstance(vars(table)[name], property)
+
+    def test_constants(self):
+        for path, told in CONSTANTS.items():
+            module = importlib.import_module(path)
+            for name, number in told.items():
+                self.assertEqual(getattr(module, name), number)
+
+    def test_files(self):
+        package = pathlib.Path(importlib.import_module("gluewhole").__file__).parent
+        for path in list(FUNCTIONS) + ["gluewhole.errors"]:
+            self.assertTrue(package.parent.joinpath(*path.split(".")).with_suffix(".py").is_file())
+
+
+if __name__ == "__main__":
+    unittest.main()
