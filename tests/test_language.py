@@ -123,9 +123,9 @@ class Words(unittest.TestCase):
             told = imported(tree) + [node.name for node in tree.body if isinstance(node, ast.ClassDef)]
             functions = [node.name for node in ast.walk(tree) if isinstance(node, ast.FunctionDef)]
             names = bound(tree)
+            told += [node.name for node in tree.body if isinstance(node, ast.FunctionDef)]
             for name in names:
                 self.assertNotIn(name, told, path)
-                self.assertFalse(name in [node.name for node in tree.body if isinstance(node, ast.FunctionDef)], (path, name))
             for name in [name for name in names + functions if name not in OWN]:
                 self.assertFalse(hasattr(builtins, name), (path, name))
                 self.assertFalse(name.startswith("__"), (path, name))
@@ -172,6 +172,25 @@ class Statements(unittest.TestCase):
             for node in ast.walk(tree):
                 if isinstance(node, ast.Compare) and isinstance(node.ops[0], (ast.Is, ast.IsNot)):
                     self.assertIn(ast.unparse(node.comparators[0]), ("None", "True", "False"), (path, node.lineno))
+
+    def test_inner_comprehensions_have_names_of_their_own(self):
+        kinds = (ast.ListComp, ast.DictComp, ast.SetComp)
+        for path, tree in trees():
+            for function in [node for node in ast.walk(tree) if isinstance(node, ast.FunctionDef)]:
+                outer = [node for node in ast.walk(function) if isinstance(node, kinds)]
+                pairs = [(one, inner) for one in outer for inner in ast.walk(one) if isinstance(inner, kinds)]
+                within = {inner for one, inner in pairs if inner is not one}
+                plain = {one for comprehension in outer for one in ast.walk(comprehension)}
+                names = set(bound(ast.Module([function.args], []))) | {
+                    node.id for node in ast.walk(function)
+                    if isinstance(node, ast.Name) and isinstance(node.ctx, ast.Store) and node not in plain}
+                for inner in within:
+                    told = {name for part in inner.generators for name in bound(part.target)}
+                    self.assertFalse(told & names, (path, function.name, told & names))
+                    for one in outer:
+                        if one is not inner and inner in set(ast.walk(one)):
+                            around = {name for part in one.generators for name in bound(part.target)}
+                            self.assertFalse(told & around, (path, function.name, told & around))
 
     def test_exponents_are_literals(self):
         for path, tree in trees():

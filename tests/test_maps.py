@@ -211,9 +211,10 @@ class Grids(unittest.TestCase):
             for lead in maps_between(space, SMALL[0], 3):
                 for degree in range(4):
                     rows, columns = cells_of(SMALL[0], degree), cells_of(space, degree)
-                    told = [[cell_sign(lead, cell) if image(lead, cell) == row else 0 for cell in columns] for row in rows]
-                    self.assertEqual(
-                        map_grid(space, SMALL[0], lead, degree), (len(columns), tuple([tuple(row) for row in told])))
+                    told = tuple([
+                        tuple([cell_sign(lead, cell) if image(lead, cell) == row else 0 for cell in columns])
+                        for row in rows])
+                    self.assertEqual(map_grid(space, SMALL[0], lead, degree), (len(columns), told))
 
     def test_one_behind_the_other(self):
         for first in maps_between(HOUSE, FILLED, 5):
@@ -227,7 +228,8 @@ class Grids(unittest.TestCase):
         self.assertEqual(map_grid((), (), {}, 3), (0, ()))
         self.assertEqual(map_grid((), SIDE, {}, 1), (0, ((),)))
         self.assertEqual(map_grid(POINTS[:60], POINTS[:60], same(POINTS[:60]), 0)[0], 60)
-        self.assertEqual(refusal(self, map_grid, (POINTS[:61], ((0,),), {at: 0 for at in range(61)}, 0), TooMany).most, 60)
+        down = {point: 0 for point in range(61)}
+        self.assertEqual(refusal(self, map_grid, (POINTS[:61], ((0,),), down, 0), TooMany).most, 60)
         self.assertEqual(refusal(self, map_grid, (((0,),), POINTS[:61], {0: 0}, 0), TooMany).most, 60)
         self.assertEqual(map_grid(POINTS[:61], POINTS[:61], same(POINTS[:61]), 1), (0, ()))
 
@@ -333,7 +335,8 @@ class Folds(unittest.TestCase):
             self.assertEqual(true_folds(left), ())
             self.assertEqual(list(row_lead(space, row).items()), list(lead.items()))
             self.assertTrue(is_map(space, left, row_lead(space, row)))
-        self.assertEqual([fold_row(()), row_lead((), ()), fold_row(ROUND), row_lead(ROUND, ())], [(), {}, (), same(ROUND)])
+        self.assertEqual([fold_row(()), row_lead((), ())], [(), {}])
+        self.assertEqual([fold_row(ROUND), row_lead(ROUND, ())], [(), same(ROUND)])
 
     def test_a_long_row(self):
         straight = closed([(point, point + 1) for point in range(39)])
@@ -343,10 +346,13 @@ class Folds(unittest.TestCase):
         self.assertEqual(row_lead(straight, row), {point: 39 for point in range(40)})
 
     def test_judging_rows(self):
-        right = ((((0, 1), (3, 1), (1, 2))), ((3, 1), (2, 0), (0, 1)), ((0, 2), (2, 1), (1, 3)))
-        wrong = (((0, 1),), ((0, 1), (3, 1)), ((0, 1), (0, 2), (3, 1)), ((1, 0), (3, 1), (2, 0)), (), [(0, 1), (3, 1), (1, 2)],
-                 ([0, 1], (3, 1), (1, 2)), ((0, True), (3, 1), (1, 2)), ((False, 1), (3, 1), (1, 2)), ((0, 1), (3, 1), (1, 2), (2, 2)),
-                 ((0, 1, 2), (3, 1), (1, 2)), ((0, 0), (3, 1), (1, 2)), ((0, 1), (3, 1), None))
+        right = (((0, 1), (3, 1), (1, 2)), ((3, 1), (2, 0), (0, 1)), ((0, 2), (2, 1), (1, 3)))
+        wrong = (
+            ((0, 1),), ((0, 1), (3, 1)), ((0, 1), (0, 2), (3, 1)), ((1, 0), (3, 1), (2, 0)), (),
+            [(0, 1), (3, 1), (1, 2)], ([0, 1], (3, 1), (1, 2)), ((0, True), (3, 1), (1, 2)),
+            ((False, 1), (3, 1), (1, 2)),
+            ((0, 1), (3, 1), (1, 2), (2, 2)), ((0, 1, 2), (3, 1), (1, 2)), ((0, 0), (3, 1), (1, 2)),
+            ((0, 1), (3, 1), None))
         check_judged(self, is_fold_row, (HOUSE,), right, wrong)
         check_judged(self, is_fold_row, (ROUND,), ((),), (((0, 1),),))
         for value in wrong + ODD:

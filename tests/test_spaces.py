@@ -226,7 +226,8 @@ class Borders(unittest.TestCase):
                     self.assertFalse(any([any(row) for row in grid[1]]))
 
     def test_empty_ones(self):
-        self.assertEqual([border((), 1), border(((4,),), 1), border(ROUND, 2)], [(0, ()), (0, ((),)), (0, ((), (), ()))])
+        self.assertEqual([border((), 1), border(((4,),), 1)], [(0, ()), (0, ((),))])
+        self.assertEqual(border(ROUND, 2), (0, ((), (), ())))
 
     def test_sixty_rows_and_columns(self):
         self.assertEqual(border(POINTS[:60], 1), (0, ((),) * 60))
@@ -322,8 +323,9 @@ class Hanging(unittest.TestCase):
 
     def test_paths(self):
         right = ((0, 1), (0, 2, 1), (0, 1, 0, 1), (0, 1, 2, 0, 2, 1))
-        wrong = ((0,), (1,), (1, 0), (0, 0, 1), (0, 1, 1), (0, 2), (0, 3, 1), [0, 1], (0, 1, 2), (2, 1), (False, 1), (0, True),
-                 (0, None, 1), (0, (1,), 1), ((0, 1),))
+        wrong = (
+            (0,), (1,), (1, 0), (0, 0, 1), (0, 1, 1), (0, 2), (0, 3, 1), [0, 1], (0, 1, 2), (2, 1), (False, 1),
+            (0, True), (0, None, 1), (0, (1,), 1), ((0, 1),))
         check_judged(self, is_path, (ROUND, 0, 1), right, wrong)
         self.assertTrue(is_path(STRAIGHT, 39, 0, tuple(range(39, -1, -1))))
         self.assertTrue(is_path(ROUND, 0, 1, (0, 1) * 500))

@@ -14,13 +14,12 @@ from gluewhole.tables.tables import (
     table_product, table_sum)
 from tests.helper import (
     EDGE, FILLED, LESS, ODD, ONE, ROUND, TWIST, TWO, WRONG_CELLS, WRONG_GRIDS, WRONG_LEADS, WRONG_SPACES, check_wrong,
-    closed, refusal, times, transposed, unit)
+    closed, refusal, times, unit)
 
 T = Table(EDGE, {(0,): 1, (1,): 1, (0, 1): 1}, {((0,), (0, 1)): ONE, ((1,), (0, 1)): TWO})
 C = constant(FILLED, 1)
 SOLID = closed([(0, 1, 2, 3)])
 POINTS = tuple([(point,) for point in range(80)])
-LONG = 10 ** 30
 TURN, SKEW = (2, ((1, 2), (0, 1))), (2, ((0, 1), (-1, 3)))
 
 
@@ -107,7 +106,8 @@ class Tables(unittest.TestCase):
     def test_properties(self):
         for table in TABLES:
             checked(self, table)
-            if max([abs(item) for grid in table.maps.values() for row in grid[1] for item in row], default=0) < 10 ** 12:
+            items = [item for grid in table.maps.values() for row in grid[1] for item in row]
+            if max([abs(item) for item in items], default=0) < 10 ** 12:
                 again = Table(table.space, table.ranks, table.maps)
                 self.assertEqual((again.space, again.ranks, again.maps), (table.space, table.ranks, table.maps))
                 self.assertEqual(again, table)
@@ -158,8 +158,8 @@ class Tables(unittest.TestCase):
             self.assertIs(T != value, True)
 
     def test_texts(self):
-        told = [str(constant(space, rank)) for space, rank in (((), 0), ((), 4), (((5,),), 0), (POINTS[:30], 1), (SOLID, 2))]
-        self.assertEqual(told, [
+        pairs = (((), 0), ((), 4), (((5,),), 0), (POINTS[:30], 1), (SOLID, 2))
+        self.assertEqual([str(constant(space, rank)) for space, rank in pairs], [
             "table on 0 cells, sizes 0", "table on 0 cells, sizes 0", "table on 1 cells, sizes 0",
             "table on 30 cells, sizes 30", "table on 15 cells, sizes 8 12 8 2"])
         self.assertEqual(str(TWIST), "table on 6 cells, sizes 3 3")
@@ -245,7 +245,8 @@ class Faults(unittest.TestCase):
     def test_ways(self):
         for space in (FILLED, SOLID):
             table = constant(space, 1)
-            far = [(some, cell) for cell in space for some in itertools.combinations(cell, max(len(cell) - 2, 0)) if some]
+            large = [cell for cell in space if len(cell) > 2]
+            far = [(some, cell) for cell in large for some in itertools.combinations(cell, len(cell) - 2)]
             for face, cell in all_pairs(space):
                 maps = {**table.maps, (face, cell): TWO}
                 unlike = [
@@ -299,7 +300,8 @@ class Making(unittest.TestCase):
         for space in (EDGE, FILLED, SOLID):
             for cell in space:
                 for rank in (0, 1, 2):
-                    for table, lot in ((on_star(space, cell, rank), star(space, cell)), (on_parts(space, cell, rank), parts(cell))):
+                    told = ((on_star, star(space, cell)), (on_parts, parts(cell)))
+                    for table, lot in [(function(space, cell, rank), lot) for function, lot in told]:
                         checked(self, table)
                         self.assertEqual(table.space, space)
                         self.assertEqual(table.ranks, {one: rank if one in lot else 0 for one in space})
@@ -316,7 +318,8 @@ class Making(unittest.TestCase):
         self.assertEqual(refusal(self, on_star, (wheel, (0,), 1), TooMany).most, 30)
         self.assertEqual(str(on_star(wheel, (1,), 4)), "table on 63 cells, sizes 4 4")
         self.assertEqual(str(on_parts(wheel, (0, 1), 4)), "table on 63 cells, sizes 8 4")
-        self.assertEqual(str(on_star(closed([(0, point) for point in range(1, 31)]), (0,), 1)), "table on 61 cells, sizes 1 30")
+        wheel = closed([(0, point) for point in range(1, 31)])
+        self.assertEqual(str(on_star(wheel, (0,), 1)), "table on 61 cells, sizes 1 30")
 
     def test_wrong_arguments(self):
         check_wrong(self, constant, (EDGE, 1), ("space", "rank"))
@@ -342,7 +345,8 @@ class Subs(unittest.TestCase):
         for table in TABLES[:9]:
             for cell in table.space:
                 sub = parts(cell)
-                for found, lot in ((inside(table, sub), sub), (outside(table, sub), [one for one in table.space if one not in sub])):
+                rest = [one for one in table.space if one not in sub]
+                for found, lot in ((inside(table, sub), sub), (outside(table, sub), rest)):
                     checked(self, found)
                     self.assertEqual(found.space, table.space)
                     self.assertEqual(found.ranks, {one: table.ranks[one] if one in lot else 0 for one in table.space})
@@ -400,8 +404,9 @@ class Putting(unittest.TestCase):
         self.assertEqual(table_sum(constant(EDGE, 2), constant(EDGE, 2)), constant(EDGE, 4))
         self.assertEqual(refusal(self, table_sum, (constant(EDGE, 2), constant(EDGE, 3)), TooMany).most, 4)
         self.assertEqual(refusal(self, table_product, (constant(EDGE, 2), constant(EDGE, 3)), TooMany).most, 4)
-        self.assertEqual(refusal(self, table_sum, (constant(POINTS[:10], 3), constant(POINTS[:10], 2)), TooMany).most, 4)
-        self.assertEqual(refusal(self, table_product, (constant(POINTS[:10], 3), constant(POINTS[:10], 2)), TooMany).most, 4)
+        both = (constant(POINTS[:10], 3), constant(POINTS[:10], 2))
+        self.assertEqual(refusal(self, table_sum, both, TooMany).most, 4)
+        self.assertEqual(refusal(self, table_product, both, TooMany).most, 4)
 
     def test_sizes_above_thirty(self):
         one, other = constant(POINTS[:15], 1), constant(POINTS[:10], 2)
@@ -479,12 +484,14 @@ class Framed(unittest.TestCase):
         check_wrong(self, framed, (T, good), ("table", None))
         for frames in ODD + (
                 {}, {(0,): ONE, (1,): ONE}, {**good, (2,): ONE}, {**good, (0,): TWO}, {**good, (1,): (1, ((0,),))},
-                {**good, (0, 1): unit(2)}, {**good, (0, 1): (0, ())}, {**good, (0, 1): (1, ())}, {**good, None: ONE},
+                {**good, (0, 1): unit(2)}, {**good, (0,): (1, ((1,), (2,)))}, {**good, (0, 1): (0, ())},
+                {**good, (0, 1): (1, ())}, {**good, None: ONE},
                 {**good, (0, 1): (1, ((True,),))}, {**good, (0,): 1}, {(0,): ONE, (True,): ONE, (0, 1): ONE},
                 {**good, (0,): (1, ((10 ** 12,),))}, {**good, (0,): T}, list(good.items())):
             refusal(self, framed, (T, frames), InvalidOperation)
         two = {cell: unit(2) for cell in EDGE}
-        for grid in ((2, ((2, 0), (0, 2))), (2, ((1, 1), (1, 1))), (2, ((1, 0),)), (2, ((1, 2), (3, 4))), transposed((2, ((1, 0),)))):
+        for grid in (
+                (2, ((2, 0), (0, 2))), (2, ((1, 1), (1, 1))), (2, ((1, 0),)), (2, ((1, 2), (3, 4))), (1, ((1,), (0,)))):
             refusal(self, framed, (constant(EDGE, 2), {**two, (1,): grid}), InvalidOperation)
 
 

@@ -21,7 +21,8 @@ MIXED = Table(
     EDGE, {(0,): 2, (1,): 0, (0, 1): 3},
     {((0,), (0, 1)): (2, ((1, 2), (3, 4), (5, 6))), ((1,), (0, 1)): (0, ((), (), ()))})
 TURNED = framed(constant(FILLED, 2), {
-    cell: (2, ((1, number), (0, 1))) if number % 2 else (2, ((0, 1), (-1, number))) for number, cell in enumerate(FILLED)})
+    cell: (2, ((1, number), (0, 1))) if number % 2 else (2, ((0, 1), (-1, number)))
+    for number, cell in enumerate(FILLED)})
 TABLES = (
     PLAIN, TWIST, MIXED, TURNED, constant((), 2), constant(SOLID, 2), constant(POINTS[:30], 1), constant(FILLED, 4),
     on_star(SOLID, (1, 2), 3), outside(TURNED, ((0,), (1,), (0, 1))), table_sum(TWIST, PLAIN), constant(ROUND, 0))

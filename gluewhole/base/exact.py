@@ -189,18 +189,22 @@ def is_undone(grid):
     return plain_grid(stairs_of(grid[1])[1], grid[0]) == plain_unit(grid[0])
 
 
+def bits_of(row):
+    """The integer with the bits that tell which numbers of the row are odd."""
+    return sum([(number & 1) << at for at, number in enumerate(row)])
+
+
 def undone_modulo_two(rows):
     """What undoes the rows modulo 2: each row, and the unit row beside it, is held as the bits of an integer."""
     size = len(rows)
-    masks = [sum([(number & 1) << at for at, number in enumerate(row)]) for row in rows]
-    masks = [mask | (1 << (size + place)) for place, mask in enumerate(masks)]
+    masks = [bits_of(row) | (1 << (size + place)) for place, row in enumerate(rows)]
     for at in range(size):
         place = [k for k in range(at, size) if (masks[k] >> at) & 1 == 1][0]
         masks[at], masks[place] = masks[place], masks[at]
         for k in range(size):
             if k != at and (masks[k] >> at) & 1 == 1:
                 masks[k] = masks[k] ^ masks[at]
-    return [[(mask >> (size + place)) & 1 for place in range(size)] for mask in masks]
+    return [[(mask >> (size + column)) & 1 for column in range(size)] for mask in masks]
 
 
 def near_nought(number, modulus):

@@ -1,9 +1,9 @@
 """Tellings on tables and their rises."""
 
 from gluewhole.base.exact import plain_grid, plain_led
-from gluewhole.base.numbers import check_between, check_fit, is_long_row, is_row
+from gluewhole.base.numbers import check_between, is_long_row, is_row
 from gluewhole.errors import InvalidCell, InvalidRow, InvalidTelling
-from gluewhole.space.spaces import check_cell_of, is_cell, is_within, plain_cells, plain_degree, plain_faces
+from gluewhole.space.spaces import check_cell_of, is_cell, plain_cells, plain_degree, plain_faces
 from gluewhole.tables.tables import check_table, plain_sizes
 
 
@@ -140,6 +140,4 @@ def spread(table, degree, cell, row, goal):
     check_cell_at(table, degree, cell)
     if not is_row(row) or len(row) != table.ranks[cell]:
         raise InvalidRow("the row has not as many numbers as the rank of the cell")
-    check_cell_of(table.space, goal)
-    check_fit(is_within(cell, goal), "the cell is no part of the goal")
     return plain_led(table.led_by(cell, goal), row)
