@@ -1,12 +1,17 @@
 """What the tests share: papers checked by sums and products alone, and values that are wrong."""
 
 import itertools
+import math
 import random
 
+from gluewhole.base.made import kernel
 from gluewhole.errors import (
-    InvalidCell, InvalidGrid, InvalidMap, InvalidNumber, InvalidRow, InvalidSpace, InvalidTable, InvalidTelling,
+    InvalidCell, InvalidGrid, InvalidMap, InvalidNumber, InvalidOperation, InvalidRow, InvalidRows, InvalidSpace,
+    InvalidTable, InvalidTelling,
 )
-from gluewhole.tables.tables import Table
+from gluewhole.tables.groups import Rows
+from gluewhole.tables.tables import Table, constant, framed, on_parts, on_star, table_sum
+from gluewhole.tables.tellings import rise_grid
 
 ROUND = ((0,), (1,), (2,), (0, 1), (0, 2), (1, 2))
 EDGE = ((0,), (1,), (0, 1))
@@ -56,7 +61,16 @@ WRONG_LEADS = (
     {0: TWIST}, TWIST, deep(0))
 WRONG_TABLES = (None, True, 0, "table", (), [], {}, ROUND, (ROUND, {}, {}), deep(0), [TWIST], (TWIST,))
 
+WRONG_ROWS_OBJECTS = (None, True, 0, "rows", (), [], {}, ((1,), ()), TWIST, deep(0))
+
 WRONG = {
+    "rows": (InvalidRows, WRONG_ROWS_OBJECTS),
+    "degree 1": (InvalidNumber, WRONG_INTEGERS + (-1, 2)),
+    "operation": (InvalidOperation, (None, True, 0, "first ", (), [], {}, deep(0), TWIST)),
+    "coordinates": (InvalidRow, (None, True, 1, "1", [1], {}, {1: 1}, (True,), (None,), ((1,),), (1,) * 61)),
+    "long telling": (
+        InvalidTelling, (None, True, 1, "1", [1], {}, {1: 1}, (True,), (None,), ((1,),), (1,) * 61, TWIST)),
+    "sub": (InvalidSpace, WRONG_SPACES + (((9,),), ROUND + ((9,),), FILLED)),
     "row": (InvalidRow, WRONG_ROWS),
     "grid": (InvalidGrid, WRONG_GRIDS),
     "integer": (InvalidNumber, WRONG_INTEGERS),
@@ -329,9 +343,124 @@ def lots_hold(kind, one, other, paper):
     return bars(transposed(against), rows[index], bar)
 
 
+def nought(height, width):
+    """The grid with 0 alone."""
+    return width, ((0,) * width,) * height
+
+
+def side_by_side(one, other):
+    """The grid with the columns of both."""
+    assert len(one[1]) == len(other[1])
+    return one[0] + other[0], tuple([row + line for row, line in zip(one[1], other[1])])
+
+
+def first_rows(grid, many):
+    """The grid of so many rows."""
+    return grid[0], grid[1][:many]
+
+
+def grow_noughts(one, other):
+    """Whether the product of both grids has 0 alone."""
+    return times(one, other) == nought(len(one[1]), other[0])
+
+
+def group_holds(low, high, rank, found, paper):
+    """Whether the paper shows that the group has this rank and these divisors."""
+    base, kernel, told, diagonal = paper
+    if high[0] != len(low[1]) or not grow_noughts(high, low) or not is_whole(rank) or rank < 0:
+        return False
+    if not are_divisors(found, 99) or 1 in found or not kernel_holds(high, base, kernel):
+        return False
+    ones = base[0] - rank - len(found)
+    if ones < 0 or not is_shaped(told, base[0], low[0]) or times(base, told) != low:
+        return False
+    return divisors_hold(told, (1,) * ones + found, diagonal)
+
+
+def reads_noughts(m, row, *grids):
+    """Whether the row reads all columns of the grids as 0 modulo m."""
+    if not is_whole(m) or m < 0 or not all([are_numbers(row, len(grid[1])) for grid in grids]):
+        return False
+    return all([is_zero(number, m) for grid in grids for number in read(row, grid)])
+
+
+def led_claim_holds(claim, paper):
+    """Whether the paper shows that a map of rows is one to one or onto in a degree, or is not."""
+    kind, one, two, three, lead = claim
+    if kind == "one to one":
+        base, kernel, both, further, made = paper
+        fit = kernel_holds(two, base, kernel) and is_shaped(made, one[0], both[0])
+        fit = fit and kernel_holds(side_by_side(times(lead, base), three), both, further)
+        return fit and times(one, made) == times(base, first_rows(both, base[0]))
+    if kind == "lost":
+        row, origin, m, bar = paper
+        fit = are_numbers(row, two[0]) and are_numbers(origin, three[0]) and not any(moved(two, row))
+        fit = fit and moved(lead, row) == moved(three, origin)
+        return fit and reads_noughts(m, bar, one) and not is_zero(product_sum(bar, row), m)
+    if kind == "onto":
+        base, kernel, ahead, behind = paper
+        fit = kernel_holds(three, base, kernel) and is_shaped(ahead, one[0], base[0])
+        fit = fit and is_shaped(behind, two[0], base[0]) and grow_noughts(one, ahead)
+        return fit and added(times(lead, ahead), times(two, behind)) == base
+    row, base, kernel, m, bar = paper
+    fit = kind == "missed" and are_numbers(row, three[0]) and not any(moved(three, row))
+    fit = fit and kernel_holds(one, base, kernel) and reads_noughts(m, bar, times(lead, base), two)
+    return fit and not is_zero(product_sum(bar, row), m)
+
+
+def exact_holds(into, onto, paper):
+    """Whether the pair of grids shows that both grids are exact."""
+    ahead, behind = paper
+    size = onto[0]
+    if not is_shaped(ahead, into[0], size) or not is_shaped(behind, size, len(onto[1])):
+        return False
+    fit = times(ahead, into) == unit(into[0]) and times(onto, behind) == unit(len(onto[1]))
+    return fit and added(times(into, ahead), times(behind, onto)) == unit(size)
+
+
+def are_led(sizes, grids, others, more, lead):
+    """Whether the tuple of grids is a map of bare rows."""
+    if type(lead) is not tuple or len(lead) != len(sizes) or len(others) != len(sizes):
+        return False
+    if not all([is_shaped(grid, high, low) for grid, low, high in zip(lead, sizes, others)]):
+        return False
+    degrees = range(len(sizes) - 1)
+    return all([times(lead[d + 1], grids[d]) == times(more[d], lead[d]) for d in degrees])
+
+
+def lesser_holds(sizes, grids, others, more, paper):
+    """Whether the triple shows that both bare rows have the same groups."""
+    there, back, steps = paper
+    if not are_led(sizes, grids, others, more, there) or not are_led(others, more, sizes, grids, back):
+        return False
+    if not all([times(ahead, behind) == unit(size) for ahead, behind, size in zip(there, back, others)]):
+        return False
+    if type(steps) is not tuple or len(steps) != len(sizes) - 1:
+        return False
+    if not all([is_shaped(grid, low, high) for grid, low, high in zip(steps, sizes, sizes[1:])]):
+        return False
+    for degree, size in enumerate(sizes):
+        told = times(back[degree], there[degree])
+        if degree > 0:
+            told = added(told, times(grids[degree - 1], steps[degree - 1]))
+        if degree + 1 < len(sizes):
+            told = added(told, times(steps[degree], grids[degree]))
+        if told != unit(size):
+            return False
+    return True
+
+
 def holds(claim, paper):
     """Whether the paper shows that the claim is true, by sums and products alone."""
     kind, grid = claim[0], claim[1]
+    if kind == "group":
+        return group_holds(*claim[1:], paper)
+    if kind in ("one to one", "lost", "onto", "missed"):
+        return led_claim_holds(claim, paper)
+    if kind == "exact":
+        return exact_holds(*claim[1:], paper)
+    if kind == "lesser":
+        return lesser_holds(*claim[1:], paper)
     if kind in ("undone", "not undone"):
         return undone_holds(kind, grid, paper)
     if kind == "divisors":
@@ -351,3 +480,147 @@ def holds(claim, paper):
         return lots_hold(kind, grid, claim[2], paper)
     assert kind == "kernel"
     return kernel_holds(grid, claim[2], paper)
+
+
+def undone_pair(size, source, many=6):
+    """A grid that is undone, and the grid that undoes it, made of simple steps."""
+    grid, back = unit(size), unit(size)
+    for _ in range(many if size > 1 else 0):
+        row, other = source.sample(range(size), 2)
+        number = source.choice((1, -1, 2, -3))
+        step = [list(line) for line in unit(size)[1]]
+        step[row][other] = number
+        undo_step = [list(line) for line in unit(size)[1]]
+        undo_step[row][other] = -number
+        grid = times((size, tuple([tuple(line) for line in step])), grid)
+        back = times(back, (size, tuple([tuple(line) for line in undo_step])))
+    if size and source.random() < 0.5:
+        sign = [list(line) for line in unit(size)[1]]
+        sign[0][0] = -1
+        sign = size, tuple([tuple(line) for line in sign])
+        grid, back = times(sign, grid), times(back, sign)
+    return grid, back
+
+
+def chain_of(numbers):
+    """The integers above 1, each dividing the next one, that tell the same group as these."""
+    numbers = list(numbers)
+    for at in range(len(numbers)):
+        for later in range(at + 1, len(numbers)):
+            common = math.gcd(numbers[at], numbers[later])
+            numbers[at], numbers[later] = common, numbers[at] * numbers[later] // common
+    return tuple([number for number in numbers if number > 1])
+
+
+def rows_of_blocks(blocks, degrees, source, many=6):
+    """Bare rows of blocks, turned by undone grids, and the groups that they have.
+
+    A block (d, 0) is a single place of the degree d; (d, q) is a number q between the degrees d and d + 1.
+    """
+    sizes, entries, groups = [0] * degrees, [], [[0, []] for _ in range(degrees)]
+    for degree, number in blocks:
+        if number == 0:
+            groups[degree][0] += 1
+        else:
+            entries.append((degree, sizes[degree], sizes[degree + 1], number))
+            groups[degree + 1][1].append(abs(number))
+            sizes[degree + 1] += 1
+        sizes[degree] += 1
+    turns = [undone_pair(size, source, many) for size in sizes]
+    grids = []
+    for degree in range(degrees - 1):
+        rows = [[0] * sizes[degree] for _ in range(sizes[degree + 1])]
+        for at, column, row, number in entries:
+            if at == degree:
+                rows[row][column] = number
+        plain = sizes[degree], tuple([tuple(row) for row in rows])
+        grids.append(times(times(turns[degree + 1][0], plain), turns[degree][1]))
+    return Rows(tuple(sizes), tuple(grids)), tuple([(rank, chain_of(found)) for rank, found in groups])
+
+
+def known_rows(seed, many, most=6):
+    """Bare rows of random blocks with the groups that they have."""
+    source = random.Random(seed)
+    found = []
+    for turn in range(many):
+        degrees = source.randint(1, 5)
+        blocks = []
+        for _ in range(source.randint(0, most)):
+            degree = source.randrange(degrees)
+            number = source.choice((0, 0, 1, -1, 2, 4, 6, 12, 3, 5))
+            blocks.append((degree, number if degree + 1 < degrees else 0))
+        found.append(rows_of_blocks(blocks, degrees, source))
+    return found
+
+
+def weighted(space, source, numbers=(1, 1, 1, 2, 3)):
+    """A table of rank 1 on the space: the map from a face is the weight of the cell by that of the face."""
+    weights = {}
+    for cell in space:
+        weights[cell] = source.choice(numbers)
+        for _, face in told_faces(cell):
+            weights[cell] = math.lcm(weights[cell], weights[face])
+    maps = {}
+    for cell in space:
+        for _, face in told_faces(cell):
+            maps[(face, cell)] = (1, ((weights[cell] // weights[face],),))
+    return Table(space, {cell: 1 for cell in space}, maps)
+
+
+def told_faces(cell):
+    """The pairs (sign, face) of a cell."""
+    if len(cell) == 1:
+        return []
+    return [((-1) ** at, cell[:at] + cell[at + 1:]) for at in range(len(cell))]
+
+
+def turned_table(table, source):
+    """The table, framed by random undone grids."""
+    return framed(table, {cell: undone_pair(rank, source, 2)[0] for cell, rank in table.ranks.items()})
+
+
+def random_tables(seed, many, most=6):
+    """Tables on random spaces: weighted ones, sums of them, on stars and parts, framed."""
+    source = random.Random(seed)
+    found = [TWIST, constant((), 1), constant(ROUND, 1), constant(FILLED, 1), constant(EDGE, 0)]
+    for space in spaces(seed, many, most):
+        table = weighted(space, source)
+        choice = source.randrange(4)
+        try:
+            if choice == 1 and space:
+                table = table_sum(table, on_star(space, source.choice(space), 1))
+            elif choice == 2 and space:
+                table = table_sum(weighted(space, source), on_parts(space, source.choice(space), 1))
+            elif choice == 3:
+                table = table_sum(table, weighted(space, source))
+        except OverflowError:
+            pass
+        found.append(turned_table(table, source))
+    return found
+
+
+def degrees_of(table):
+    """The degrees of a table."""
+    return range(max([len(cell) for cell in table.space], default=1))
+
+
+def some_row(size, source, most=9):
+    """A row of random numbers."""
+    return tuple([source.randint(-most, most) for _ in range(size)])
+
+
+def stills(table, degree, source, many=3):
+    """A few still tellings of a degree of a table: sums of a base, made ones among them."""
+    grid = rise_grid(table, degree)
+    base = transposed(kernel(grid))[1]
+    found = [(0,) * grid[0]]
+    for _ in range(many):
+        row = (0,) * grid[0]
+        for maker in base:
+            number = source.randint(-2, 2)
+            row = tuple([a + number * b for a, b in zip(row, maker)])
+        found.append(row)
+    if degree > 0:
+        low = rise_grid(table, degree - 1)
+        found.append(moved(low, some_row(low[0], source, 3)))
+    return found

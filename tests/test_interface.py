@@ -38,7 +38,37 @@ FUNCTIONS = {
         sizes(table), spots(table, degree), is_telling(table, degree, value), is_still(table, degree, value),
         rise_grid(table, degree), rise(table, degree, telling), part(table, degree, telling, cell),
         on_cells(table, degree, told), carrier(table, degree, telling), spread(table, degree, cell, row, goal)""",
+    "gluewhole.tables.wholes": """
+        whole_base(table), is_whole_base(table, value), says(table, whole, cell), board(table, points),
+        wish(table, told), extend_answer(table, told), cover_fault(table, one, other),
+        put_together(table, one, first, other, last)""",
+    "gluewhole.tables.groups": """
+        rows_of(table), is_still_row(rows, degree, value), rise_of(rows, degree, telling),
+        telling_answer(rows, degree, telling), alike_answer(rows, degree, one, other), group(rows, degree),
+        group_answer(rows, degree), are_makers(rows, degree, value)""",
+    "gluewhole.tables.readings": """
+        turned_rows(rows), fall(rows, degree, row), is_quiet(rows, degree, value), fallen_answer(rows, degree, row),
+        reading_group(rows, degree), pairing(rows, degree), is_pairing(rows, degree, value),
+        row_order(rows, degree, row), link(rows, degree, row, telling), linked_telling(rows, degree, row),
+        quiet_classes(rows, degree, m)""",
+    "gluewhole.rows.maps": """
+        is_rows_map(one, other, value), is_table_map(one, other, value), rows_map(one, other, lead),
+        led(one, other, lead, degree, telling), led_on(one, middle, other, first, last),
+        led_group(one, other, lead, degree), one_to_one_answer(one, other, lead, degree),
+        onto_answer(one, other, lead, degree), kernel_table(one, other, lead),
+        is_kernel_table(one, other, lead, value), image_table(one, other, lead),
+        is_image_table(one, other, lead, value)""",
 }
+CLASSES = {
+    "gluewhole.tables.tables": {
+        "Table": ("space, ranks, maps", ("space", "ranks", "maps"), {"led_by": "part, cell"})},
+    "gluewhole.tables.groups": {
+        "Rows": ("sizes, grids", ("sizes", "grids"), {"grid": "degree"}),
+        "Makers": (
+            "rows, degree", ("rank", "divisors", "makers", "readings"),
+            {"coordinates": "telling", "telling": "coordinates"})},
+}
+OPERATORS = {"Table": ("__eq__", "__str__"), "Rows": ("__eq__", "__len__", "__str__"), "Makers": ("__eq__", "__len__")}
 CONSTANTS = {
     "gluewhole.base.numbers": {"MAX_DIGITS": 12, "MAX_SIZE": 60},
     "gluewhole.space.spaces": {"MOST_POINT": 99, "MOST_LENGTH": 4, "MOST_CELLS": 80},
@@ -57,13 +87,20 @@ class Interface(unittest.TestCase):
                 self.assertEqual(function.__module__, path)
                 self.assertEqual(", ".join(inspect.signature(function).parameters), arguments, name)
 
-    def test_the_class_table(self):
-        table = importlib.import_module("gluewhole.tables.tables").Table
-        self.assertEqual(table.__module__, "gluewhole.tables.tables")
-        self.assertEqual(list(inspect.signature(table).parameters), ["space", "ranks", "maps"])
-        self.assertEqual(list(inspect.signature(table.led_by).parameters), ["self", "part", "cell"])
-        for name in ("space", "ranks", "maps"):
-            self.assertIsInstance(vars(table)[name], property)
+    def test_classes(self):
+        for path, told in CLASSES.items():
+            for name, (arguments, properties, methods) in told.items():
+                made = getattr(importlib.import_module(path), name)
+                self.assertTrue(inspect.isclass(made))
+                self.assertEqual(made.__module__, path)
+                self.assertEqual(", ".join(inspect.signature(made).parameters), arguments)
+                for kept in properties:
+                    self.assertIsInstance(vars(made)[kept], property)
+                for method, taken in methods.items():
+                    told_taken = list(inspect.signature(vars(made)[method]).parameters)
+                    self.assertEqual(", ".join(told_taken), "self, " + taken)
+                for method in OPERATORS[name]:
+                    self.assertIn(method, vars(made))
 
     def test_constants(self):
         for path, told in CONSTANTS.items():

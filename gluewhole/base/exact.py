@@ -12,6 +12,16 @@ def plain_dot(one, other):
     return sum([left * right for left, right in zip(one, other)])
 
 
+def row_more(one, other):
+    """The sum of two rows."""
+    return tuple([left + right for left, right in zip(one, other)])
+
+
+def row_less(one, other):
+    """The first row less the second one."""
+    return tuple([left - right for left, right in zip(one, other)])
+
+
 def plain_led(grid, row):
     """What the grid leads the row to."""
     return tuple([plain_dot(line, row) for line in grid[1]])
@@ -48,6 +58,41 @@ def plain_difference(one, other):
 def plain_multiple(grid, number):
     """The grid times an integer."""
     return plain_grid([[number * item for item in row] for row in grid[1]], grid[0])
+
+
+def plain_sum(one, other):
+    """The sum of two grids."""
+    return plain_difference(one, plain_multiple(other, -1))
+
+
+def plain_read(row, grid):
+    """What the row reads the grid to."""
+    return plain_led(plain_turned(grid), row)
+
+
+def plain_beside(one, other):
+    """The grid with the columns of both, those of the first one ahead."""
+    return plain_grid([left + right for left, right in zip(one[1], other[1])], one[0] + other[0])
+
+
+def plain_columns(grid):
+    """The columns of the grid, a tuple of rows."""
+    return plain_turned(grid)[1]
+
+
+def is_multiple(number, modulus):
+    """Whether the integer counts as 0 by the modulus; by 0 just 0 does."""
+    return number == 0 if modulus == 0 else number % modulus == 0
+
+
+def are_multiples(row, modulus):
+    """Whether all numbers of the row count as 0 by the modulus."""
+    return all([is_multiple(number, modulus) for number in row])
+
+
+def is_nought_grid(grid):
+    """Whether the grid has 0 alone."""
+    return not any([any(row) for row in grid[1]])
 
 
 def plain_unit(size):

@@ -3,11 +3,11 @@
 from math import gcd
 
 from gluewhole.base.diagonal import made_diagonal
-from gluewhole.base.exact import bar_of, bezout, plain_difference, plain_grid, plain_led, plain_product
-from gluewhole.base.exact import plain_turned, plain_unit, solved_up, stairs_and_change, stairs_of
-from gluewhole.base.exact import told_off, turned_rows_of
+from gluewhole.base.exact import are_multiples, bar_of, bezout, is_multiple, plain_difference, plain_dot, plain_grid
+from gluewhole.base.exact import plain_led, plain_product, plain_read, plain_turned, plain_unit, solved_up
+from gluewhole.base.exact import stairs_and_change, stairs_of, told_off, turned_rows_of
 from gluewhole.base.numbers import check_fit, check_grid, check_grids, check_least, check_row
-from gluewhole.base.numbers import is_long_grid, is_long_row
+from gluewhole.base.numbers import is_long_grid, is_long_integer, is_long_row
 from gluewhole.errors import InvalidGrid, InvalidRow
 
 
@@ -113,6 +113,52 @@ def kernel(grid):
     return plain_kernel(grid)
 
 
+def undone_ahead(base):
+    """The grid that times this one is the unit; the lot of its rows has to have all rows."""
+    return plain_grid(stairs_and_change(base[1], base[0])[2][:base[0]], len(base[1]))
+
+
+def undone_behind(grid):
+    """A grid that this one times it is the unit; the lot of its columns has to have all rows."""
+    return plain_turned(undone_ahead(plain_turned(grid)))
+
+
+def makes_all(grid):
+    """Whether the grid makes each row that is as long as it is high."""
+    height = len(grid[1])
+    return plain_grid(stairs_of(turned_rows_of(grid[1], grid[0]))[1], height) == plain_unit(height)
+
+
+def told_by(base, grid):
+    """The coordinates, by stairs that are turned, of the columns of a grid, as the columns of a grid."""
+    steps = plain_turned(base)[1]
+    leads = leads_of(steps)
+    columns = [told_off(leads, steps, column)[0] for column in turned_rows_of(grid[1], grid[0])]
+    return plain_turned(plain_grid(columns, base[0]))
+
+
+def columns_made(grid, wanted):
+    """The grid that this one leads to the wanted one, or (index, bar) of the first column that it bars."""
+    told = stairs_and_change(turned_rows_of(grid[1], grid[0]), len(grid[1]))
+    made, fault = made_of(told, turned_rows_of(wanted[1], wanted[0]), grid[0])
+    return (None, fault) if made is None else (plain_turned(made), None)
+
+
+def is_reading(grid, value):
+    """Whether the value is a pair (m, row) of which the row reads the grid to noughts modulo m."""
+    if not isinstance(value, tuple) or len(value) != 2:
+        return False
+    m, row = value
+    if not is_long_integer(m) or m < 0 or not is_long_row(row) or len(row) != len(grid[1]):
+        return False
+    return are_multiples(plain_read(row, grid), m)
+
+
+def is_bar(grid, row, value):
+    """Whether the value is a pair that bars the row."""
+    return is_reading(grid, value) and not is_multiple(plain_dot(value[1], row), value[0])
+
+
 def undone_above(leads, steps):
     """Integers (n, rows), n above 0: the steps, at their leads alone, times the rows are n times the unit."""
     size = len(leads)
@@ -132,8 +178,7 @@ def plain_kernel_answer(grid):
     """
     width, rows = grid
     base = plain_kernel(grid)
-    size = base[0]
-    undo = plain_grid(stairs_and_change(base[1], size)[2][:size], width)
+    undo = undone_ahead(base)
     leads, steps, change = stairs_and_change(rows, width)
     n, above = undone_above(leads, steps)
     rest = plain_difference(plain_unit(width), plain_product(base, undo))

@@ -1,7 +1,8 @@
 """Integers, rows and grids, with checks of what is passed."""
 
-from gluewhole.base.exact import bezout, plain_difference, plain_dot, plain_grid, plain_led, plain_multiple
-from gluewhole.base.exact import plain_nought, plain_product, plain_turned, plain_unit
+from gluewhole.base.exact import bezout, is_multiple, plain_beside, plain_difference, plain_dot, plain_led
+from gluewhole.base.exact import plain_multiple, plain_nought, plain_product, plain_read, plain_sum, plain_turned
+from gluewhole.base.exact import plain_unit, row_less, row_more
 from gluewhole.errors import InvalidGrid, InvalidNumber, InvalidOperation, InvalidRow, TooMany
 
 MAX_DIGITS = 12
@@ -43,6 +44,11 @@ def is_long_grid(value):
     if not is_between(width, 0, MAX_SIZE) or not isinstance(rows, tuple) or len(rows) > MAX_SIZE:
         return False
     return all([is_long_row(row) and len(row) == width for row in rows])
+
+
+def is_sized(value, width, height):
+    """Whether the value is a grid of this width and height, with integers of any length."""
+    return is_long_grid(value) and value[0] == width and len(value[1]) == height
 
 
 def is_grid(value):
@@ -108,13 +114,13 @@ def dot(one, other):
 def row_sum(one, other):
     """The sum of two rows."""
     check_rows(one, other)
-    return tuple([left + right for left, right in zip(one, other)])
+    return row_more(one, other)
 
 
 def row_difference(one, other):
     """The first row less the second one."""
     check_rows(one, other)
-    return tuple([left - right for left, right in zip(one, other)])
+    return row_less(one, other)
 
 
 def row_multiple(row, number):
@@ -129,7 +135,7 @@ def is_nought(value, modulus):
     check_least(modulus, 0)
     if not is_integer(value):
         return False
-    return value == 0 if modulus == 0 else value % modulus == 0
+    return is_multiple(value, modulus)
 
 
 def shared(one, other):
@@ -174,7 +180,7 @@ def check_like(one, other):
 def grid_sum(one, other):
     """The sum of two grids."""
     check_like(one, other)
-    return plain_difference(one, plain_multiple(other, -1))
+    return plain_sum(one, other)
 
 
 def grid_difference(one, other):
@@ -201,7 +207,7 @@ def beside(one, other):
     check_grids(one, other)
     check_fit(len(one[1]) == len(other[1]), "the grids have unlike heights")
     check_most(one[0] + other[0])
-    return plain_grid([left + right for left, right in zip(one[1], other[1])], one[0] + other[0])
+    return plain_beside(one, other)
 
 
 def over(one, other):
@@ -225,4 +231,4 @@ def read_by(row, grid):
     check_row(row)
     check_grid(grid)
     check_fit(len(row) == len(grid[1]), "the row is not as long as the grid is high")
-    return plain_led(plain_turned(grid), row)
+    return plain_read(row, grid)

@@ -28,9 +28,14 @@ def plain_size(table, degree):
     return sum([ranks[cell] for cell in plain_cells(table.space, degree)])
 
 
+def is_telling_of(table, degree, value):
+    """Whether the value is a telling of the degree, with integers of at most 12 digits."""
+    return is_row(value) and len(value) == plain_size(table, degree)
+
+
 def check_telling(table, degree, telling):
     """InvalidTelling unless the value is a telling of the degree, with integers of at most 12 digits."""
-    if not is_row(telling) or len(telling) != plain_size(table, degree):
+    if not is_telling_of(table, degree, telling):
         raise InvalidTelling("this is no telling of the degree")
 
 
