@@ -624,3 +624,49 @@ def stills(table, degree, source, many=3):
         low = rise_grid(table, degree - 1)
         found.append(moved(low, some_row(low[0], source, 3)))
     return found
+
+
+def frames_of(table, source):
+    """Random undone grids for all cells, with what undoes them."""
+    return {cell: undone_pair(rank, source, 2) for cell, rank in table.ranks.items()}
+
+
+def turned_by(table, frames):
+    """The table led by undone grids at all cells."""
+    return Table(table.space, table.ranks, {
+        (face, cell): times(times(frames[cell][0], grid), frames[face][1])
+        for (face, cell), grid in table.maps.items()})
+
+
+def random_maps(seed, many):
+    """Triples (one, other, lead) of tables and a map: multiples, framed sums, parts put in and taken out."""
+    source, found = random.Random(seed), []
+    for space in spaces(seed, many, 5):
+        one, other = weighted(space, source), weighted(space, source)
+        both = table_sum(one, other)
+        numbers = [source.choice((0, 1, 2, 3, -2)) for _ in range(2)]
+        choice = source.randrange(4)
+        if choice == 0:
+            triple = one, both, {cell: (1, ((numbers[0],), (0,))) for cell in space}
+        elif choice == 1:
+            triple = both, other, {cell: (2, ((0, numbers[1]),)) for cell in space}
+        elif choice == 2:
+            triple = both, both, {cell: (2, ((numbers[0], 0), (0, numbers[1]))) for cell in space}
+        else:
+            # From constant rank 1 the weights themselves are a map to a weighted table.
+            weights = {}
+            for cell in space:
+                faces = [cell[:at] + cell[at + 1:] for at in range(len(cell))] if len(cell) > 1 else []
+                told = [weights[face] * one.maps[(face, cell)][1][0][0] for face in faces]
+                weights[cell] = told[0] if told else None
+                if not told:
+                    weights[cell] = 60
+            agree = all([
+                weights[cell] == weights[face] * grid[1][0][0] for (face, cell), grid in one.maps.items()])
+            lead = {cell: (1, ((weights[cell] if agree else 0,),)) for cell in space}
+            triple = constant(space, 1), one, lead
+        frames = [frames_of(table, source) for table in triple[:2]]
+        tables = [turned_by(table, turns) for table, turns in zip(triple[:2], frames)]
+        lead = {cell: times(times(frames[1][cell][0], triple[2][cell]), frames[0][cell][1]) for cell in space}
+        found.append((tables[0], tables[1], lead))
+    return found

@@ -11,9 +11,9 @@ from gluewhole.tables.groups import (
 from gluewhole.tables.tables import Table, constant, table_product
 from gluewhole.tables.tellings import rise_grid, sizes
 from tests.helper import (
-    EDGE, FILLED, ODD, ONE, ROUND, TWIST, TWO, WRONG, WRONG_INTEGERS, WRONG_ROWS_OBJECTS, bars, check_judged,
-    check_wrong, closed, deep, degrees_of, holds, is_zero, known_rows, moved, nought, product_sum, random_tables, read,
-    refusal, rows_of_blocks, scaled, some_row, stills, times, transposed, undone_pair, unit)
+    EDGE, FILLED, ODD, ONE, ROUND, TWIST, TWO, WRONG, WRONG_INTEGERS, WRONG_ROWS_OBJECTS, check_judged, check_wrong,
+    closed, deep, degrees_of, holds, is_zero, known_rows, moved, nought, product_sum, random_tables, read, refusal,
+    rows_of_blocks, scaled, some_row, transposed, unit)
 
 PLAIN, BENT = rows_of(constant(ROUND, 1)), rows_of(TWIST)
 LONG = 10 ** 30

@@ -58,6 +58,25 @@ FUNCTIONS = {
         onto_answer(one, other, lead, degree), kernel_table(one, other, lead),
         is_kernel_table(one, other, lead, value), image_table(one, other, lead),
         is_image_table(one, other, lead, value)""",
+    "gluewhole.rows.long": """
+        short_fault(first, middle, last, into, onto), splits(short), is_splits(short, value),
+        raised(short, degree, telling), is_raised(short, degree, telling, value),
+        origin_of(short, word, degree, telling), is_origin(short, word, degree, telling, value), long_ranks(short)""",
+    "gluewhole.rows.halves": """
+        are_halves(space, value), common_part(table, one, other), part_on(table, sub, degree, telling),
+        put_out(table, sub, degree, part), union(table, one, other, degree, x, y),
+        glue_answer(table, one, other, degree, x, y), glued(table, one, other, degree, x, y),
+        is_glued(table, one, other, degree, x, y, value), raised(table, one, other, degree, common),
+        sides_grid(table, one, other, degree), sides_answer(table, one, other, degree, common),
+        from_common(table, one, other, degree, telling), extend_answer(table, sub, degree, part),
+        half_groups(table, one, other)""",
+    "gluewhole.keep.pairings": """
+        are_pairings(rows, value), lesser(rows, pairings), kept(rows, pairings), is_kept(rows, other, value),
+        all_pairings(rows), are_all_pairings(rows, value), kept_on(rows, middle, other, first, last),
+        kept_made(rows, other, triple, degree, telling, maker)""",
+    "gluewhole.keep.finer": """
+        finer_space(space), ladder(space, cell), last_lead(space), finer_table(table),
+        led_there(table, degree, telling), led_back(table, degree, telling), telling_step(table, degree, telling)""",
 }
 CLASSES = {
     "gluewhole.tables.tables": {
@@ -67,8 +86,12 @@ CLASSES = {
         "Makers": (
             "rows, degree", ("rank", "divisors", "makers", "readings"),
             {"coordinates": "telling", "telling": "coordinates"})},
+    "gluewhole.rows.long": {
+        "Short": ("first, middle, last, into, onto", ("first", "middle", "last", "into", "onto"), {})},
 }
-OPERATORS = {"Table": ("__eq__", "__str__"), "Rows": ("__eq__", "__len__", "__str__"), "Makers": ("__eq__", "__len__")}
+OPERATORS = {
+    "Table": ("__eq__", "__str__"), "Rows": ("__eq__", "__len__", "__str__"), "Makers": ("__eq__", "__len__"),
+    "Short": ("__eq__", "__str__")}
 CONSTANTS = {
     "gluewhole.base.numbers": {"MAX_DIGITS": 12, "MAX_SIZE": 60},
     "gluewhole.space.spaces": {"MOST_POINT": 99, "MOST_LENGTH": 4, "MOST_CELLS": 80},

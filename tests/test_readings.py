@@ -205,7 +205,8 @@ class Groups(unittest.TestCase):
             self.assertEqual(found, group(rows, degree + 1)[1] if degree + 1 < len(rows) else ())
             self.assertEqual((rank, found), group(turned_rows(rows), len(rows) - 1 - degree))
         self.assertEqual(
-            [reading_group(BLOCKS[0][0], degree) for degree in range(4)], [(1, (2, 4)), (1, (6, 12)), (1, (3,)), (0, ())])
+            [reading_group(BLOCKS[0][0], degree) for degree in range(4)],
+            [(1, (2, 4)), (1, (6, 12)), (1, (3,)), (0, ())])
         self.assertEqual([reading_group(WIDE, degree) for degree in (0, 1)], [(0, (LONG, 2 * LONG)), (0, ())])
         check_wrong(self, reading_group, (PLAIN, 1), ("rows", "degree 1"))
 
@@ -400,8 +401,8 @@ class Classes(unittest.TestCase):
     def told_number(self, rows, degree, m):
         """How many classes there are, by all rows of integers from 0 to m - 1."""
         high, quiet = rows.grid(degree), []
-        fallen = {
-            tuple([number % m for number in read(row, high)]) for row in itertools.product(range(m), repeat=len(high[1]))}
+        origins = itertools.product(range(m), repeat=len(high[1]))
+        fallen = {tuple([number % m for number in read(row, high)]) for row in origins}
         for row in itertools.product(range(m), repeat=rows.sizes[degree]):
             if all([number % m == 0 for number in read(row, rows.grid(degree - 1))]):
                 quiet.append(row)

@@ -9,13 +9,12 @@ from gluewhole.rows.maps import (
     image_table, is_image_table, is_kernel_table, is_rows_map, is_table_map, kernel_table, led, led_group, led_on,
     one_to_one_answer, onto_answer, rows_map)
 from gluewhole.tables.groups import Makers, Rows, alike_answer, group, is_still_row, rise_of, rows_of, telling_answer
-from gluewhole.tables.tables import Table, constant, inside, outside, table_sum
-from gluewhole.tables.tellings import on_cells, part, rise
+from gluewhole.tables.tables import constant, inside, outside, table_sum
+from gluewhole.tables.tellings import on_cells, part
 from tests.helper import (
-    EDGE, FILLED, LESS, ODD, ONE, ROUND, TWIST, TWO, WRONG, WRONG_INTEGERS, WRONG_ROWS_OBJECTS, WRONG_TABLES, added,
-    check_judged, check_wrong, closed, degrees_of, grow_noughts, holds, known_rows, moved, nought, random_tables,
-    refusal, rows_of_blocks, scaled, some_row, spaces, stills, times, transposed, turned_table, undone_pair, unit,
-    weighted)
+    EDGE, FILLED, LESS, ONE, ROUND, TWIST, TWO, WRONG, WRONG_INTEGERS, WRONG_TABLES, added, check_judged, check_wrong,
+    degrees_of, grow_noughts, holds, known_rows, moved, nought, random_maps, refusal, rows_of_blocks, scaled, some_row,
+    times, transposed, turned_by, undone_pair, unit)
 
 HALF, QUARTER, STEP = Rows((1, 1), (TWO,)), Rows((1, 1), ((1, ((4,),)),)), (ONE, TWO)
 PLAIN, BENT = rows_of(constant(ROUND, 1)), rows_of(TWIST)
@@ -101,8 +100,8 @@ def still_ones(rows, degree, source, many=3):
 class Examples(unittest.TestCase):
     def test_maps(self):
         self.assertEqual(
-            [is_rows_map(HALF, QUARTER, STEP), is_rows_map(HALF, QUARTER, (ONE, ONE)), led(HALF, QUARTER, STEP, 1, (3,)),
-             led_group(HALF, QUARTER, STEP, 1)],
+            [is_rows_map(HALF, QUARTER, STEP), is_rows_map(HALF, QUARTER, (ONE, ONE)),
+             led(HALF, QUARTER, STEP, 1, (3,)), led_group(HALF, QUARTER, STEP, 1)],
             [True, False, (6,), (1, ((2,),))])
 
     def test_answers(self):
@@ -255,8 +254,10 @@ class Answers(unittest.TestCase):
 
     def test_greatest_sizes(self):
         source = random.Random(112)
-        rows, _ = rows_of_blocks([(0, 2)] * 8 + [(0, 1)] * 6 + [(0, 0)] * 3 + [(1, 0)] * 4 + [(1, 4)] * 6, 3, source, 40)
-        lead = tuple([added(scaled(unit(size), 2), grid) for size, grid in zip(rows.sizes, homotopy(rows, rows, source))])
+        blocks = [(0, 2)] * 8 + [(0, 1)] * 6 + [(0, 0)] * 3 + [(1, 0)] * 4 + [(1, 4)] * 6
+        rows, _ = rows_of_blocks(blocks, 3, source, 40)
+        steps = homotopy(rows, rows, source)
+        lead = tuple([added(scaled(unit(size), 2), grid) for size, grid in zip(rows.sizes, steps)])
         for degree in range(3):
             self.assertTrue(holds(*one_to_one_answer(rows, rows, lead, degree)))
             self.assertTrue(holds(*onto_answer(rows, rows, lead, degree)))
@@ -273,45 +274,7 @@ class Answers(unittest.TestCase):
         self.assertEqual(onto_answer(rows_of(edge), rows_of(inside(edge, ((0,), (1,)))), lead, 0)[0][0], "missed")
 
 
-def random_maps(seed, many=40):
-    """Triples (one, other, lead) of tables and a map: multiples, framed sums, parts put in and taken out."""
-    source, found = random.Random(seed), [(T, T, DOUBLE), (T, T, SAME), (TWIST, TWIST, DOUBLE)]
-    for space in spaces(seed, many, 5):
-        one, other = weighted(space, source), weighted(space, source)
-        both = table_sum(one, other)
-        numbers = [source.choice((0, 1, 2, 3, -2)) for _ in range(2)]
-        choice = source.randrange(4)
-        if choice == 0:
-            triple = one, both, {cell: (1, ((numbers[0],), (0,))) for cell in space}
-        elif choice == 1:
-            triple = both, other, {cell: (2, ((0, numbers[1]),)) for cell in space}
-        elif choice == 2:
-            triple = both, both, {cell: (2, ((numbers[0], 0), (0, numbers[1]))) for cell in space}
-        else:
-            # From constant rank 1 the weights themselves are a map to a weighted table.
-            weights = {}
-            for cell in space:
-                faces = [cell[:at] + cell[at + 1:] for at in range(len(cell))] if len(cell) > 1 else []
-                told = [weights[face] * one.maps[(face, cell)][1][0][0] for face in faces]
-                weights[cell] = told[0] if told else None
-                if not told:
-                    weights[cell] = 60
-            agree = all([
-                weights[cell] == weights[face] * grid[1][0][0] for (face, cell), grid in one.maps.items()])
-            lead = {cell: (1, ((weights[cell] if agree else 0,),)) for cell in space}
-            triple = constant(space, 1), one, lead
-        frames = [{cell: undone_pair(rank, source, 2) for cell, rank in table.ranks.items()} for table in triple[:2]]
-        tables = [
-            Table(space, table.ranks, {
-                (face, cell): times(times(turns[cell][0], grid), turns[face][1])
-                for (face, cell), grid in table.maps.items()})
-            for table, turns in zip(triple[:2], frames)]
-        lead = {cell: times(times(frames[1][cell][0], triple[2][cell]), frames[0][cell][1]) for cell in space}
-        found.append((tables[0], tables[1], lead))
-    return found
-
-
-MAPS = random_maps(113)
+MAPS = [(T, T, DOUBLE), (T, T, SAME), (TWIST, TWIST, DOUBLE)] + random_maps(113, 40)
 
 
 def columns_base(grid):
@@ -369,9 +332,7 @@ class TableMaps(unittest.TestCase):
                 self.assertTrue(columns_base(into[cell]))
                 self.assertEqual(into[cell][0], plain_kernel(lead[cell])[0])
             frames = {cell: undone_pair(rank, source, 2) for cell, rank in table.ranks.items()}
-            turned = Table(one.space, table.ranks, {
-                (face, cell): times(times(frames[cell][0], grid), frames[face][1])
-                for (face, cell), grid in table.maps.items()})
+            turned = turned_by(table, frames)
             changed = {cell: times(into[cell], frames[cell][1]) for cell in one.space}
             self.assertIs(is_kernel_table(one, other, lead, (turned, changed)), True)
             if any(table.ranks.values()):
@@ -397,9 +358,7 @@ class TableMaps(unittest.TestCase):
                 self.assertEqual(times(into[cell], onto[cell]), lead[cell])
                 self.assertTrue(columns_base(into[cell]))
             frames = {cell: undone_pair(rank, source, 2) for cell, rank in table.ranks.items()}
-            turned = Table(one.space, table.ranks, {
-                (face, cell): times(times(frames[cell][0], grid), frames[face][1])
-                for (face, cell), grid in table.maps.items()})
+            turned = turned_by(table, frames)
             ahead = {cell: times(frames[cell][0], onto[cell]) for cell in one.space}
             behind = {cell: times(into[cell], frames[cell][1]) for cell in one.space}
             self.assertIs(is_image_table(one, other, lead, (turned, ahead, behind)), True)
@@ -423,7 +382,8 @@ class TableMaps(unittest.TestCase):
         check_judged(
             self, is_image_table, (T, T, DOUBLE), [(T, SAME, DOUBLE), (T, {cell: LESS for cell in ROUND}, {
                 cell: (1, ((-2,),)) for cell in ROUND})],
-            [(T, DOUBLE, SAME), (T, DOUBLE, DOUBLE), (T, SAME, SAME), (TWIST, SAME, DOUBLE), (T, SAME), (nothing, away, none)])
+            [(T, DOUBLE, SAME), (T, DOUBLE, DOUBLE), (T, SAME, SAME), (TWIST, SAME, DOUBLE), (T, SAME),
+             (nothing, away, none)])
         check_judged(self, is_image_table, (T, nothing, away), [(nothing, away, {cell: (0, ()) for cell in ROUND})])
         # The image of rank 1 in rank 2, and a pair of maps with one rank too many.
         pair = table_sum(T, T)
@@ -460,7 +420,8 @@ class Wrong(unittest.TestCase):
         for function in (led_group, one_to_one_answer, onto_answer):
             check_wrong(self, function, (HALF, QUARTER, STEP, 1), kinds[:4])
         check_wrong(self, is_rows_map, (HALF, QUARTER, None), ("rows", "rows", None))
-        check_wrong(self, led_on, (HALF, QUARTER, QUARTER, STEP, (ONE, ONE)), ("rows", "rows", "rows", "rows map", None))
+        kinds = ("rows", "rows", "rows", "rows map", None)
+        check_wrong(self, led_on, (HALF, QUARTER, QUARTER, STEP, (ONE, ONE)), kinds)
         for last in WRONG["rows map"][1]:
             if last != (ONE, ONE):
                 refusal(self, led_on, (HALF, QUARTER, QUARTER, STEP, last), InvalidMap)
@@ -480,7 +441,8 @@ class Wrong(unittest.TestCase):
 
     def test_tables(self):
         WRONG["table map"] = (InvalidMap, (
-            None, True, 0, "", (), [], {}, STEP, {**SAME, (0, 1): TWO}, {**SAME, (9,): ONE}, {cell: ONE for cell in EDGE},
+            None, True, 0, "", (), [], {}, STEP, {**SAME, (0, 1): TWO}, {**SAME, (9,): ONE},
+            {cell: ONE for cell in EDGE},
             {**SAME, (0,): None}, TWIST, tuple(SAME.items())))
         for function in (rows_map, kernel_table, image_table):
             check_wrong(self, function, (T, T, DOUBLE), ("table", "table", "table map"))

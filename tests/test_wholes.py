@@ -3,7 +3,7 @@
 import random
 import unittest
 
-from gluewhole.base.made import kernel, kernel_answer
+from gluewhole.base.made import kernel_answer
 from gluewhole.errors import InvalidCell, InvalidSpace, InvalidTable, InvalidTelling, Refused
 from gluewhole.space.spaces import pieces
 from gluewhole.tables.tables import Table, constant, restricted, table_sum
@@ -11,8 +11,8 @@ from gluewhole.tables.tellings import is_still, part, rise_grid, spots, spread
 from gluewhole.tables.wholes import (
     board, cover_fault, extend_answer, is_whole_base, put_together, says, whole_base, wish)
 from tests.helper import (
-    EDGE, FILLED, ODD, ONE, ROUND, TWIST, TWO, WRONG, WRONG_CELLS, WRONG_ROWS, WRONG_SPACES, WRONG_TABLES, bars,
-    check_judged, check_wrong, closed, holds, moved, random_tables, refusal, spaces, times, transposed, undone_pair)
+    EDGE, FILLED, ROUND, TWIST, TWO, WRONG, WRONG_ROWS, bars, check_judged, check_wrong, closed, holds, random_tables,
+    refusal, spaces, times, transposed, undone_pair)
 
 PLAIN = constant(ROUND, 1)
 LONG = 10 ** 30

@@ -201,12 +201,17 @@ def on_parts(space, cell, rank):
     return constant_at(space, plain_parts(cell), rank)
 
 
+def plain_restricted(table, sub):
+    """As restricted, without checks."""
+    ranks, maps = table.ranks, table.maps
+    return built(sub, {cell: ranks[cell] for cell in sub}, {pair: maps[pair] for pair in face_pairs(sub)})
+
+
 def restricted(table, sub):
     """The table on a sub-space, with its ranks and maps there."""
     check_table(table)
     check_sub(table, sub)
-    ranks, maps = table.ranks, table.maps
-    return built(sub, {cell: ranks[cell] for cell in sub}, {pair: maps[pair] for pair in face_pairs(sub)})
+    return plain_restricted(table, sub)
 
 
 def kept_at(table, lot):

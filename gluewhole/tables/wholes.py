@@ -4,7 +4,7 @@ from gluewhole.base.exact import plain_columns, plain_grid, plain_led, plain_uni
 from gluewhole.base.made import makes_all, plain_kernel, plain_made_answer, told_by
 from gluewhole.errors import InvalidCell, InvalidSpace, InvalidTelling, Refused
 from gluewhole.space.spaces import check_cell_of, is_lot, plain_cells, plain_is_sub
-from gluewhole.tables.tables import check_table, restricted
+from gluewhole.tables.tables import check_table, plain_restricted
 from gluewhole.tables.tellings import is_long_telling, is_telling_of, is_told, plain_rise_grid, plain_size, plain_spots
 
 
@@ -113,7 +113,7 @@ def cover_fault(table, one, other):
 
 def said(table, sub, whole):
     """The dict from the points of a sub-space to what a whole of the table on it says there."""
-    spots = plain_spots(restricted(table, sub), 0)
+    spots = plain_spots(plain_restricted(table, sub), 0)
     return {point: whole[begin:end] for point, (begin, end) in spots.items()}
 
 
@@ -121,9 +121,9 @@ def put_together(table, one, first, other, last):
     """The whole that says on two sub-spaces, which cover the space, what a whole of each one says."""
     check_table(table)
     check_sub_space(table, one)
-    check_whole(restricted(table, one), first)
+    check_whole(plain_restricted(table, one), first)
     check_sub_space(table, other)
-    check_whole(restricted(table, other), last)
+    check_whole(plain_restricted(table, other), last)
     bare = plain_cover_fault(table.space, one, other)
     if bare is not None:
         raise Refused(("bare", bare))

@@ -1,0 +1,1 @@
+"""What keeps all groups: pairings that are taken out, and finer spaces."""
