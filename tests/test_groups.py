@@ -101,6 +101,9 @@ class BareRows(unittest.TestCase):
                 TWIST, (TWIST,), (PLAIN,), deep(1)):
             refusal(self, Rows, ((1, 1), grids), InvalidRows)
         refusal(self, Rows, ((1, 1, 1), (ONE, TWO)), InvalidRows)
+        refusal(self, Rows, ((1,) * 6, (nought(1, 1),) * 5), InvalidRows)
+        for told in ((-1,), (31,), (True,), (None,)):
+            refusal(self, Rows, (told, ()), InvalidRows)
         refusal(self, Rows, ((1, 1, 1, 1), (ONE, (1, ((0,),)), ONE, ONE)), InvalidRows)
         refusal(self, Rows, ((1, 2, 1), ((1, ((1,), (1,))), (2, ((1, 1),)))), InvalidRows)
         Rows((1, 2, 1), ((1, ((1,), (1,))), (2, ((1, -1),))))
@@ -119,6 +122,7 @@ class BareRows(unittest.TestCase):
         self.assertFalse(PLAIN == BENT)
         self.assertFalse(PLAIN != rows_of(constant(ROUND, 1)))
         self.assertFalse(Rows((0, 0), ((0, ()),)) == Rows((0,), ()))
+        self.assertFalse(Rows((3,), ()) == Rows((2,), ()))
         for value in ODD + (PLAIN.sizes, Makers(PLAIN, 0), (PLAIN.sizes, PLAIN.grids)):
             self.assertFalse(PLAIN == value)
             self.assertFalse(value == PLAIN)

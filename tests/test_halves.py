@@ -468,6 +468,7 @@ class Wrong(unittest.TestCase):
             ("table", "halves", "halves", "only 1", "whole"))
         points = constant(((0,), (1,)), 1)
         self.assertEqual(refusal(self, from_common, (points, ((0,), (1,)), (), 0, None), InvalidNumber).given, 0)
+        self.assertEqual(refusal(self, from_common, (points, ((0,), (1,)), (), 1, ()), InvalidNumber).given, 1)
         self.assertEqual(refusal(self, from_common, (constant((), 1), (), (), 0, ()), InvalidNumber).given, 0)
 
     def test_what_is_not_still(self):

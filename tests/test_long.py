@@ -249,6 +249,8 @@ class ShortRows(unittest.TestCase):
     def test_equal_ones(self):
         self.assertFalse(S == Short(FIRST, T, LAST, {**INTO, (0, 1): LESS}, ONTO))
         self.assertFalse(S == Short(FIRST, T, LAST, INTO, {**ONTO, (0,): LESS, (1,): LESS}))
+        steep = Table(EDGE, T.ranks, {pair: TWO for pair in T.maps})
+        self.assertFalse(S == Short(FIRST, steep, LAST, INTO, ONTO))
         for value in ODD + (T, (FIRST, T, LAST, INTO, ONTO)):
             self.assertFalse(S == value)
             self.assertFalse(value == S)
@@ -306,6 +308,12 @@ class Splits(unittest.TestCase):
             [{**told, (0, 1): ((1, ((True,),)), (0, ((),)))}, {**told, (9,): told[(0,)]}, tuple(told.items()),
              {**told, (0,): None}, {**told, (0,): ((1, ()),)}, {**told, (0,): ((1, ()), ONE, ONE)},
              {**told, (0,): ((1, ()), TWO)}, {**told, (0,): (ONE, ONE)}, {(0,): told[(0,)]}, {**told, 0: told[(0,)]}])
+        for worse in (None, (), 0, ONE[1], (0, ()), (0, ((), ())), (1, ((0,),)), (1, ())):
+            self.assertIs(is_splits(S, {**told, (0, 1): (told[(0, 1)][0], worse)}), False)
+        for worse in (None, (), 0, ONE[1], ONE, (1, ((0,),)), (0, ()), (2, ())):
+            self.assertIs(is_splits(S, {**told, (0,): (worse, told[(0,)][1])}), False)
+        for worse in (None, (), 0, TWO, (1, ((1,), (0,))), (1, ((1,), (1,))), (2, ((1, 0),))):
+            self.assertIs(is_splits(S, {**told, (0,): (told[(0,)][0], worse)}), False)
         check_wrong_short(self, splits, ())
         check_wrong_short(self, is_splits, (None,))
         pair = Short(T, table_sum(T, T), T, {c: (1, ((1,), (0,))) for c in EDGE}, {c: (2, ((0, 1),)) for c in EDGE})
@@ -433,6 +441,17 @@ class Origins(unittest.TestCase):
         self.assertIs(is_origin(S, "middle", 0, (0, 0), ("from", (), ())), True)
         check_judged(self, is_origin, (S, "last", 0, (4, 4)), [("from", (4, 4), ())], [
             ("from", (4, 5), ()), ("from", (4, 4), (0,)), ("from", (4, 4)), ["from", (4, 4), ()], ("to", (4, 4), ())])
+
+    def test_odd_values(self):
+        for word, degree, telling in (
+                ("first", 0, ()), ("first", 1, (7,)), ("middle", 0, (4, 4)), ("middle", 1, (7,)), ("last", 0, (4, 4)),
+                ("last", 0, (3, 5)), ("last", 1, ())):
+            for kind in ("from", "to", None, 0):
+                for rest in ((), (None,), (None,) * 2, (None,) * 3, (None,) * 4, (0,) * 5, ((),), ((), ()), ((2,),)):
+                    if (kind, rest) != ("from", ((), ())):
+                        self.assertIs(is_origin(S, word, degree, telling, (kind,) + rest), False)
+            for value in ODD:
+                self.assertIs(is_origin(S, word, degree, telling, value), False)
 
     def test_greatest_degree(self):
         self.assertEqual(origin_of(S, "last", 1, ()), ("from", (0,), (0, 0)))

@@ -285,6 +285,8 @@ class Kept(unittest.TestCase):
             self, is_kept, (Rows((1, 1), (ONE,)), none), [(away, out, (ONE,))],
             [(away, out, (TWO,)), (away, out, ())])
         check_judged(self, is_kept, (HALF, none), [], [(away, out, (ONE,))])
+        # There behind back has to give the unit, not the other way round alone.
+        check_judged(self, is_kept, (none, zero), [], [(out, away, ((0, ()),))])
 
     def test_near_ones(self):
         source, wrong = random.Random(7), 0
@@ -369,6 +371,9 @@ class Made(unittest.TestCase):
             refusal(self, kept_made, (PLAIN, other, (THERE, BACK, STEPS), 0, (0, 0, 0), maker), InvalidTelling)
         refusal(self, kept_made, (PLAIN, other, (THERE, BACK, STEPS), 0, (1, 2, 3), ()), InvalidOperation)
         refusal(self, kept_made, (PLAIN, other, (THERE, BACK, STEPS), 0, (1, 1, 1), ()), InvalidOperation)
+        # What is not still can be led to what is made.
+        self.assertEqual(moved(THERE[0], (1, 0, 0)), (0, 0))
+        refusal(self, kept_made, (PLAIN, other, (THERE, BACK, STEPS), 0, (1, 0, 0), ()), InvalidOperation)
         refusal(self, kept_made, (PLAIN, other, (THERE, BACK, STEPS), 1, (2, 4, 2), (0, 3)), InvalidOperation)
         filled = rows_of(constant(FILLED, 1))
         same = kept(filled, ())

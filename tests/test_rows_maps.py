@@ -392,9 +392,31 @@ class TableMaps(unittest.TestCase):
             self, is_image_table, (T, pair, both), [(T, SAME, both)],
             [(T, DOUBLE, {cell: (1, ((1,), (2,))) for cell in ROUND}),
              (pair, {cell: (1, ((1,), (2,))) for cell in ROUND}, {cell: (2, ((2, 0), (0, 2))) for cell in ROUND})])
-        other = constant(FILLED, 1)
-        self.assertIs(is_kernel_table(T, T, DOUBLE, (constant(FILLED, 0), none)), False)
-        self.assertIs(is_image_table(T, T, SAME, (other, SAME, SAME)), False)
+        # More columns than a base has; columns that are not led to noughts.
+        wide, ahead = {cell: (2, ((1, 0),)) for cell in ROUND}, {cell: (2, ((1, 0),)) for cell in ROUND}
+        self.assertIs(is_kernel_table(T, nothing, away, (pair, wide)), False)
+        check_judged(
+            self, is_kernel_table, (pair, T, ahead), [(T, {cell: (1, ((0,), (-1,))) for cell in ROUND})],
+            [(T, {cell: (1, ((1,), (1,))) for cell in ROUND}), (T, {cell: (1, ((0,), (2,))) for cell in ROUND}),
+             (pair, {cell: (2, ((0, 0), (1, 1))) for cell in ROUND})])
+        # Onto the whole of a table that leads more than noughts to noughts.
+        same = {cell: unit(2) for cell in ROUND}
+        check_judged(self, is_image_table, (pair, T, ahead), [(T, ahead, SAME)], [(pair, same, ahead)])
+        # Tables on other spaces, and values that are no maps.
+        for space in (FILLED, EDGE):
+            told = {cell: ONE for cell in space}
+            self.assertIs(is_kernel_table(T, T, DOUBLE, (constant(space, 0), none)), False)
+            self.assertIs(is_kernel_table(T, T, DOUBLE, (constant(space, 0), {c: (0, ((),)) for c in space})), False)
+            self.assertIs(is_kernel_table(T, nothing, away, (constant(space, 1), told)), False)
+            for value in ((constant(space, 1), SAME, SAME), (constant(space, 1), told, told)):
+                self.assertIs(is_image_table(T, T, SAME, value), False)
+        for worse in (None, (), {}, 0, {**SAME, (9,): ONE}, {**SAME, (0,): None}, {**SAME, (0,): TWO}, tuple(SAME)):
+            self.assertIs(is_image_table(T, T, SAME, (T, worse, SAME)), False)
+            self.assertIs(is_image_table(T, T, SAME, (T, SAME, worse)), False)
+            self.assertIs(is_kernel_table(T, nothing, away, (T, worse)), False)
+        for worse in (None, (), 0, ROUND, PLAIN):
+            self.assertIs(is_image_table(T, T, SAME, (worse, SAME, SAME)), False)
+            self.assertIs(is_kernel_table(T, nothing, away, (worse, SAME)), False)
         self.assertIs(is_kernel_table(constant((), 1), constant((), 2), {}, (constant((), 0), {})), True)
         self.assertIs(is_image_table(constant((), 1), constant((), 2), {}, (constant((), 0), {}, {})), True)
 

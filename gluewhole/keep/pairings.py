@@ -84,9 +84,9 @@ def lesser(rows, pairings):
     """The rows that pairings leave."""
     check_pairings(rows, pairings)
     sizes = list(rows.sizes)
-    for degree, _, _ in pairings:
-        sizes[degree] -= 1
-        sizes[degree + 1] -= 1
+    for pairing in pairings:
+        sizes[pairing[0]] -= 1
+        sizes[pairing[0] + 1] -= 1
     return Rows(tuple(sizes), left_grids(rows.grids, pairings))
 
 

@@ -308,7 +308,7 @@ def is_origin_of_last(short, degree, telling, value):
 def is_origin(short, word, degree, telling, value):
     """Whether the value is an answer for a still telling of the table that a word names."""
     check_word_telling(short, word, degree, telling)
-    if not isinstance(value, tuple) or not value:
+    if not isinstance(value, tuple):
         return False
     if word == "first":
         return is_origin_of_first(short, degree, telling, value)
