@@ -265,6 +265,14 @@ class Gluing(unittest.TestCase):
             near = telling[:at] + (telling[at] + 1,) + telling[at + 1:], left, right
             self.assertIs(is_glued(table, one, other, degree, x, y, near), False)
 
+    def test_bars(self):
+        for table, m in ((TWIST, 2), (T, 0)):
+            claim, paper = glue_answer(table, ROUND, ROUND, 1, (1, 0, 0), (0, 0, 0))
+            self.assertEqual((claim[0], paper[0]), ("barred", m))
+            self.assertTrue(holds(claim, paper))
+            self.assertIsNone(glued(table, ROUND, ROUND, 1, (1, 0, 0), (0, 0, 0)))
+        self.assertIsNotNone(glued(TWIST, ROUND, ROUND, 1, (2, 0, 0), (0, 0, 0)))
+
     def test_judging(self):
         check_judged(
             self, is_glued, (T, LONG_PART, SHORT_PART, 0, (5, 5, 5), (5, 5)), [((5, 5, 5), (), ())],

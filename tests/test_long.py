@@ -12,9 +12,9 @@ from gluewhole.tables.groups import Makers, group, rows_of, telling_answer
 from gluewhole.tables.tables import Table, constant, inside, outside, table_sum
 from gluewhole.tables.tellings import rise_grid, sizes
 from tests.helper import (
-    EDGE, LESS, ODD, ONE, ROUND, TWIST, TWO, WRONG, WRONG_INTEGERS, added, are_numbers, bars, check_judged, check_wrong,
-    closed, degrees_of, exact_holds, frames_of, is_zero, moved, nought, random_maps, refusal, scaled, some_row, spaces,
-    stills, times, turned_by, unit, weighted)
+    EDGE, FILLED, LESS, ODD, ONE, ROUND, TWIST, TWO, WRONG, WRONG_INTEGERS, added, are_numbers, bars, check_judged,
+    check_wrong, closed, degrees_of, exact_holds, frames_of, is_zero, moved, nought, random_maps, refusal, scaled,
+    some_row, spaces, stills, times, turned_by, unit, weighted)
 
 ENDS = ((0,), (1,))
 T = constant(EDGE, 1)
@@ -24,6 +24,7 @@ FIRST, LAST = outside(T, ENDS), inside(T, ENDS)
 S = Short(FIRST, T, LAST, INTO, ONTO)
 SAME = {cell: ONE for cell in EDGE}
 LONG = 10 ** 30
+PATH = ((0,), (1,), (2,), (0, 1), (1, 2))
 
 
 def extensions(seed, many):
@@ -63,6 +64,18 @@ def turned_short(short, source):
     return tables[0], tables[1], tables[2], into, onto
 
 
+def parted_triangle(sub):
+    """A triangle with divisors, parted by a sub-space: twice the stretch (0, 2) comes to each triangle number."""
+    weights = {cell: 1 for cell in FILLED}
+    weights[(0, 1)] = weights[(1, 2)] = weights[(0, 1, 2)] = 2
+    pairs = [(face, cell) for cell in FILLED for face in FILLED if len(face) == len(cell) - 1 and set(face) < set(cell)]
+    table = Table(FILLED, {cell: 1 for cell in FILLED}, {
+        (face, cell): (1, ((weights[cell] // weights[face],),)) for face, cell in pairs})
+    into = {cell: nought(1, 0) if cell in sub else ONE for cell in FILLED}
+    onto = {cell: ONE if cell in sub else nought(0, 1) for cell in FILLED}
+    return outside(table, sub), table, inside(table, sub), into, onto
+
+
 def all_shorts():
     """Short exact rows of many kinds."""
     source, found = random.Random(120), [(FIRST, T, LAST, INTO, ONTO)]
@@ -72,6 +85,7 @@ def all_shorts():
         into = {cell: nought(1, 0) if cell in sub else ONE for cell in space}
         onto = {cell: ONE if cell in sub else nought(0, 1) for cell in space}
         found.append((outside(table, sub), table, inside(table, sub), into, onto))
+    found += [parted_triangle(sub) for sub in (ROUND, PATH, ((0,), (1,), (2,)), ())]
     for one, other, lead in random_maps(122, 25):
         below, into = kernel_table(one, other, lead)
         image, onto, _ = image_table(one, other, lead)
@@ -441,6 +455,18 @@ class Origins(unittest.TestCase):
         self.assertIs(is_origin(S, "middle", 0, (0, 0), ("from", (), ())), True)
         check_judged(self, is_origin, (S, "last", 0, (4, 4)), [("from", (4, 4), ())], [
             ("from", (4, 5), ()), ("from", (4, 4), (0,)), ("from", (4, 4)), ["from", (4, 4), ()], ("to", (4, 4), ())])
+
+    def test_a_triangle(self):
+        short = Short(*parted_triangle(PATH))
+        self.assertEqual(group(rows_of(short.first), 2), (0, (2,)))
+        value = origin_of(short, "last", 1, (1, 0))
+        self.assertEqual((value[0], value[3] % 2), ("to", 0))
+        self.assertTrue(is_origin_told(short, "last", 1, (1, 0), value))
+        self.assertEqual(origin_of(short, "last", 1, (1, 1))[0], "from")
+        whole = Short(*parted_triangle(ROUND))
+        value = origin_of(whole, "last", 1, (1, 0, 0))
+        self.assertEqual((value[0], value[3]), ("to", 0))
+        self.assertTrue(is_origin_told(whole, "last", 1, (1, 0, 0), value))
 
     def test_odd_values(self):
         for word, degree, telling in (

@@ -146,7 +146,10 @@ def closed_by(lot, cell):
 
 
 def closing(rungs):
-    """The pairs of ladders and numbers that tell the step at a ladder."""
+    """The pairs of ladders and numbers that tell the step at a ladder.
+
+    The border of what is closed is 0: so what comes by closing it by one cell has it as its border.
+    """
     lot, ends = [(rungs, 1)], ends_of(rungs)
     if ends is not None:
         lot.extend([(full, -sign) for sign, full in full_ladders(ends)])
