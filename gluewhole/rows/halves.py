@@ -7,8 +7,8 @@ from gluewhole.errors import Refused
 from gluewhole.space.spaces import check_space, plain_cells, plain_degree, plain_is_sub
 from gluewhole.tables.groups import plain_group
 from gluewhole.tables.tables import check_sub, check_table, plain_restricted
-from gluewhole.tables.tellings import check_degree, check_telling, is_long_telling, plain_rise_grid, plain_size
-from gluewhole.tables.tellings import plain_spots
+from gluewhole.tables.tellings import check_degree, check_telling, is_long_still, is_long_telling, plain_rise_grid
+from gluewhole.tables.tellings import plain_size, plain_spots
 
 
 def plain_are_halves(space, value):
@@ -189,11 +189,9 @@ def is_glued_part(table, sub, degree, telling, part, more):
 def is_glued(table, one, other, degree, x, y, value):
     """Whether the value is a still telling glued of two, with the tellings whose rises come to them."""
     check_still_parts(table, one, other, degree, x, y)
-    if not isinstance(value, tuple) or len(value) != 3 or not is_long_telling(table, degree, value[0]):
+    if not isinstance(value, tuple) or len(value) != 3 or not is_long_still(table, degree, value[0]):
         return False
     telling, left, right = value
-    if any(plain_led(plain_rise_grid(table, degree), telling)):
-        return False
     ahead = is_glued_part(table, one, degree, telling, x, left)
     return ahead and is_glued_part(table, other, degree, telling, y, right)
 

@@ -8,7 +8,7 @@ from gluewhole.rows.maps import base_of_columns, check_table_map, is_one_to_one,
 from gluewhole.space.spaces import plain_degree
 from gluewhole.tables.groups import plain_group
 from gluewhole.tables.tables import are_just, ascending, check_table
-from gluewhole.tables.tellings import check_telling, is_long_telling, plain_rise_grid, plain_size
+from gluewhole.tables.tellings import check_telling, is_long_still, is_long_telling, plain_rise_grid, plain_size
 
 
 def short_word(into, onto):
@@ -90,20 +90,10 @@ def check_short_degree(short, degree):
     check_between(degree, 0, max(plain_degree(short.first.space), 0))
 
 
-def is_plain_still(table, degree, telling):
-    """Whether a telling of any degree is still."""
-    return not any(plain_led(plain_rise_grid(table, degree), telling))
-
-
-def is_still_one(table, degree, value):
-    """Whether the value is a still telling of any degree, with integers of any length."""
-    return is_long_telling(table, degree, value) and is_plain_still(table, degree, value)
-
-
 def check_still(table, degree, telling):
     """InvalidTelling unless the value is a telling of the degree; then InvalidOperation unless it is still."""
     check_telling(table, degree, telling)
-    check_fit(is_plain_still(table, degree, telling), "the telling is not still")
+    check_fit(is_long_still(table, degree, telling), "the telling is not still")
 
 
 def split_at(into, onto):
@@ -272,7 +262,7 @@ def is_origin_of_first(short, degree, telling, value):
     if len(value) != 4 or value[0] != "from":
         return False
     low, origin, further = value[1:]
-    if not is_still_one(short.last, degree - 1, low) or not is_long_telling(short.first, degree - 1, further):
+    if not is_long_still(short.last, degree - 1, low) or not is_long_telling(short.first, degree - 1, further):
         return False
     rest = row_less(telling, rise_in(short.first, degree - 1, further))
     return is_raised_by(short, degree - 1, low, rest, origin)
@@ -285,7 +275,7 @@ def is_origin_of_middle(short, degree, telling, value):
     if value[0] == "to":
         return is_bar(plain_rise_grid(short.last, degree - 1), led_onto(short, degree, telling), value[1:])
     low, further = value[1:]
-    if value[0] != "from" or not is_still_one(short.first, degree, low):
+    if value[0] != "from" or not is_long_still(short.first, degree, low):
         return False
     if not is_long_telling(short.middle, degree - 1, further):
         return False
@@ -300,7 +290,7 @@ def is_origin_of_last(short, degree, telling, value):
     if len(value) != 3 or value[0] != "from":
         return False
     low, further = value[1:]
-    if not is_still_one(short.middle, degree, low) or not is_long_telling(short.last, degree - 1, further):
+    if not is_long_still(short.middle, degree, low) or not is_long_telling(short.last, degree - 1, further):
         return False
     return row_less(telling, rise_in(short.last, degree - 1, further)) == led_onto(short, degree, low)
 

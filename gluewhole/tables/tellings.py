@@ -84,10 +84,15 @@ def is_telling(table, degree, value):
     return is_long_telling(table, degree, value)
 
 
+def is_long_still(table, degree, value):
+    """Whether the value is a still telling of any degree, with integers of any length."""
+    return is_long_telling(table, degree, value) and not any(plain_led(plain_rise_grid(table, degree), value))
+
+
 def is_still(table, degree, value):
     """Whether the value is a telling of the degree whose rise has noughts alone."""
     check_degree(table, degree)
-    return is_long_telling(table, degree, value) and not any(plain_led(plain_rise_grid(table, degree), value))
+    return is_long_still(table, degree, value)
 
 
 def rise_grid(table, degree):

@@ -5,17 +5,12 @@ from gluewhole.base.made import makes_all, plain_kernel, plain_made_answer, told
 from gluewhole.errors import InvalidCell, InvalidSpace, InvalidTelling, Refused
 from gluewhole.space.spaces import check_cell_of, is_lot, plain_cells, plain_is_sub
 from gluewhole.tables.tables import check_table, plain_restricted
-from gluewhole.tables.tellings import is_long_telling, is_telling_of, is_told, plain_rise_grid, plain_size, plain_spots
-
-
-def is_long_whole(table, value):
-    """Whether the value is a whole, with integers of any length."""
-    return is_long_telling(table, 0, value) and not any(plain_led(plain_rise_grid(table, 0), value))
+from gluewhole.tables.tellings import is_long_still, is_telling_of, is_told, plain_rise_grid, plain_size, plain_spots
 
 
 def check_whole(table, value):
     """InvalidTelling unless the value is a whole with integers of at most 12 digits."""
-    if not is_telling_of(table, 0, value) or not is_long_whole(table, value):
+    if not is_telling_of(table, 0, value) or not is_long_still(table, 0, value):
         raise InvalidTelling("this is no whole of the table")
 
 
@@ -40,7 +35,7 @@ def whole_base(table):
 def is_whole_base(table, value):
     """Whether the value is a base of the wholes."""
     check_table(table)
-    if not isinstance(value, tuple) or not all([is_long_whole(table, whole) for whole in value]):
+    if not isinstance(value, tuple) or not all([is_long_still(table, 0, whole) for whole in value]):
         return False
     base = plain_kernel(plain_rise_grid(table, 0))
     if len(value) != base[0]:
