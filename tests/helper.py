@@ -1,5 +1,6 @@
 """What the tests share: papers checked by sums and products alone, and values that are wrong."""
 
+import fractions
 import itertools
 import math
 import random
@@ -450,9 +451,135 @@ def lesser_holds(sizes, grids, others, more, paper):
     return True
 
 
+def turn_between(one, other):
+    """The turn of two neighbours, 0 for other cells."""
+    signs = dict([(face, sign) for sign, face in told_faces(other)])
+    turns = [-sign * signs[face] for sign, face in told_faces(one) if face in signs]
+    return turns[0] if len(turns) == 1 else 0
+
+
+def sides_hold(kind, cells, paper):
+    """Whether the paper is sides of the cells, or a row of neighbours that turns round."""
+    turns = [[turn_between(one, other) for other in cells] for one in cells]
+    places = range(len(cells))
+    if kind == "two sides":
+        fit = are_numbers(paper, len(cells)) and all([side in (1, -1) for side in paper])
+        return fit and all([
+            turns[one][other] == 0 or paper[one] == turns[one][other] * paper[other]
+            for one in places for other in places])
+    if type(paper) is not tuple or not paper or paper[0] != paper[-1]:
+        return False
+    if not all([is_whole(at) and at in places for at in paper]):
+        return False
+    return math.prod([turns[one][other] for one, other in zip(paper, paper[1:])]) == -1
+
+
+def seat_parts(sizes, row):
+    """The parts of a telling at all indices."""
+    assert sum(sizes) == len(row)
+    ends = list(itertools.accumulate(sizes, initial=0))
+    return [row[begin:end] for begin, end in zip(ends, ends[1:])]
+
+
+def unlike_seats(sizes, one, other):
+    """The seats at which two tellings differ."""
+    pairs = zip(seat_parts(sizes, one), seat_parts(sizes, other))
+    return tuple([at for at, (left, right) in enumerate(pairs) if left != right])
+
+
+def all_lots(sizes, n):
+    """The lots of n seats, or the one with all."""
+    seats = [at for at, size in enumerate(sizes) if size]
+    return list(itertools.combinations(seats, min(n, len(seats))))
+
+
+def lot_columns(sizes, grid, lot):
+    """The columns of the grid at a lot."""
+    marks = [at for at, size in enumerate(sizes) for _ in range(size)]
+    kept = [place for place, at in enumerate(marks) if at in lot]
+    return len(kept), tuple([tuple([row[place] for place in kept]) for row in grid[1]])
+
+
+def is_led_to_noughts(grid, row):
+    """Whether this is a row of integers that the grid leads to noughts."""
+    return are_numbers(row, grid[0]) and not any(moved(grid, row))
+
+
+def held_holds(sizes, grid, lot, paper):
+    """Whether the pair shows that no whole but 0 lives on the lot."""
+    n, back = paper
+    columns = lot_columns(sizes, grid, lot)
+    fit = is_whole(n) and n > 0 and is_shaped(back, columns[0], len(grid[1]))
+    return fit and times(back, columns) == scaled(unit(columns[0]), n)
+
+
+def seats_hold(claim, paper):
+    """Whether the paper shows what a claim of stage 17 says."""
+    kind, sizes, grid = claim[:3]
+    if kind == "held":
+        return held_holds(sizes, grid, claim[3], paper)
+    if kind == "loose":
+        return is_led_to_noughts(grid, paper) and any(paper) and all([
+            at in claim[3] for at in unlike_seats(sizes, paper, (0,) * grid[0])])
+    if kind == "safe":
+        lots = all_lots(sizes, 2 * claim[3])
+        return len(lots) == len(paper) and all([held_holds(sizes, grid, lot, one) for lot, one in zip(lots, paper)])
+    if kind == "confused":
+        one, other, telling = paper
+        fit = is_led_to_noughts(grid, one) and is_led_to_noughts(grid, other) and one != other
+        fit = fit and are_numbers(telling, grid[0])
+        return fit and all([len(unlike_seats(sizes, some, telling)) <= claim[3] for some in (one, other)])
+    if kind == "near":
+        return is_led_to_noughts(grid, paper) and len(unlike_seats(sizes, paper, claim[3])) <= claim[4]
+    lots, rise = all_lots(sizes, claim[4]), moved(grid, claim[3])
+    return kind == "far" and len(lots) == len(paper) and all([
+        bars(lot_columns(sizes, grid, lot), rise, pair) for lot, pair in zip(lots, paper)])
+
+
+def as_fractions(row):
+    """A fraction row as Python's fractions, each pair being in lowest terms."""
+    assert type(row) is tuple
+    for pair in row:
+        assert are_numbers(pair, 2) and pair[1] > 0 and math.gcd(*pair) == 1
+    return tuple([fractions.Fraction(*pair) for pair in row])
+
+
+def as_pairs(row):
+    """Python's fractions as a fraction row."""
+    return tuple([(number.numerator, number.denominator) for number in row])
+
+
+def less_of(one, other):
+    """The first row less the second one."""
+    assert len(one) == len(other)
+    return tuple([left - right for left, right in zip(one, other)])
+
+
+def nearest_hold(claim, paper):
+    """Whether the paper shows what a claim of stage 18 says."""
+    kind, grid = claim[:2]
+    if kind == "nearest made":
+        row, near, origin = [as_fractions(one) for one in claim[2:] + (paper,)]
+        return moved(grid, origin) == near and not any(read(less_of(row, near), grid))
+    if kind == "nearest still":
+        row, near, reader = [as_fractions(one) for one in claim[2:] + (paper,)]
+        return not any(moved(grid, near)) and read(reader, grid) == less_of(row, near)
+    other = claim[2]
+    row, made, rest, turned, origin, reader = [as_fractions(one) for one in claim[3:] + paper]
+    fit = kind == "parted" and grow_noughts(other, grid) and less_of(less_of(row, made), turned) == rest
+    fit = fit and not any(moved(other, rest)) and not any(read(rest, grid))
+    return fit and moved(grid, origin) == made and read(reader, other) == turned
+
+
 def holds(claim, paper):
     """Whether the paper shows that the claim is true, by sums and products alone."""
     kind, grid = claim[0], claim[1]
+    if kind in ("two sides", "one side"):
+        return sides_hold(kind, grid, paper)
+    if kind in ("held", "loose", "safe", "confused", "near", "far"):
+        return seats_hold(claim, paper)
+    if kind in ("nearest made", "nearest still", "parted"):
+        return nearest_hold(claim, paper)
     if kind == "group":
         return group_holds(*claim[1:], paper)
     if kind in ("one to one", "lost", "onto", "missed"):

@@ -38,6 +38,11 @@ def plain_faces(cell):
     return tuple([(-1 if at % 2 == 1 else 1, cell[:at] + cell[at + 1:]) for at in range(len(cell))])
 
 
+def ascending_faces(cell):
+    """The list of the faces, ascending."""
+    return sorted([face for _, face in plain_faces(cell)])
+
+
 def plain_parts(cell):
     """All parts of a cell, ascending as in a space."""
     found = [()]
@@ -272,7 +277,10 @@ def neighbours(space):
 
 
 def paths_from(space, point):
-    """A dict from each point to which a path leads to a shortest one."""
+    """A dict from each point to which a path leads to the least one of those with the fewest points.
+
+    Points are reached in the sequence of these paths, as each one's neighbours ascend: so the first path to one is it.
+    """
     near, found, reached = neighbours(space), {point: (point,)}, [point]
     while reached:
         further = []
@@ -301,13 +309,18 @@ def hang_answer(space, one, other):
     return "side", tuple(sorted(found))
 
 
-def is_path(space, one, other, value):
-    """Whether the value is a path from a point to another one."""
-    check_ends(space, one, other)
+def plain_is_path(space, value):
+    """Whether the value is a path from any point of a space to any one."""
     if not isinstance(value, tuple) or value == () or not all([is_point(point) for point in value]):
         return False
     steps = [tuple(sorted(step)) for step in zip(value, value[1:])]
-    return value[0] == one and value[-1] == other and all([step in space for step in steps])
+    return value[:1] in space and all([step in space for step in steps])
+
+
+def is_path(space, one, other, value):
+    """Whether the value is a path from a point to another one."""
+    check_ends(space, one, other)
+    return plain_is_path(space, value) and value[0] == one and value[-1] == other
 
 
 def is_side(space, one, other, value):

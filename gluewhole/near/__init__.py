@@ -1,0 +1,1 @@
+"""What is near to what is told: false points, nearest rows, and talks."""

@@ -1,0 +1,134 @@
+"""False points: wholes that live on few seats, and tellings that differ from a whole at few seats."""
+
+from gluewhole.base.exact import plain_led, plain_turned, plain_unit, stairs_of
+from gluewhole.base.made import plain_kernel, plain_made_answer
+from gluewhole.base.numbers import check_between, check_fit
+from gluewhole.base.quotients import solved
+from gluewhole.errors import TooMany
+from gluewhole.near.lots import columns_at, differing_seats, is_lot_of, lots_number, lots_of, places_of, seats_of
+from gluewhole.space.spaces import MOST_CELLS, plain_cells
+from gluewhole.tables.tables import check_table
+from gluewhole.tables.tellings import check_telling, plain_rise_grid
+
+MOST_LOTS = 2000
+
+
+def point_sizes(table):
+    """The ranks of the points of a table, ascending."""
+    ranks = table.ranks
+    return tuple([ranks[cell] for cell in plain_cells(table.space, 0)])
+
+
+def checked_lots(sizes, n):
+    """The lots of n seats, or TooMany(2000)."""
+    if lots_number(sizes, n) > MOST_LOTS:
+        raise TooMany(MOST_LOTS)
+    return lots_of(sizes, n)
+
+
+def seats(table):
+    """The ascending tuple of the seats."""
+    check_table(table)
+    return seats_of(point_sizes(table))
+
+
+def undone_columns(grid):
+    """A pair (n, G), n above 0, of which G times the grid is n times the unit, None if there is none."""
+    found = solved(plain_turned(grid), plain_unit(grid[0]))
+    return None if found is None else (found[0], plain_turned(found[1]))
+
+
+def loose_whole(sizes, grid, lot):
+    """A whole other than 0 that lives on a lot with such a whole."""
+    places, row = places_of(sizes, lot), [0] * grid[0]
+    base = plain_kernel(columns_at(grid, places))
+    for at, numbers in zip(places, base[1]):
+        row[at] = numbers[0]
+    return tuple(row)
+
+
+def held_answer(table, lot):
+    """Whether no whole but 0 lives on a lot: the claim that is true, with a paper."""
+    check_table(table)
+    sizes = point_sizes(table)
+    check_fit(is_lot_of(sizes, lot), "this is no lot of the seats of the table")
+    grid = plain_rise_grid(table, 0)
+    paper = undone_columns(columns_at(grid, places_of(sizes, lot)))
+    if paper is None:
+        return ("loose", sizes, grid, lot), loose_whole(sizes, grid, lot)
+    return ("held", sizes, grid, lot), paper
+
+
+def check_seat_number(k):
+    """InvalidNumber unless the value is an integer from 0 to 80."""
+    check_between(k, 0, MOST_CELLS)
+
+
+def confused(sizes, whole, lot, k):
+    """A whole on a lot of twice k seats, that of noughts, and a telling that has the first one's first k parts."""
+    kept, row = places_of(sizes, lot[:k]), [0] * len(whole)
+    for at in kept:
+        row[at] = whole[at]
+    return whole, (0,) * len(whole), tuple(row)
+
+
+def safe_answer(table, k):
+    """Whether a whole of which k parts at most were turned is told by what comes: the claim that is true."""
+    check_table(table)
+    check_seat_number(k)
+    sizes, grid, papers = point_sizes(table), plain_rise_grid(table, 0), []
+    for lot in checked_lots(sizes, 2 * k):
+        paper = undone_columns(columns_at(grid, places_of(sizes, lot)))
+        if paper is None:
+            return ("confused", sizes, grid, k), confused(sizes, loose_whole(sizes, grid, lot), lot, k)
+        papers.append(paper)
+    return ("safe", sizes, grid, k), tuple(papers)
+
+
+def near_answer(table, telling, k):
+    """Whether a telling differs from some whole at k seats at most: the claim that is true, with a paper.
+
+    What it has too much at the seats of a lot has the same rise as it has itself, if a whole is left.
+    """
+    check_table(table)
+    check_telling(table, 0, telling)
+    check_seat_number(k)
+    sizes, grid, bars = point_sizes(table), plain_rise_grid(table, 0), []
+    rise = plain_led(grid, telling)
+    for lot in checked_lots(sizes, k):
+        places = places_of(sizes, lot)
+        claim, paper = plain_made_answer(columns_at(grid, places), rise)
+        if claim[0] == "made":
+            row = list(telling)
+            for at, number in zip(places, paper):
+                row[at] -= number
+            return ("near", sizes, grid, telling, k), tuple(row)
+        bars.append(paper)
+    return ("far", sizes, grid, telling, k), tuple(bars)
+
+
+def is_loose(sizes, base, lot):
+    """Whether some whole other than 0 lives on a lot: the rows of a base at all other numbers have a lower rank."""
+    kept = places_of(sizes, lot)
+    rows = [row for at, row in enumerate(base[1]) if at not in kept]
+    return len(stairs_of(rows)[0]) < base[0]
+
+
+def least_lot(table):
+    """The first lot of the fewest seats on which some whole other than 0 lives, None if there is none."""
+    check_table(table)
+    sizes = point_sizes(table)
+    base = plain_kernel(plain_rise_grid(table, 0))
+    for n in range(1, len(seats_of(sizes)) + 1):
+        for lot in checked_lots(sizes, n):
+            if is_loose(sizes, base, lot):
+                return lot
+    return None
+
+
+def differing(table, one, other):
+    """The ascending tuple of the seats at which two tellings of degree 0 differ."""
+    check_table(table)
+    check_telling(table, 0, one)
+    check_telling(table, 0, other)
+    return differing_seats(point_sizes(table), one, other)

@@ -1,0 +1,1 @@
+"""Walks on local tables, and the sides of sheets."""
