@@ -560,14 +560,17 @@ def nearest_hold(claim, paper):
     kind, grid = claim[:2]
     if kind == "nearest made":
         row, near, origin = [as_fractions(one) for one in claim[2:] + (paper,)]
-        return moved(grid, origin) == near and not any(read(less_of(row, near), grid))
+        fit = len(origin) == grid[0] and moved(grid, origin) == near
+        return fit and not any(read(less_of(row, near), grid))
     if kind == "nearest still":
         row, near, reader = [as_fractions(one) for one in claim[2:] + (paper,)]
-        return not any(moved(grid, near)) and read(reader, grid) == less_of(row, near)
+        fit = len(reader) == len(grid[1]) and not any(moved(grid, near))
+        return fit and read(reader, grid) == less_of(row, near)
     other = claim[2]
     row, made, rest, turned, origin, reader = [as_fractions(one) for one in claim[3:] + paper]
     fit = kind == "parted" and grow_noughts(other, grid) and less_of(less_of(row, made), turned) == rest
     fit = fit and not any(moved(other, rest)) and not any(read(rest, grid))
+    fit = fit and len(origin) == grid[0] and len(reader) == len(other[1])
     return fit and moved(grid, origin) == made and read(reader, other) == turned
 
 

@@ -77,6 +77,23 @@ FUNCTIONS = {
     "gluewhole.keep.finer": """
         finer_space(space), ladder(space, cell), last_lead(space), finer_table(table),
         led_there(table, degree, telling), led_back(table, degree, telling), telling_step(table, degree, telling)""",
+    "gluewhole.turn.walks": """
+        is_local(table), path_lead(table, path), told_path(space, point, other), rounds(space, point),
+        round_answer(table, point, row), kept_base(table, point), is_kept_base(table, point, value), straight(table)""",
+    "gluewhole.turn.sides": """
+        is_sheet(space), is_surface(space), sides_answer(space), sides_table(space)""",
+    "gluewhole.near.false": """
+        seats(table), held_answer(table, lot), safe_answer(table, k), near_answer(table, telling, k), least_lot(table),
+        differing(table, one, other)""",
+    "gluewhole.near.nearest": """
+        square(row), distance(one, other), nearest_made_answer(grid, row), nearest_still_answer(grid, row),
+        parted_answer(one, other, row)""",
+    "gluewhole.judge.judge": """
+        is_claim(value), takes(claim, paper), opposite(claim)""",
+    "gluewhole.book.book": """
+        kept_word(word, degree, change)""",
+    "gluewhole.use.texts": """
+        grid_text(grid), table_text(table), read_grid(text), read_table(text)""",
 }
 CLASSES = {
     "gluewhole.tables.tables": {
@@ -88,14 +105,29 @@ CLASSES = {
             {"coordinates": "telling", "telling": "coordinates"})},
     "gluewhole.rows.long": {
         "Short": ("first, middle, last, into, onto", ("first", "middle", "last", "into", "onto"), {})},
+    "gluewhole.near.nearest": {
+        "Talk": (
+            "table, degree, telling", ("stands", "deeds"),
+            {"nearest": "", "mend": "cell", "undo": "", "is_still": "", "broken": ""})},
+    "gluewhole.book.book": {
+        "Book": (
+            "", ("table", "names", "changes"),
+            {"put": "cell, rank, maps", "take": "cell", "ask": "name, degree, telling", "drop": "name",
+             "undo": "calls", "question": "name", "answer": "name", "twin": ""})},
+    "gluewhole.use.shell": {
+        "Shell": ("", (), {"book": "", "run": "line"})},
 }
 OPERATORS = {
     "Table": ("__eq__", "__str__"), "Rows": ("__eq__", "__len__", "__str__"), "Makers": ("__eq__", "__len__"),
-    "Short": ("__eq__", "__str__")}
+    "Short": ("__eq__", "__str__"), "Talk": ("__eq__", "__len__", "__str__"),
+    "Book": ("__contains__", "__eq__", "__len__", "__str__"), "Shell": ()}
 CONSTANTS = {
     "gluewhole.base.numbers": {"MAX_DIGITS": 12, "MAX_SIZE": 60},
     "gluewhole.space.spaces": {"MOST_POINT": 99, "MOST_LENGTH": 4, "MOST_CELLS": 80},
     "gluewhole.tables.tables": {"MAX_RANK": 4, "MAX_SIZE": 30},
+    "gluewhole.near.false": {"MOST_LOTS": 2000},
+    "gluewhole.near.nearest": {"MOST_DEEDS": 40},
+    "gluewhole.book.book": {"MAX_NAMES": 20, "MAX_CALLS": 200},
 }
 
 
@@ -121,9 +153,14 @@ class Interface(unittest.TestCase):
                     self.assertIsInstance(vars(made)[kept], property)
                 for method, taken in methods.items():
                     told_taken = list(inspect.signature(vars(made)[method]).parameters)
-                    self.assertEqual(", ".join(told_taken), "self, " + taken)
+                    self.assertEqual(told_taken, ["self"] + [one for one in taken.split(", ") if one])
                 for method in OPERATORS[name]:
                     self.assertIn(method, vars(made))
+
+    def test_keywords(self):
+        book = importlib.import_module("gluewhole.book.book").Book
+        told = inspect.signature(book.undo).parameters["calls"]
+        self.assertEqual((told.kind, told.default), (inspect.Parameter.KEYWORD_ONLY, 1))
 
     def test_constants(self):
         for path, told in CONSTANTS.items():
@@ -133,7 +170,7 @@ class Interface(unittest.TestCase):
 
     def test_files(self):
         package = pathlib.Path(importlib.import_module("gluewhole").__file__).parent
-        for path in list(FUNCTIONS) + ["gluewhole.errors"]:
+        for path in list(FUNCTIONS) + list(CLASSES) + ["gluewhole.errors"]:
             self.assertTrue(package.parent.joinpath(*path.split(".")).with_suffix(".py").is_file())
 
 

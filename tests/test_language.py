@@ -23,12 +23,13 @@ BARRED = set(
     "type typing typing_extensions enum Enum IntEnum StrEnum Flag IntFlag Generic Protocol ABC ABCMeta namedtuple "
     "NamedTuple TypedDict TYPE_CHECKING abstractmethod dataclass overload contextmanager register mro elements open "
     "input law version_info with_traceback add_note id hash global async eval exec compile vars dir".split())
-OWN = ("__init__", "__eq__", "__str__", "__repr__", "__len__")
+OWN = ("__init__", "__eq__", "__str__", "__repr__", "__len__", "__contains__")
+LIBRARY = {"math": ("gcd", "comb"), "itertools": ("combinations",)}
 STATEMENTS = (
     ast.Assign, ast.AugAssign, ast.If, ast.While, ast.For, ast.Return, ast.Break, ast.Continue, ast.Pass, ast.Raise,
-    ast.Expr, ast.FunctionDef, ast.ClassDef, ast.ImportFrom)
+    ast.Expr, ast.FunctionDef, ast.ClassDef, ast.ImportFrom, ast.Try)
 BARRED_NODES = (
-    ast.GeneratorExp, ast.Global, ast.AsyncFunctionDef, ast.Await, ast.Import, ast.Try, ast.Yield, ast.YieldFrom,
+    ast.GeneratorExp, ast.Global, ast.AsyncFunctionDef, ast.Await, ast.Import, ast.Yield, ast.YieldFrom,
     ast.Div, ast.AnnAssign, ast.With)
 
 
@@ -42,6 +43,16 @@ def imported(tree):
     return [name.name for node in tree.body if isinstance(node, ast.ImportFrom) for name in node.names]
 
 
+def is_plain(node, functions):
+    """Whether a value is plain, or a dict of plain values, of tuples of such, and of functions defined above."""
+    if isinstance(node, ast.Dict):
+        return all([isinstance(key, ast.Constant) for key in node.keys]) and all([
+            not isinstance(value, ast.Dict) and is_plain(value, functions) for value in node.values])
+    if isinstance(node, ast.Tuple):
+        return all([isinstance(item, ast.Constant) for item in node.elts])
+    return isinstance(node, ast.Constant) or isinstance(node, ast.Name) and node.id in functions
+
+
 def bound(tree):
     """The names that functions of a file bind: parameters, variables, nested functions."""
     found = []
@@ -50,6 +61,8 @@ def bound(tree):
             found.append(node.arg)
         elif isinstance(node, ast.Name) and isinstance(node.ctx, (ast.Store, ast.Del)):
             found.append(node.id)
+        elif isinstance(node, ast.ExceptHandler) and node.name is not None:
+            found.append(node.name)
     return found
 
 
@@ -76,7 +89,9 @@ class Files(unittest.TestCase):
             for node in tree.body:
                 self.assertIsInstance(node, (ast.Expr, ast.ImportFrom, ast.FunctionDef, ast.ClassDef, ast.Assign))
                 if isinstance(node, ast.Assign):
-                    self.assertIsInstance(node.value, ast.Constant)
+                    above = [one.name for one in tree.body
+                             if isinstance(one, ast.FunctionDef) and one.lineno < node.lineno]
+                    self.assertTrue(is_plain(node.value, above), (path, node.lineno))
                 if isinstance(node, ast.Expr):
                     self.assertIsInstance(node.value, ast.Constant)
 
@@ -99,8 +114,8 @@ class Files(unittest.TestCase):
                 if isinstance(node, ast.ImportFrom):
                     self.assertEqual(node.level, 0)
                     self.assertTrue(all([one.asname is None for one in node.names]))
-                    if node.module == "math":
-                        self.assertEqual([one.name for one in node.names], ["gcd"])
+                    if node.module in LIBRARY:
+                        self.assertTrue(all([one.name in LIBRARY[node.module] for one in node.names]), path)
                         continue
                     source = ast.parse((PACKAGE.parent / (node.module.replace(".", "/") + ".py")).read_text())
                     told = [one.name for one in source.body if isinstance(one, (ast.FunctionDef, ast.ClassDef))]
@@ -166,6 +181,37 @@ class Statements(unittest.TestCase):
                     self.assertTrue(all([ast.unparse(one) == "property" for one in node.decorator_list]))
                 if isinstance(node, ast.Constant):
                     self.assertNotIsInstance(node.value, float)
+
+    def test_library_names_are_called_at_once(self):
+        names = [name for told in LIBRARY.values() for name in told]
+        for path, tree in trees():
+            parents = {child: node for node in ast.walk(tree) for child in ast.iter_child_nodes(node)}
+            for node in ast.walk(tree):
+                if isinstance(node, ast.Name) and node.id in names:
+                    call = parents[node]
+                    self.assertTrue(isinstance(call, ast.Call) and call.func is node and not call.keywords, path)
+                    if node.id == "combinations":
+                        above = parents[call]
+                        listed = isinstance(above, ast.Call) and getattr(above.func, "id", "") == "list"
+                        self.assertTrue(listed or isinstance(above, ast.comprehension) and above.iter is call, path)
+                        self.assertIsInstance(call.args[1], ast.Name)
+
+    def test_handlers(self):
+        errors = [node.name for node in ast.parse((PACKAGE / "errors.py").read_text()).body
+                  if isinstance(node, ast.ClassDef)]
+        for path, tree in trees():
+            for function in [node for node in ast.walk(tree) if isinstance(node, ast.FunctionDef)]:
+                names = [node.name for node in ast.walk(function) if isinstance(node, ast.ExceptHandler) and node.name]
+                self.assertEqual(len(names), len(set(names)), path)
+                for name in names:
+                    stored = [node for node in ast.walk(function) if isinstance(node, ast.Name)
+                              and node.id == name and isinstance(node.ctx, ast.Store)]
+                    self.assertEqual(stored, [])
+            for node in [node for node in ast.walk(tree) if isinstance(node, ast.Try)]:
+                self.assertEqual(node.finalbody, [])
+                for handler in node.handlers:
+                    told = handler.type.elts if isinstance(handler.type, ast.Tuple) else [handler.type]
+                    self.assertTrue(all([one.id in errors for one in told]), path)
 
     def test_is_stands_beside_none(self):
         for path, tree in trees():

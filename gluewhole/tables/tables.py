@@ -4,8 +4,8 @@ from gluewhole.base.exact import is_undone, plain_grid, plain_nought, plain_prod
 from gluewhole.base.numbers import check_between, check_fit, is_between, is_grid
 from gluewhole.errors import InvalidMap, InvalidTable, TooMany
 from gluewhole.space.maps import plain_fault, plain_image
-from gluewhole.space.spaces import check_cell_of, check_space, is_cell, is_within, plain_cells, plain_degree
-from gluewhole.space.spaces import plain_faces, plain_is_sub, plain_parts, plain_star
+from gluewhole.space.spaces import ascending_faces, check_cell_of, check_space, is_cell, is_within, plain_cells
+from gluewhole.space.spaces import plain_degree, plain_faces, plain_is_sub, plain_parts, plain_star
 
 MAX_RANK = 4
 MAX_SIZE = 30
@@ -52,6 +52,16 @@ class Table:
         return f"table on {len(self._space)} cells, sizes {sizes_text(self._space, self._ranks)}"
 
 
+def told_ranks(table):
+    """The dict that the table itself keeps, for functions of the package: these only read it."""
+    return table._ranks
+
+
+def told_maps(table):
+    """The dict that the table itself keeps, for functions of the package: these only read it."""
+    return table._maps
+
+
 def ascending(told):
     """The dict with its keys ascending."""
     return {key: told[key] for key in sorted(told)}
@@ -92,7 +102,7 @@ def plain_led_by(ranks, maps, some, cell):
 
 def face_pairs(space):
     """The pairs (face, cell), by the cells in the sequence of the space and then by ascending faces."""
-    return [(face, cell) for cell in space for face in sorted([some for _, some in plain_faces(cell)])]
+    return [(face, cell) for cell in space for face in ascending_faces(cell)]
 
 
 def far_pairs(space):

@@ -1,0 +1,1 @@
+"""A book of cells and questions that can be changed and undone."""

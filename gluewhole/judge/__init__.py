@@ -1,0 +1,1 @@
+"""The checker of claims and papers, which adds and multiplies alone."""

@@ -1,0 +1,42 @@
+"""The checker: which values are well made claims, and which ones are papers for them."""
+
+from gluewhole.errors import InvalidClaim
+from gluewhole.judge.grids import is_grid_claim, takes_grid_paper
+from gluewhole.judge.groups import is_led_claim, takes_led_paper
+from gluewhole.judge.points import is_point_claim, takes_point_paper
+
+OPPOSITES = {
+    "undone": "not undone", "not undone": "undone", "alike": "unlike", "unlike": "alike", "made": "barred",
+    "barred": "made", "made modulo": "barred modulo", "barred modulo": "made modulo", "same lot": "unlike lots",
+    "unlike lots": "same lot", "one to one": "lost", "lost": "one to one", "onto": "missed", "missed": "onto",
+    "two sides": "one side", "one side": "two sides", "held": "loose", "loose": "held", "safe": "confused",
+    "confused": "safe", "near": "far", "far": "near",
+}
+
+
+def is_claim(value):
+    """Whether the value is a well made claim."""
+    if not isinstance(value, tuple) or value == () or not isinstance(value[0], str):
+        return False
+    kind, members = value[0], value[1:]
+    return is_grid_claim(kind, members) or is_led_claim(kind, members) or is_point_claim(kind, members)
+
+
+def takes(claim, paper):
+    """Whether the second value is a paper for the first one, a well made claim."""
+    if not is_claim(claim):
+        return False
+    kind, members = claim[0], claim[1:]
+    if takes_grid_paper(kind, members, paper) or takes_led_paper(kind, members, paper):
+        return True
+    return takes_point_paper(kind, members, paper)
+
+
+def opposite(claim):
+    """The claim of the other kind with the same members, None if there is none that is well made."""
+    if not is_claim(claim):
+        raise InvalidClaim("this is no well made claim")
+    if claim[0] not in OPPOSITES:
+        return None
+    other = (OPPOSITES[claim[0]],) + claim[1:]
+    return other if is_claim(other) else None

@@ -1,0 +1,1 @@
+"""Texts of grids and tables, and a shell."""
