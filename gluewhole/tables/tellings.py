@@ -4,7 +4,7 @@ from gluewhole.base.exact import plain_grid, plain_led
 from gluewhole.base.numbers import check_between, is_long_row, is_row
 from gluewhole.errors import InvalidCell, InvalidRow, InvalidTelling
 from gluewhole.space.spaces import check_cell_of, is_cell, plain_cells, plain_degree, plain_faces
-from gluewhole.tables.tables import check_table, plain_sizes
+from gluewhole.tables.tables import check_table, plain_sizes, told_maps, told_ranks
 
 
 def check_degree(table, degree):
@@ -15,7 +15,7 @@ def check_degree(table, degree):
 
 def plain_spots(table, degree):
     """The dict from the cells of a degree to the pairs (begin, end) of the indices of their numbers."""
-    ranks, found, begin = table.ranks, {}, 0
+    ranks, found, begin = told_ranks(table), {}, 0
     for cell in plain_cells(table.space, degree):
         found[cell] = (begin, begin + ranks[cell])
         begin += ranks[cell]
@@ -24,7 +24,7 @@ def plain_spots(table, degree):
 
 def plain_size(table, degree):
     """How many numbers a telling of the degree has: none, if no cell has this degree."""
-    ranks = table.ranks
+    ranks = told_ranks(table)
     return sum([ranks[cell] for cell in plain_cells(table.space, degree)])
 
 
@@ -48,11 +48,11 @@ def check_cell_at(table, degree, cell):
 
 def plain_rise_grid(table, degree):
     """The grid R(d)."""
-    maps, spots_below, rows = table.maps, plain_spots(table, degree), []
-    width = plain_size(table, degree)
+    maps, spots_below, rows = told_maps(table), plain_spots(table, degree), []
+    ranks, width = told_ranks(table), plain_size(table, degree)
     for cell in plain_cells(table.space, degree + 1):
         signs = plain_faces(cell)
-        for place in range(table.ranks[cell]):
+        for place in range(ranks[cell]):
             row = [0] * width
             for sign, face in signs:
                 begin, end = spots_below[face]
