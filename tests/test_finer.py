@@ -2,6 +2,7 @@
 
 import itertools
 import random
+import time
 import unittest
 
 from gluewhole.errors import InvalidCell, InvalidNumber, InvalidSpace, InvalidTable, InvalidTelling, TooMany
@@ -359,6 +360,46 @@ class Tellings(unittest.TestCase):
             for wrong in WRONG_INTEGERS:
                 self.assertIs(refusal(self, function, (TWICE, wrong, None), InvalidNumber).given, wrong)
             self.assertEqual(refusal(self, function, (constant((), 1), 1, ()), InvalidNumber).given, 1)
+
+
+class Times(unittest.TestCase):
+    # The two inputs of which it was told that they took longest.
+    NET = closed([(3, 4, 60), (3, 36, 60)])
+    NUMBERS = {
+        ((3,), (3, 4)): 1, ((3,), (3, 36)): 6, ((3,), (3, 60)): 1, ((3, 4), (3, 4, 60)): 3, ((3, 36), (3, 36, 60)): 1,
+        ((3, 60), (3, 4, 60)): 3, ((3, 60), (3, 36, 60)): 6, ((4,), (3, 4)): -1, ((4,), (4, 60)): 3,
+        ((4, 60), (3, 4, 60)): -1, ((36,), (3, 36)): -3, ((36,), (36, 60)): 1, ((36, 60), (3, 36, 60)): -3,
+        ((60,), (3, 60)): -1, ((60,), (4, 60)): 3, ((60,), (36, 60)): 2}
+    ONE_CELL = {
+        ((0,), (0, 4)): 3, ((0,), (0, 8)): 1, ((0, 4), (0, 4, 8)): 1, ((0, 8), (0, 4, 8)): 3, ((4,), (0, 4)): -6,
+        ((4,), (4, 8)): 2, ((4, 8), (0, 4, 8)): -3, ((8,), (0, 8)): -1, ((8,), (4, 8)): 1}
+
+    def told_table(self, space, numbers):
+        """The table of rank 1 with these numbers as its maps."""
+        return Table(space, {cell: 1 for cell in space}, {pair: (1, ((number,),)) for pair, number in numbers.items()})
+
+    def fastest(self, function, *arguments):
+        """The least time of a few lots of calls."""
+        found = []
+        for _ in range(7):
+            begin = time.perf_counter()
+            for _ in range(40):
+                function(*arguments)
+            found.append(time.perf_counter() - begin)
+        return min(found)
+
+    def test_one_telling_takes_less_than_the_table(self):
+        net, cell = self.told_table(self.NET, self.NUMBERS), self.told_table(closed([(0, 4, 8)]), self.ONE_CELL)
+        row = (2, 0, -1, 2, -2, 1, -2, 3, 1, -3, 3, 2)
+        # Just the ladder (3,), (3, 4), (3, 4, 60), the first one, has the last points 3, 4, 60.
+        self.assertEqual(led_there(net, 2, (-1, 0)), (-1,) + (0,) * 11)
+        told = {rungs: number for rungs, number in zip([c for c in finer_space(cell.space) if len(c) == 2], row)}
+        self.assertEqual(
+            led_back(cell, 1, row),
+            (told[(0, 3)] - told[(1, 3)], told[(0, 4)] - told[(2, 4)], told[(1, 5)] - told[(2, 5)]))
+        for table, function, arguments in (
+                (net, led_there, (2, (-1, 0))), (cell, led_back, (1, row)), (cell, telling_step, (1, row))):
+            self.assertLess(self.fastest(function, table, *arguments), self.fastest(finer_table, table))
 
 
 def columns(function, width, height):
