@@ -23,7 +23,7 @@ from gluewhole.tables.groups import Makers, Rows, alike_answer, group, group_ans
 from gluewhole.tables.readings import fallen_answer, is_quiet, reading_group, turned_rows
 from gluewhole.tables.tables import Table, constant, inside, outside
 from gluewhole.tables.tellings import is_still, rise_grid, sizes
-from gluewhole.tables.wholes import extend_answer
+from gluewhole.tables.wholes import board, extend_answer, wish
 from gluewhole.turn.walks import is_local, round_answer
 from gluewhole.use.shell import Shell
 from gluewhole.use.texts import table_text
@@ -369,6 +369,11 @@ class WholeOrBarred(unittest.TestCase):
                 some = {cell: told[cell] for cell in points if source.random() < 0.5}
                 claim, paper = extend_answer(table, some)
                 self.assertEqual(claim[0], "made")
+                self.assertIs(takes(claim, paper), True)
+                bent = {cell: row[:-1] + (row[-1] + source.choice((0, 1)),) for cell, row in some.items() if row}
+                claim, paper = extend_answer(table, bent)
+                told_claim = made_answer(board(table, tuple(sorted(bent))), wish(table, bent))[0]
+                self.assertEqual(claim, told_claim)
                 self.assertIs(takes(claim, paper), True)
             if points:
                 wrong = {cell: some_row(table.ranks[cell], source) for cell in points}
