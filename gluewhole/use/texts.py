@@ -1,8 +1,8 @@
 """Texts of grids and tables, and what has a text."""
 
 from gluewhole.base.exact import plain_product
-from gluewhole.base.numbers import MAX_DIGITS, is_between, is_grid, is_long_grid
-from gluewhole.errors import InvalidGrid, ParseError, TooMany
+from gluewhole.base.numbers import MAX_DIGITS, check_grid, is_between, is_grid
+from gluewhole.errors import ParseError, TooMany
 from gluewhole.space.spaces import MOST_CELLS, ascending_faces, is_within, plain_faces
 from gluewhole.tables.tables import MAX_RANK, MAX_SIZE, Table, check_table
 from gluewhole.use.words import cell_of, cell_text, grid_of, number_of, plain_grid_text
@@ -10,24 +10,17 @@ from gluewhole.use.words import cell_of, cell_text, grid_of, number_of, plain_gr
 
 def grid_text(grid):
     """The text of a grid."""
-    if not is_long_grid(grid):
-        raise InvalidGrid("a grid is a pair of a width up to 60 and of at most 60 rows of this length")
-    check_digits(grid)
+    check_grid(grid)
     return plain_grid_text(grid)
-
-
-def check_digits(grid):
-    """TooMany(12) if a grid has an integer of more than twelve digits."""
-    if not is_grid(grid):
-        raise TooMany(MAX_DIGITS)
 
 
 def table_text(table):
     """The text of a table: a line for each cell, and behind it one for each of its faces."""
     check_table(table)
     ranks, maps, text = table.ranks, table.maps, ""
-    for grid in maps.values():
-        check_digits(grid)
+    # A table that a function made can have longer integers; a grid with such ones cannot be passed by itself.
+    if not all([is_grid(grid) for grid in maps.values()]):
+        raise TooMany(MAX_DIGITS)
     for cell in table.space:
         text += f"cell {cell_text(cell)} {ranks[cell]}\n"
         for face in ascending_faces(cell):
