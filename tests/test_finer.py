@@ -2,7 +2,6 @@
 
 import itertools
 import random
-import time
 import unittest
 
 from gluewhole.errors import InvalidCell, InvalidNumber, InvalidSpace, InvalidTable, InvalidTelling, TooMany
@@ -16,7 +15,7 @@ from gluewhole.tables.tables import Table, constant, table_fault, table_product
 from gluewhole.tables.tellings import is_still, rise, sizes
 from tests.helper import (
     EDGE, FILLED, ROUND, TWIST, WRONG, WRONG_CELLS, WRONG_INTEGERS, WRONG_ROWS, check_wrong, closed, degrees_of,
-    is_zero, moved, random_tables, refusal, some_row, spaces, stills, transposed, turned_table, unit, weighted)
+    fastest, is_zero, moved, random_tables, refusal, some_row, spaces, stills, transposed, turned_table, unit, weighted)
 
 PAIR = space_of(((4, 5),))
 TWICE = Table(PAIR, {(4,): 1, (5,): 1, (4, 5): 1}, {
@@ -378,16 +377,6 @@ class Times(unittest.TestCase):
         """The table of rank 1 with these numbers as its maps."""
         return Table(space, {cell: 1 for cell in space}, {pair: (1, ((number,),)) for pair, number in numbers.items()})
 
-    def fastest(self, function, *arguments):
-        """The least time of a few lots of calls."""
-        found = []
-        for _ in range(7):
-            begin = time.perf_counter()
-            for _ in range(40):
-                function(*arguments)
-            found.append(time.perf_counter() - begin)
-        return min(found)
-
     def test_one_telling_takes_less_than_the_table(self):
         net, cell = self.told_table(self.NET, self.NUMBERS), self.told_table(closed([(0, 4, 8)]), self.ONE_CELL)
         row = (2, 0, -1, 2, -2, 1, -2, 3, 1, -3, 3, 2)
@@ -399,7 +388,7 @@ class Times(unittest.TestCase):
             (told[(0, 3)] - told[(1, 3)], told[(0, 4)] - told[(2, 4)], told[(1, 5)] - told[(2, 5)]))
         for table, function, arguments in (
                 (net, led_there, (2, (-1, 0))), (cell, led_back, (1, row)), (cell, telling_step, (1, row))):
-            self.assertLess(self.fastest(function, table, *arguments), self.fastest(finer_table, table))
+            self.assertLess(fastest(function, table, *arguments), fastest(finer_table, table))
 
 
 def columns(function, width, height):

@@ -95,6 +95,80 @@ class Judges(unittest.TestCase):
         self.assertFalse(is_space(((0,), (1,), (2,), (1, 2), (0, 1))))
 
 
+def is_told_space(value):
+    """Whether the value is a space, by the words of [0.10]."""
+    if not isinstance(value, tuple) or len(value) > 80:
+        return False
+    for cell in value:
+        if not isinstance(cell, tuple) or not 1 <= len(cell) <= 4:
+            return False
+        if not all([isinstance(point, int) and not isinstance(point, bool) and 0 <= point <= 99 for point in cell]):
+            return False
+        if list(cell) != sorted(set(cell)):
+            return False
+    some = [part for cell in value for size in range(1, len(cell)) for part in itertools.combinations(cell, size)]
+    return value == tuple(sorted(set(value), key=lambda cell: (len(cell), cell))) and set(some) <= set(value)
+
+
+def bent_space(space, source):
+    """A value that is like a space but for one or two places."""
+    cells = list(space)
+    for _ in range(source.choice((1, 1, 2))):
+        at = source.randrange(len(cells))
+        cell, kind = list(cells[at]), source.randrange(8)
+        place = source.randrange(len(cell)) if cell else 0
+        if kind == 0:
+            del cells[at]
+        elif kind == 1:
+            cells.insert(source.randrange(len(cells) + 1), source.choice(cells))
+        elif kind == 2:
+            other = source.randrange(len(cells))
+            cells[at], cells[other] = cells[other], cells[at]
+        elif kind == 3:
+            cells[at] = tuple(cell[:place] + cell[place + 1:])
+        elif kind == 4:
+            cells[at] = tuple(cell[:place] + cell[place:place + 1] + cell[place:])
+        elif kind == 5:
+            wrong = (True, False, 0, 1, source.randrange(100), 100, -1, 10 ** 12, None, "1", tuple(cell))
+            cells[at] = tuple(cell[:place] + [source.choice(wrong)] + cell[place + 1:])
+        elif kind == 6:
+            cells[at] = source.choice((cell, tuple(cell[::-1]), None, 0, "0", {0: 0}, (), (0, 1, 2, 3, 4)))
+        else:
+            cells.append(tuple(cell) + (source.randrange(100),))
+        if not cells or not all([isinstance(one, tuple) for one in cells]):
+            break
+    return tuple(cells)
+
+
+class Bent(unittest.TestCase):
+    def test_bent_spaces(self):
+        source, kinds = random.Random(20), []
+        for space in [some for some in SPACES if some] + spaces(21, 40, 7)[1:] + [closed([(0, 1, 2, 3)])] * 5:
+            for _ in range(40):
+                value = bent_space(space, source)
+                kinds.append(is_space(value))
+                self.assertIs(kinds[-1], is_told_space(value), value)
+        self.assertGreater(kinds.count(True), 60)
+        self.assertGreater(kinds.count(False), 1000)
+
+    def test_each_face_counts(self):
+        solid = closed([(3, 5, 7, 9)])
+        for cell in solid[:-1]:
+            self.assertFalse(is_space(tuple([other for other in solid if other != cell])))
+        for at, cell in enumerate(solid):
+            for place in range(len(cell)):
+                for wrong in (True, False, None, "5", (5,)):
+                    other = cell[:place] + (wrong,) + cell[place + 1:]
+                    self.assertFalse(is_space(solid[:at] + (other,) + solid[at + 1:]))
+        # True counts as 1 by itself: so a space with it would be one, if its kind did not matter.
+        ones = closed([(0, 1, 2, 3)])
+        for at, cell in enumerate(ones):
+            if 1 in cell:
+                other = tuple([True if point == 1 else point for point in cell])
+                self.assertEqual(ones[:at] + (other,) + ones[at + 1:], ones)
+                self.assertFalse(is_space(ones[:at] + (other,) + ones[at + 1:]))
+
+
 class Cells(unittest.TestCase):
     def test_faces(self):
         self.assertEqual(faces((5,)), ())

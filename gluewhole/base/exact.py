@@ -6,6 +6,9 @@ return plain lists of rows, since they change them step by step.
 
 from math import gcd
 
+# Of so many rows at most, as in tables, determinants are found sooner than stairs.
+FEW = 4
+
 
 def plain_dot(one, other):
     """The sum of the products."""
@@ -33,20 +36,33 @@ def plain_grid(rows, width):
 
 
 def turned_rows_of(rows, width):
-    """The columns of rows of this width, as lists."""
-    return [[row[at] for row in rows] for at in range(width)]
+    """The columns of rows of this width, a list of tuples."""
+    return list(zip(*rows)) if rows else [()] * width
 
 
 def plain_turned(grid):
     """The grid with rows and columns exchanged."""
     width, rows = grid
-    return plain_grid(turned_rows_of(rows, width), len(rows))
+    return len(rows), tuple(turned_rows_of(rows, width))
 
 
 def plain_product(one, other):
     """The product of two grids, the first one as wide as the second one is high."""
     columns = turned_rows_of(other[1], other[0])
-    return other[0], tuple([tuple([plain_dot(row, column) for column in columns]) for row in one[1]])
+    # A call for each number would take a third of the time.
+    return other[0], tuple([
+        tuple([sum([left * right for left, right in zip(row, column)]) for column in columns]) for row in one[1]])
+
+
+def square_product(one, other):
+    """The product of two grids of one size, both as high as wide: in most tables they have one or two rows."""
+    size, rows = one
+    if size == 1:
+        return 1, ((rows[0][0] * other[1][0][0],),)
+    if size == 2:
+        ((a, b), (c, d)), ((e, f), (g, h)) = rows, other[1]
+        return 2, ((a * e + b * g, a * f + b * h), (c * e + d * g, c * f + d * h))
+    return plain_product(one, other)
 
 
 def plain_difference(one, other):
@@ -97,7 +113,7 @@ def is_nought_grid(grid):
 
 def plain_unit(size):
     """The unit grid."""
-    return plain_grid([[1 if at == place else 0 for at in range(size)] for place in range(size)], size)
+    return size, tuple([(0,) * at + (1,) + (0,) * (size - at - 1) for at in range(size)])
 
 
 def plain_nought(height, width):
@@ -229,8 +245,30 @@ def bar_of(leads, steps, rest):
     return 0, tuple(bar)
 
 
+def determinant(rows):
+    """The determinant of rows with as many integers as there are rows: of few ones, as it goes by the first row."""
+    if len(rows) == 0:
+        return 1
+    if len(rows) == 1:
+        return rows[0][0]
+    if len(rows) == 2:
+        (a, b), (c, d) = rows
+        return a * d - b * c
+    if len(rows) == 3:
+        (a, b, c), (d, e, f), (g, h, i) = rows
+        return a * (e * i - f * h) + b * (f * g - d * i) + c * (d * h - e * g)
+    found, sign = 0, 1
+    for at, number in enumerate(rows[0]):
+        if number != 0:
+            found = found + sign * number * determinant([row[:at] + row[at + 1:] for row in rows[1:]])
+        sign = -sign
+    return found
+
+
 def is_undone(grid):
-    """Whether a grid with as many rows as columns is undone by one: its rows make the unit rows."""
+    """Whether a grid with as many rows as columns is undone by one: its determinant, or else its stairs tell it."""
+    if grid[0] <= FEW:
+        return determinant(grid[1]) in (1, -1)
     return plain_grid(stairs_of(grid[1])[1], grid[0]) == plain_unit(grid[0])
 
 
@@ -258,12 +296,38 @@ def near_nought(number, modulus):
     return (number + half) % modulus - half
 
 
+def undoing_of_few(rows):
+    """The rows that undo these few ones, by determinants."""
+    size = len(rows)
+    if size <= 1:
+        return rows
+    unit = determinant(rows)
+    if size == 2:
+        (a, b), (c, d) = rows
+        return (unit * d, -unit * b), (-unit * c, unit * a)
+    if size == 3:
+        (a, b, c), (d, e, f), (g, h, i) = rows
+        found = (
+            (e * i - f * h, c * h - b * i, b * f - c * e), (f * g - d * i, a * i - c * g, c * d - a * f),
+            (d * h - e * g, b * g - a * h, a * e - b * d))
+        return tuple([tuple([unit * number for number in row]) for row in found])
+    found = []
+    for column in range(size):
+        rest = [row[:column] + row[column + 1:] for row in rows]
+        signs = [-unit if (column + place) % 2 == 1 else unit for place in range(size)]
+        found.append(tuple([sign * determinant(rest[:at] + rest[at + 1:]) for at, sign in enumerate(signs)]))
+    return tuple(found)
+
+
 def undoing(grid):
     """The grid that undoes this one, which has to have one.
 
-    It is found modulo 2, 4, 16, 256 and so on: this keeps integers no longer than those of the outcome.
+    If it is greater than those of tables, it is found modulo 2, 4, 16, 256 and so on: this keeps integers no longer
+    than those of the outcome.
     """
     size = grid[0]
+    if size <= FEW:
+        return size, undoing_of_few(grid[1])
     unit, bits = plain_unit(size), 1
     near = plain_grid(undone_modulo_two(grid[1]), size)
     product = plain_product(grid, near)

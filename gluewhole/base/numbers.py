@@ -13,7 +13,25 @@ TOO_LONG = 1000000000000
 
 def is_long_integer(value):
     """Whether the value is an integer of any length."""
-    return isinstance(value, int) and not isinstance(value, bool)
+    return isinstance(value, int) and value is not True and value is not False
+
+
+def are_long_integers(values):
+    """Whether all of some values are integers of any length.
+
+    So many of them are looked at that a call for each one would take most of the time.
+    """
+    return all([isinstance(value, int) and value is not True and value is not False for value in values])
+
+
+def have_integers(rows):
+    """Whether all items of some tuples are integers of any length."""
+    return all([isinstance(item, int) and item is not True and item is not False for row in rows for item in row])
+
+
+def are_short(numbers):
+    """Whether all of some integers have at most 12 digits."""
+    return max(numbers, default=0) < TOO_LONG and min(numbers, default=0) > -TOO_LONG
 
 
 def is_integer(value):
@@ -28,22 +46,27 @@ def is_between(value, least, greatest):
 
 def is_long_row(value):
     """Whether the value is a row of at most 60 integers of any length."""
-    return isinstance(value, tuple) and len(value) <= MAX_SIZE and all([is_long_integer(item) for item in value])
+    return isinstance(value, tuple) and len(value) <= MAX_SIZE and are_long_integers(value)
 
 
 def is_row(value):
     """Whether the value is a row of at most 60 integers of at most 12 digits."""
-    return is_long_row(value) and all([is_integer(item) for item in value])
+    return is_long_row(value) and are_short(value)
+
+
+def is_grid_up_to(value, most):
+    """Whether the value is a grid of integers of any length, as wide and high as told at most."""
+    if not isinstance(value, tuple) or len(value) != 2:
+        return False
+    width, rows = value
+    if not is_long_integer(width) or not 0 <= width <= most or not isinstance(rows, tuple) or len(rows) > most:
+        return False
+    return all([isinstance(row, tuple) and len(row) == width for row in rows]) and have_integers(rows)
 
 
 def is_long_grid(value):
     """Whether the value is a grid of integers of any length, at most 60 wide and high."""
-    if not isinstance(value, tuple) or len(value) != 2:
-        return False
-    width, rows = value
-    if not is_between(width, 0, MAX_SIZE) or not isinstance(rows, tuple) or len(rows) > MAX_SIZE:
-        return False
-    return all([is_long_row(row) and len(row) == width for row in rows])
+    return is_grid_up_to(value, MAX_SIZE)
 
 
 def is_sized(value, width, height):
@@ -53,7 +76,7 @@ def is_sized(value, width, height):
 
 def is_grid(value):
     """Whether the value is a grid of integers of at most 12 digits, at most 60 wide and high."""
-    return is_long_grid(value) and all([is_row(row) for row in value[1]])
+    return is_long_grid(value) and all([are_short(row) for row in value[1]])
 
 
 def check_row(value):

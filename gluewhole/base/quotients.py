@@ -5,7 +5,7 @@ Rows of fractions are reckoned with as pairs (bottom, tops) of one bottom above 
 
 from math import gcd
 
-from gluewhole.base.exact import plain_grid, plain_led, plain_product, plain_turned, row_less
+from gluewhole.base.exact import plain_led, plain_product, plain_turned, row_less
 from gluewhole.base.numbers import is_long_integer
 from gluewhole.errors import InvalidRow
 
@@ -77,6 +77,8 @@ def less_step(row, step, at, last):
     All numbers are determinants of integers, and so is this: the division leaves nothing.
     """
     pivot, number = step[at], row[at]
+    if number == 0 and pivot == last:
+        return row
     return [(pivot * left - number * right) // last for left, right in zip(row, step)]
 
 
@@ -84,6 +86,8 @@ def eliminated(rows, width):
     """The places of leads among the first columns, the steps with these leads, and what is left of other rows."""
     left, leads, steps, last = [list(row) for row in rows], [], [], 1
     for at in range(width):
+        if not left:
+            break
         found = [place for place in range(len(left)) if left[place][at] != 0]
         if found:
             step = left[found[0]]
@@ -95,31 +99,33 @@ def eliminated(rows, width):
     return leads, steps, left
 
 
-def solved_back(leads, steps, goal, width):
-    """The row that the steps lead to the last lead times their goal: by determinants it has integers alone."""
-    row, many = [0] * width, len(leads)
+def solved_back(corner, goal):
+    """The row that steps, told at their leads alone, lead to the last lead times their goal.
+
+    By determinants it has integers alone.
+    """
+    many = len(corner)
+    row = [0] * many
     for place in reversed(range(many)):
-        step = steps[place]
-        last = steps[-1][leads[-1]]
-        left = last * goal[place] - sum([step[leads[later]] * row[leads[later]] for later in range(place + 1, many)])
-        row[leads[place]] = left // step[leads[place]]
+        step = corner[place]
+        left = corner[-1][-1] * goal[place] - sum([step[later] * row[later] for later in range(place + 1, many)])
+        row[place] = left // step[place]
     return row
 
 
 def solved(grid, wanted):
     """Integers (n, S), n above 0 and S a grid: the grid times S is n times the wanted one. None if there are none."""
-    width = grid[0]
-    rows = [row + line for row, line in zip(grid[1], wanted[1])]
-    leads, steps, left = eliminated(rows, width)
+    width, many = grid[0], wanted[0]
+    leads, steps, left = eliminated([row + line for row, line in zip(grid[1], wanted[1])], width)
     if any([any(row) for row in left]):
         return None
-    places = range(width, width + wanted[0])
-    columns = [solved_back(leads, steps, [step[at] for step in steps], width) for at in places]
-    n = steps[-1][leads[-1]] if steps else 1
-    found = plain_turned(plain_grid(columns, width))
-    if n < 0:
-        return -n, plain_grid([[-number for number in row] for row in found[1]], found[0])
-    return n, found
+    corner = [[step[at] for at in leads] for step in steps]
+    columns = [solved_back(corner, [step[width + place] for step in steps]) for place in range(many)]
+    n = corner[-1][-1] if corner else 1
+    rows = [(0,) * many] * width
+    for index, lead in enumerate(leads):
+        rows[lead] = tuple([column[index] if n > 0 else -column[index] for column in columns])
+    return abs(n), (many, tuple(rows))
 
 
 def nearest_origin(grid, row):

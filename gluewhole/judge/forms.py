@@ -1,7 +1,7 @@
 """Forms of what stands in claims and papers: integers and rows of any length, grids of at most 120 rows and columns."""
 
 from gluewhole.base.exact import is_nought_grid, plain_product
-from gluewhole.base.numbers import is_long_integer
+from gluewhole.base.numbers import are_long_integers, is_grid_up_to, is_long_integer
 
 MOST_WIDE = 120
 MOST_DEGREES = 5
@@ -19,22 +19,17 @@ def is_tuple(value, length):
 
 def are_integers(value):
     """Whether the value is a tuple of integers."""
-    return isinstance(value, tuple) and all([is_long_integer(item) for item in value])
+    return isinstance(value, tuple) and are_long_integers(value)
 
 
 def is_told_row(value, length):
     """Whether the value is a tuple of so many integers."""
-    return are_integers(value) and len(value) == length
+    return isinstance(value, tuple) and len(value) == length and are_long_integers(value)
 
 
 def is_told_grid(value):
     """Whether the value is a grid."""
-    if not is_tuple(value, 2):
-        return False
-    width, rows = value
-    if not is_least(width, 0) or width > MOST_WIDE or not isinstance(rows, tuple) or len(rows) > MOST_WIDE:
-        return False
-    return all([is_told_row(row, width) for row in rows])
+    return is_grid_up_to(value, MOST_WIDE)
 
 
 def is_told_sized(value, width, height):

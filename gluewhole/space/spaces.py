@@ -1,7 +1,7 @@
 """Spaces of cells: points, stretches, triangles and tetrahedra."""
 
 from gluewhole.base.exact import plain_grid
-from gluewhole.base.numbers import check_between, check_fit, check_most, is_between
+from gluewhole.base.numbers import are_long_integers, check_between, check_fit, check_most, have_integers, is_between
 from gluewhole.errors import InvalidCell, InvalidNumber, InvalidSpace, TooMany
 
 MOST_POINT = 99
@@ -16,14 +16,16 @@ def is_point(value):
 
 def is_ascending_points(value):
     """Whether the value is an ascending tuple of points."""
-    if not isinstance(value, tuple) or not all([is_point(point) for point in value]):
+    if not isinstance(value, tuple) or not are_long_integers(value):
         return False
-    return all([ahead < behind for ahead, behind in zip(value, value[1:])])
+    if not all([ahead < behind for ahead, behind in zip(value, value[1:])]):
+        return False
+    return value == () or 0 <= value[0] and value[-1] <= MOST_POINT
 
 
 def is_cell(value):
     """Whether the value is a cell."""
-    return is_ascending_points(value) and 1 <= len(value) <= MOST_LENGTH
+    return isinstance(value, tuple) and 1 <= len(value) <= MOST_LENGTH and is_ascending_points(value)
 
 
 def ordered(cells):
@@ -35,6 +37,8 @@ def plain_faces(cell):
     """The pairs (sign, face), in the sequence of the points left out."""
     if len(cell) == 1:
         return ()
+    if len(cell) == 2:
+        return (1, cell[1:]), (-1, cell[:1])
     return tuple([(-1 if at % 2 == 1 else 1, cell[:at] + cell[at + 1:]) for at in range(len(cell))])
 
 
@@ -63,12 +67,39 @@ def is_lot(value):
     return value == ordered(value)
 
 
-def is_space(value):
-    """Whether the value is a space."""
-    if not is_lot(value):
+def have_faces(ones, twos, threes, fours):
+    """Whether all these tuples of integers, ascending among those of one length, are cells and have all their faces.
+
+    Tuples of three or four integers ascend if their faces do, and have points if these have.
+    """
+    if ones != () and not (0 <= ones[0][0] and ones[-1][0] <= MOST_POINT):
         return False
-    found = {cell: True for cell in value}
-    return all([face in found for cell in value for _, face in plain_faces(cell)])
+    found = {cell[0]: True for cell in ones}
+    if not all([low < high and low in found and high in found for low, high in twos]):
+        return False
+    if threes == ():
+        return fours == ()
+    found = {cell: True for cell in twos}
+    if not all([(a, b) in found and (a, c) in found and (b, c) in found for a, b, c in threes]):
+        return False
+    found = {cell: True for cell in threes}
+    return all([face in found for cell in fours for _, face in plain_faces(cell)])
+
+
+def is_space(value):
+    """Whether the value is a space. Nearly all functions ask it: so each step goes over all cells at once."""
+    if not isinstance(value, tuple) or len(value) > MOST_CELLS:
+        return False
+    if not all([isinstance(cell, tuple) for cell in value]) or not have_integers(value):
+        return False
+    sizes = [len(cell) for cell in value]
+    if sizes != sorted(sizes) or 0 in sizes or max(sizes, default=0) > MOST_LENGTH:
+        return False
+    if not all([ahead < behind or len(ahead) < len(behind) for ahead, behind in zip(value, value[1:])]):
+        return False
+    first, middle = sizes.count(1), sizes.count(1) + sizes.count(2)
+    last = middle + sizes.count(3)
+    return have_faces(value[:first], value[first:middle], value[middle:last], value[last:])
 
 
 def check_space(value):
@@ -269,10 +300,15 @@ def cone(space, point):
 
 def neighbours(space):
     """A dict from each point of a space to the list of those with which it makes a cell of the degree 1."""
-    found = {cell[0]: [] for cell in plain_cells(space, 0)}
-    for one, other in plain_cells(space, 1):
-        found[one].append(other)
-        found[other].append(one)
+    found = {}
+    for cell in space:
+        if len(cell) > 2:
+            break
+        if len(cell) == 1:
+            found[cell[0]] = []
+        else:
+            found[cell[0]].append(cell[1])
+            found[cell[1]].append(cell[0])
     return found
 
 
@@ -309,12 +345,12 @@ def hang_answer(space, one, other):
     return "side", tuple(sorted(found))
 
 
-def plain_is_path(space, value):
-    """Whether the value is a path from any point of a space to any one."""
-    if not isinstance(value, tuple) or value == () or not all([is_point(point) for point in value]):
+def plain_is_path(cells, value):
+    """Whether the value is a path from any point of a space to any one; the cells are the space, or keys of a dict."""
+    if not isinstance(value, tuple) or value == () or not are_long_integers(value):
         return False
-    steps = [tuple(sorted(step)) for step in zip(value, value[1:])]
-    return value[:1] in space and all([step in space for step in steps])
+    steps = [(one, other) if one < other else (other, one) for one, other in zip(value, value[1:])]
+    return value[:1] in cells and all([step in cells for step in steps])
 
 
 def is_path(space, one, other, value):

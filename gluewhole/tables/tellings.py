@@ -48,15 +48,14 @@ def check_cell_at(table, degree, cell):
 
 def plain_rise_grid(table, degree):
     """The grid R(d)."""
-    maps, spots_below, rows = told_maps(table), plain_spots(table, degree), []
-    ranks, width = told_ranks(table), plain_size(table, degree)
+    maps, ranks, spots_below, rows = told_maps(table), told_ranks(table), plain_spots(table, degree), []
+    width = max([end for _, end in spots_below.values()], default=0)
     for cell in plain_cells(table.space, degree + 1):
-        signs = plain_faces(cell)
+        told = [(sign, spots_below[face], maps[(face, cell)][1]) for sign, face in plain_faces(cell)]
         for place in range(ranks[cell]):
             row = [0] * width
-            for sign, face in signs:
-                begin, end = spots_below[face]
-                row[begin:end] = [sign * number for number in maps[(face, cell)][1][place]]
+            for sign, (begin, end), lines in told:
+                row[begin:end] = lines[place] if sign == 1 else [-number for number in lines[place]]
             rows.append(row)
     return plain_grid(rows, width)
 
