@@ -5,13 +5,13 @@ import random
 import unittest
 
 from gluewhole.errors import InvalidOperation, InvalidSpace, TooMany
-from gluewhole.space.spaces import cells_of, joined, pieces, space_of
+from gluewhole.space.spaces import cells_of, is_space, joined, pieces, space_of
 from gluewhole.tables.groups import group, rows_of
 from gluewhole.tables.tables import constant, table_fault
 from gluewhole.turn.sides import is_sheet, is_surface, sides_answer, sides_table
 from gluewhole.turn.walks import is_local
 from tests.helper import (
-    FILLED, ROUND, TWIST, WRONG_SPACES, check_wrong, closed, holds, refusal, spaces, told_faces, turn_between)
+    FILLED, ROUND, TWIST, WRONG_SPACES, check_wrong, closed, fastest, holds, refusal, spaces, told_faces, turn_between)
 
 BALL = closed(itertools.combinations(range(4), 3))
 PLANE = space_of((
@@ -31,6 +31,28 @@ PINCHED = joined(BALL, closed(itertools.combinations((3, 4, 5, 6), 3)))
 def moved_by(space, step):
     """The space with all points so much greater."""
     return tuple([tuple([point + step for point in cell]) for cell in space])
+
+
+def drawn_ones(seed, many):
+    """Sheets of one or two of the spaces above, with other points, and spaces near them."""
+    source, found = random.Random(seed), []
+    while len(found) < many:
+        tops = []
+        for at in range(source.choice((1, 1, 2))):
+            tops += moved_by(cells_of(source.choice((BALL, PLANE, EIGHT, RING, MOEBIUS, BAND)), 2), 10 * at)
+        names = source.sample(range(100), 20)
+        if source.random() < 0.3:
+            # Two points become one.
+            names[source.randrange(10, 14)] = names[source.randrange(4)]
+        tops = [tuple(sorted([names[point] for point in top])) for top in tops]
+        if source.random() < 0.5:
+            tops.pop(source.randrange(len(tops)))
+        if source.random() < 0.5:
+            tops.append(tuple(sorted(source.sample(names[:8], source.randint(1, 4)))))
+        space = closed([top for top in tops if len(set(top)) == len(top)])
+        if len(space) <= 80:
+            found.append(space)
+    return found
 
 
 def brute_sides(cells):
@@ -110,6 +132,22 @@ class Sheets(unittest.TestCase):
             self.assertIs(is_surface(space), is_told_surface(space))
         self.assertGreater(min(kinds.count(True), kinds.count(False)), 20)
 
+    def test_drawn_ones(self):
+        kinds = []
+        for space in drawn_ones(3, 150):
+            kinds.append((is_told_sheet(space), is_told_surface(space)))
+            self.assertEqual((is_sheet(space), is_surface(space)), kinds[-1])
+            if not kinds[-1][0]:
+                refusal(self, sides_answer, (space,), InvalidOperation)
+            else:
+                claim, paper = sides_answer(space)
+                self.assertEqual(claim[1], cells_of(space, 2))
+                self.assertTrue(holds(claim, paper))
+            if not kinds[-1][1]:
+                refusal(self, sides_table, (space,), InvalidOperation)
+        for kind in ((False, False), (True, False), (True, True)):
+            self.assertGreater(kinds.count(kind), 15)
+
     def test_wrong_ones(self):
         for function in (is_sheet, is_surface, sides_answer, sides_table):
             check_wrong(self, function, (BALL,), ("space",))
@@ -152,7 +190,9 @@ class Answers(unittest.TestCase):
 class Tables(unittest.TestCase):
     def test_maps(self):
         # Any row of neighbours above a face comes to the map, from the first one to the first one above the cell.
-        for space in (BALL, PLANE, EIGHT, RING, joined(PLANE, moved_by(BALL, 7))):
+        surfaces = [space for space in drawn_ones(4, 150) if is_told_surface(space)]
+        self.assertGreater(len(surfaces), 10)
+        for space in [BALL, PLANE, EIGHT, RING, joined(PLANE, moved_by(BALL, 7))] + surfaces:
             try:
                 table = sides_table(space)
             except OverflowError:
@@ -197,6 +237,21 @@ class Tables(unittest.TestCase):
         self.assertIs(is_surface(wide), True)
         self.assertEqual(refusal(self, sides_table, (wide,), TooMany).most, 30)
         self.assertEqual(str(sides_table(joined(PLANE, moved_by(PLANE, 10)))), "table on 62 cells, sizes 12 30 20")
+
+
+class Times(unittest.TestCase):
+    # The input of which it was told that it took long.
+    LONG = space_of((
+        (2, 6, 21), (2, 6, 24), (2, 13, 21), (2, 13, 25), (2, 23, 24), (2, 23, 25), (6, 13, 23), (6, 13, 25),
+        (6, 21, 23), (6, 24, 25), (13, 21, 24), (13, 23, 24), (21, 23, 25), (21, 24, 25), (30, 32, 58), (30, 32, 72),
+        (30, 58, 72), (32, 58, 72)))
+
+    def test_cells_are_not_sought_for_each_cell(self):
+        self.assertEqual((len(self.LONG), is_surface(self.LONG)), (56, True))
+        self.assertEqual(str(sides_table(self.LONG)), "table on 56 cells, sizes 11 27 18")
+        least = fastest(is_space, self.LONG, calls=10)
+        for function, times in ((is_sheet, 6), (is_surface, 15), (sides_answer, 20), (sides_table, 45)):
+            self.assertLess(fastest(function, self.LONG, calls=10), times * least, function.__name__)
 
 
 def rows_between(above, start, goal):

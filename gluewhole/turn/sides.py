@@ -1,69 +1,97 @@
 """Sides of sheets: spaces of triangles that have two sides or one, and the table of the sides of a surface."""
 
 from gluewhole.base.numbers import check_fit
-from gluewhole.space.spaces import check_space, link, pieces, plain_cells, plain_degree, plain_faces, plain_star
-from gluewhole.tables.tables import built, face_pairs
+from gluewhole.space.sheets import meet_in_pairs, meetings, turned_pairs
+from gluewhole.space.spaces import check_space, plain_cells, plain_degree
+from gluewhole.tables.tables import built
 
 
-def triangles_above(space, cell):
-    """The cells of the degree 2 that have a cell as a part."""
-    return plain_cells(plain_star(space, cell), 2)
-
-
-def plain_is_sheet(space):
-    """As is_sheet, for a space."""
-    return plain_degree(space) < 3 and all([len(triangles_above(space, cell)) <= 2 for cell in plain_cells(space, 1)])
+def sheet_meetings(space):
+    """The faces of the cells of the degree 2 of a space with these cells, None unless the space is a sheet."""
+    if plain_degree(space) > 2:
+        return None
+    met = meetings(plain_cells(space, 2))
+    return met if meet_in_pairs(met) else None
 
 
 def is_sheet(space):
     """Whether a space has no cells of the degree 3, and each cell of the degree 1 is a face of at most two."""
     check_space(space)
-    return plain_is_sheet(space)
+    return sheet_meetings(space) is not None
 
 
-def plain_is_surface(space):
-    """As is_surface, for a space."""
-    if not plain_is_sheet(space) or not all([triangles_above(space, cell) for cell in space]):
-        return False
-    if not all([len(triangles_above(space, cell)) == 2 for cell in plain_cells(space, 1)]):
-        return False
-    return all([len(pieces(link(space, cell))) == 1 for cell in plain_cells(space, 0)])
+def sides_round(cells, met, point, start):
+    """The sides of the cells of the degree 2 that neighbours round a point reach from one of them, itself with 1.
+
+    Each of these cells has two faces with the point, and each of these faces two cells: so the cells go round.
+    """
+    sides, at, side = {}, start, 1
+    entered = [other for other in cells[start] if other != point][0]
+    while at not in sides:
+        sides[at] = side
+        entered = sum(cells[at]) - point - entered
+        (one, sign), (other, turn) = met[(point, entered) if point < entered else (entered, point)]
+        at, side = other if at == one else one, -side * sign * turn
+    return sides
+
+
+def told_surface(space):
+    """The cells of the degree 2 of a surface, their faces with them, and the sides round each point.
+
+    The sides are told by points, each time from the first cell round the point on. None unless this is a surface.
+    """
+    met = sheet_meetings(space)
+    if met is None or not all([len(met.get(cell, ())) == 2 for cell in plain_cells(space, 1)]):
+        return None
+    cells, around = plain_cells(space, 2), {cell[0]: [] for cell in plain_cells(space, 0)}
+    for at, cell in enumerate(cells):
+        for point in cell:
+            around[point].append(at)
+    if not all([lot for lot in around.values()]):
+        return None
+    sides = {point: sides_round(cells, met, point, around[point][0]) for point in around}
+    # The link of a point hangs together if all cells with the point go round it in one row.
+    if not all([len(sides[point]) == len(around[point]) for point in around]):
+        return None
+    return cells, met, sides
 
 
 def is_surface(space):
     """Whether a space is a sheet of triangles alone that go round each point, two of them at each stretch."""
     check_space(space)
-    return plain_is_surface(space)
+    return told_surface(space) is not None
 
 
-def turn_of(one, other):
-    """The turn of two neighbours among cells of the degree 2, 0 if they are none."""
-    signs = {face: sign for sign, face in plain_faces(other)}
-    turns = [-sign * signs[face] for sign, face in plain_faces(one) if face in signs]
-    return turns[0] if len(turns) == 1 else 0
+def turns_of(many, met):
+    """For each of so many cells of the degree 2 the list of the pairs of a neighbour's index and of the turn."""
+    found = [[] for _ in range(many)]
+    for one, other, turn in turned_pairs(met):
+        found[one].append((other, turn))
+        found[other].append((one, turn))
+    return [sorted(turns) for turns in found]
 
 
-def turns_of(cells):
-    """For each of some cells of the degree 2 the list of the pairs of the index of a neighbour and of the turn."""
+def way_to(came, at):
+    """The row of neighbours to a cell, by the cells from which the cells were reached."""
     found = []
-    for cell in cells:
-        turns = [(at, turn_of(cell, other)) for at, other in enumerate(cells)]
-        found.append([(at, turn) for at, turn in turns if turn != 0])
-    return found
+    while at is not None:
+        found.append(at)
+        at = came[at]
+    return tuple(found[::-1])
 
 
 def turned_from(near, start):
     """What rows of neighbours from a cell come to: the sides by indices, and None or else a twisted row."""
-    sides, ways, reached = {start: 1}, {start: (start,)}, [start]
+    sides, came, reached = {start: 1}, {start: None}, [start]
     while reached:
         further = []
         for at in reached:
             for other, turn in near[at]:
                 if other not in sides:
-                    sides[other], ways[other] = sides[at] * turn, ways[at] + (other,)
+                    sides[other], came[other] = sides[at] * turn, at
                     further.append(other)
                 elif sides[other] != sides[at] * turn:
-                    return sides, ways[at] + ways[other][::-1]
+                    return sides, way_to(came, at) + way_to(came, other)[::-1]
         reached = further
     return sides, None
 
@@ -71,9 +99,10 @@ def turned_from(near, start):
 def sides_answer(space):
     """Whether a sheet has two sides: the claim that is true, with sides or a twisted row as its paper."""
     check_space(space)
-    check_fit(plain_is_sheet(space), "the space is no sheet")
+    met = sheet_meetings(space)
+    check_fit(met is not None, "the space is no sheet")
     cells = plain_cells(space, 2)
-    near, sides = turns_of(cells), {}
+    near, sides = turns_of(len(cells), met), {}
     for at in range(len(cells)):
         if at not in sides:
             found, twisted = turned_from(near, at)
@@ -83,17 +112,16 @@ def sides_answer(space):
     return ("two sides", cells), tuple([sides[at] for at in range(len(cells))])
 
 
-def sides_above(cells):
-    """The dict from the cells of the degree 2 above a cell of a surface to the turns from the first one to them."""
-    sides = turned_from(turns_of(cells), 0)[0]
-    return {cell: sides[at] for at, cell in enumerate(cells)}
-
-
 def sides_table(space):
     """The table of the rank 1 whose maps tell how the first triangles above a face and above a cell turn."""
     check_space(space)
-    check_fit(plain_is_surface(space), "the space is no surface")
-    above = {cell: triangles_above(space, cell) for cell in space}
-    turns = {cell: sides_above(above[cell]) for cell in space}
-    maps = {(face, cell): (1, ((turns[face][above[cell][0]],),)) for face, cell in face_pairs(space)}
+    told = told_surface(space)
+    check_fit(told is not None, "the space is no surface")
+    cells, met, sides = told
+    maps = {}
+    for cell, ((one, sign), (other, turn)) in met.items():
+        for point in cell:
+            maps[((point,), cell)] = (1, ((sides[point][one],),))
+        maps[(cell, cells[one])] = (1, ((1,),))
+        maps[(cell, cells[other])] = (1, ((-sign * turn,),))
     return built(space, {cell: 1 for cell in space}, maps)
