@@ -8,9 +8,10 @@ from gluewhole.errors import InvalidClaim
 from gluewhole.judge.judge import is_claim, opposite, takes
 from gluewhole.near.false import near_answer, safe_answer
 from gluewhole.space.spaces import space_of
-from gluewhole.tables.tables import constant
+from gluewhole.tables.tables import Table, constant
 from gluewhole.tables.tellings import rise_grid
-from tests.helper import ODD, ONE, TWO, closed, dense, holds, nought, refusal, scaled, transposed, unit
+from tests.helper import (
+    ODD, ONE, TWO, closed, dense, fastest, holds, nought, random_tables, refusal, scaled, transposed, unit)
 from tests.samples import ALONE, KINDS, PAIRS, bent, samples
 
 LONG = 10 ** 50
@@ -31,6 +32,11 @@ def line(points):
     """The sizes and the grid of a row of points."""
     table = constant(closed([(at, at + 1) for at in range(points - 1)]), 1)
     return (1,) * points, rise_grid(table, 0)
+
+
+def sizes_of(table):
+    """The ranks of the points of the table."""
+    return tuple([rank for cell, rank in table.ranks.items() if len(cell) == 1])
 
 
 def zeros(length):
@@ -385,6 +391,53 @@ class Lots(unittest.TestCase):
             self.assertIs(takes(claim, papers[1:] + papers[:1]), False)
             self.assertIs(takes(claim, list(papers)), False)
 
+    def test_forms_of_safe_papers(self):
+        # Two points, one of rank 2, told apart by two stretches; the pair that is bent is the last one.
+        sizes, grid, last = (1, 2), (3, ((1, 0, 0), (0, 1, 0), (0, 0, 2))), (2, (3, ((2, 0, 0), (0, 2, 0), (0, 0, 1))))
+        self.assertIs(takes(("safe", sizes, grid, 1), (last,)), True)
+        self.assertIs(takes(("safe", sizes, grid, 0), ((1, (3, ())),)), True)
+        rows = last[1][1]
+        for wrong in (
+                list(last), last + (0,), last[:1], last[0], None, (0, last[1]), (-2, last[1]), (True, last[1]),
+                (None, last[1]), ("2", last[1]), (4, last[1]), (2, list(last[1])), (2, last[1][:1]),
+                (2, last[1] + ((),)), (2, rows), (2, (2, rows)), (2, (4, rows)), (2, (True, rows)), (2, (None, rows)),
+                (2, (3, list(rows))), (2, (3, rows[:2])), (2, (3, rows + rows[2:])), (2, (3, rows[:2] + ([0, 0, 1],))),
+                (2, (3, rows[:2] + ((0, 0),))), (2, (3, rows[:2] + ((0, 0, 1, 0),))), (2, (3, rows[:2] + (1,))),
+                (2, (3, rows[:2] + ((0, 0, True),))), (2, (3, rows[:2] + ((False, 0, 1),))),
+                (2, (3, rows[:2] + ((0, None, 1),))), (2, (3, rows[:2] + ((0, 1, 1),))), (2, (3, rows[::-1])),
+                (2, (3, rows[:2] + ((0, 0, 2),))), (2, (3, rows[:2] + ((0, 0, -1),))), (0, (3, ((0, 0, 0),) * 3))):
+            self.assertIs(takes(("safe", sizes, grid, 1), (wrong,)), False, wrong)
+            self.assertIs(takes(("held", sizes, grid, (0, 1)), wrong), False, wrong)
+        for paper in ((), (last, last), [last], last, None, {0: last}):
+            self.assertIs(takes(("safe", sizes, grid, 1), paper), False)
+        for one in (list(sizes), (2, 1), (1, 1), (1, 2, 1), (True, 2), (1, -1, 3), None, (3,)):
+            told = takes(("safe", one, grid, 1), (last,))
+            self.assertIs(told, one in ((2, 1), (3,)), one)
+
+    def test_many_sizes(self):
+        # Lots of sizes that are no width of a grid are not counted.
+        for sizes in ((1,) * 19000, (10 ** 99,) * 3, (LONG, 0), (0,) * 19000):
+            for kind, paper in (("safe", ((1, (0, ())),)), ("confused", ((), (), ())), ("safe", ())):
+                self.assertIs(takes((kind, sizes, (3, ()), 4700), paper), False)
+        self.assertIs(takes(("safe", (0,) * 19000, (0, ()), 5), ((1, (0, ())),)), True)
+
+    def test_values_near_papers(self):
+        source, found = random.Random(4), []
+        for table in [table for table in random_tables(191, 30, 5) if sum(sizes_of(table)) < 9]:
+            for k in range(3):
+                claim, paper = safe_answer(table, k)
+                self.assertIs(takes(claim, paper), True)
+                self.assertTrue(holds(claim, paper))
+                self.assertIs(takes(opposite(claim), paper), False)
+                for word, other in bent(paper, source, 12):
+                    found.append(takes(claim, other))
+                    self.assertIs(found[-1], word != "form" and holds_at_all(claim, other), (claim, other))
+                for _, other in bent(claim, source, 8):
+                    found.append(takes(other, paper))
+                    self.assertIs(found[-1], is_claim(other) and holds_at_all(other, paper), (other, paper))
+        self.assertGreater(found.count(False), 2000)
+        self.assertGreater(found.count(True), 50)
+
     def test_confused_ones(self):
         sizes, grid = line(5)
         claim = ("confused", sizes, grid, 3)
@@ -459,6 +512,26 @@ class Reasons(unittest.TestCase):
         self.assertIs(takes(("made", grid, (0,) * 120), (0,) * 120), True)
         table = constant(space_of(((0, 1),)), 1)
         self.assertIs(takes(*near_answer(table, (1, 1), 0)), True)
+
+
+class Times(unittest.TestCase):
+    def test_values_that_are_no_papers(self):
+        # The input of which it was told that it took long: a point and six stretches that lead it to squares.
+        space = closed([(0, at) for at in range(1, 7)])
+        rows = ((1, -3, 9), (1, -2, 4), (1, -1, 1), (1, 0, 0), (1, 1, 1), (1, 2, 4))
+        maps = {((at,), (0, at)): ONE for at in range(1, 7)}
+        maps.update({((0,), (0, at + 1)): (3, (row,)) for at, row in enumerate(rows)})
+        table = Table(space, {cell: 3 if cell == (0,) else 1 for cell in space}, maps)
+        claim, paper = safe_answer(table, 2)
+        self.assertEqual((claim[0], len(paper), takes(claim, paper)), ("safe", 35, True))
+        n, (width, lines) = paper[-1]
+        # A wrong number in the last pair is found by all sums, other values are by their forms alone.
+        number = paper[:-1] + ((n + 1, (width, lines)),)
+        form = paper[:-1] + ((n, (width, lines[:-1] + (list(lines[-1]),))),)
+        most = fastest(safe_answer, table, 2, calls=1)
+        for value, part in ((paper, 1), (number, 1), (form, 4), (paper[:-1], 60), (list(paper), 60), (None, 60)):
+            self.assertIs(takes(claim, value), value == paper)
+            self.assertLess(part * fastest(takes, claim, value, calls=1), most)
 
 
 if __name__ == "__main__":

@@ -196,8 +196,9 @@ def is_grid_claim(kind, members):
 
 
 def takes_grid_paper(kind, members, paper):
-    """Whether the value is a paper for a well made claim of one of these kinds."""
+    """Whether the members are those of a well made claim of one of these kinds, and the value is a paper for it."""
     if kind not in GRID_PAPERS:
         return False
+    fits = GRID_FORMS[kind]
     takes = GRID_PAPERS[kind]
-    return takes(members, paper)
+    return fits(members) and takes(members, paper)

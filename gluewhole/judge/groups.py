@@ -195,8 +195,9 @@ def is_led_claim(kind, members):
 
 
 def takes_led_paper(kind, members, paper):
-    """Whether the value is a paper for a well made claim of one of these kinds."""
+    """Whether the members are those of a well made claim of one of these kinds, and the value is a paper for it."""
     if kind not in GROUP_PAPERS:
         return False
+    fits = GROUP_FORMS[kind]
     takes = GROUP_PAPERS[kind]
-    return takes(members, paper)
+    return fits(members) and takes(members, paper)

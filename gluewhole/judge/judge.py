@@ -24,7 +24,7 @@ def is_claim(value):
 
 def takes(claim, paper):
     """Whether the second value is a paper for the first one, a well made claim."""
-    if not is_claim(claim):
+    if not isinstance(claim, tuple) or claim == () or not isinstance(claim[0], str):
         return False
     kind, members = claim[0], claim[1:]
     if takes_grid_paper(kind, members, paper) or takes_led_paper(kind, members, paper):

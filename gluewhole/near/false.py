@@ -1,13 +1,14 @@
 """False points: wholes that live on few seats, and tellings that differ from a whole at few seats."""
 
-from gluewhole.base.exact import plain_led, plain_turned, plain_unit, stairs_of
+from gluewhole.base.exact import plain_columns, plain_led, plain_turned, plain_unit, stairs_of
 from gluewhole.base.made import plain_kernel, plain_made_answer
 from gluewhole.base.numbers import check_between, check_fit
 from gluewhole.base.quotients import solved
 from gluewhole.errors import TooMany
-from gluewhole.near.lots import columns_at, differing_seats, is_lot_of, lots_number, lots_of, places_of, seats_of
+from gluewhole.near.lots import columns_at, differing_seats, ends_of_parts, is_lot_of, lots_number, lots_of, places_of
+from gluewhole.near.lots import seats_of
 from gluewhole.space.spaces import MOST_CELLS, plain_cells
-from gluewhole.tables.tables import check_table
+from gluewhole.tables.tables import check_table, told_ranks
 from gluewhole.tables.tellings import check_telling, plain_rise_grid
 
 MOST_LOTS = 2000
@@ -15,7 +16,7 @@ MOST_LOTS = 2000
 
 def point_sizes(table):
     """The ranks of the points of a table, ascending."""
-    ranks = table.ranks
+    ranks = told_ranks(table)
     return tuple([ranks[cell] for cell in plain_cells(table.space, 0)])
 
 
@@ -32,9 +33,16 @@ def seats(table):
     return seats_of(point_sizes(table))
 
 
-def undone_columns(grid):
-    """A pair (n, G), n above 0, of which G times the grid is n times the unit, None if there is none."""
-    found = solved(plain_turned(grid), plain_unit(grid[0]))
+def columns_by_seats(sizes, grid):
+    """The list of the columns of the grid at each of the sizes."""
+    columns = plain_columns(grid)
+    return [columns[begin:end] for begin, end in ends_of_parts(sizes)]
+
+
+def undone_at(parts, height, lot):
+    """A pair (n, G), n above 0, of which G times the columns at a lot is n times the unit, None if there is none."""
+    columns = tuple([column for at in lot for column in parts[at]])
+    found = solved((height, columns), plain_unit(len(columns)))
     return None if found is None else (found[0], plain_turned(found[1]))
 
 
@@ -53,7 +61,7 @@ def held_answer(table, lot):
     sizes = point_sizes(table)
     check_fit(is_lot_of(sizes, lot), "this is no lot of the seats of the table")
     grid = plain_rise_grid(table, 0)
-    paper = undone_columns(columns_at(grid, places_of(sizes, lot)))
+    paper = undone_at(columns_by_seats(sizes, grid), len(grid[1]), lot)
     if paper is None:
         return ("loose", sizes, grid, lot), loose_whole(sizes, grid, lot)
     return ("held", sizes, grid, lot), paper
@@ -77,8 +85,9 @@ def safe_answer(table, k):
     check_table(table)
     check_seat_number(k)
     sizes, grid, papers = point_sizes(table), plain_rise_grid(table, 0), []
-    for lot in checked_lots(sizes, 2 * k):
-        paper = undone_columns(columns_at(grid, places_of(sizes, lot)))
+    lots, parts = checked_lots(sizes, 2 * k), columns_by_seats(sizes, grid)
+    for lot in lots:
+        paper = undone_at(parts, len(grid[1]), lot)
         if paper is None:
             return ("confused", sizes, grid, k), confused(sizes, loose_whole(sizes, grid, lot), lot, k)
         papers.append(paper)
