@@ -6,7 +6,7 @@ import unittest
 
 from gluewhole.base.diagonal import undone_answer
 from gluewhole.errors import InvalidNumber, InvalidOperation, InvalidRow, InvalidSpace, InvalidTable
-from gluewhole.space.spaces import joined, space_of
+from gluewhole.space.spaces import is_space, joined, space_of
 from gluewhole.tables.tables import Table, constant, framed, pulled, table_product, table_sum
 from gluewhole.tables.tellings import is_still, part
 from gluewhole.tables.wholes import whole_base
@@ -14,7 +14,8 @@ from gluewhole.turn.walks import (
     is_kept_base, is_local, kept_base, path_lead, round_answer, rounds, straight, told_path)
 from tests.helper import (
     EDGE, FILLED, LESS, ODD, ONE, ROUND, TWIST, TWO, WRONG, WRONG_INTEGERS, check_judged, check_wrong, closed, moved,
-    nought, random_tables, refusal, spaces, times, transposed, turned_table, undone_pair, unit)
+    fastest, nought, random_tables, refusal, scaled, spaces, times, told_determinant, transposed, turned_table,
+    undone_pair, unit)
 
 LONG = 10 ** 30
 # A ring of six triangles, which a map leads to the ring of three stretches.
@@ -172,6 +173,52 @@ class Local(unittest.TestCase):
         lead = path_lead(table, (0, 1, 2, 0))
         self.assertGreater(max([abs(number) for row in lead[1] for number in row]), 10 ** 12)
         self.assertEqual(times(path_lead(table, (0, 2, 1, 0)), lead), unit(4))
+
+
+class Asked(unittest.TestCase):
+    def test_asked_again(self):
+        # What a table keeps of being local changes no answer, whoever asks first, and nothing that can be seen.
+        source = random.Random(9)
+        for table in LOCAL + random_tables(165, 20, 5):
+            local = all([
+                grid[0] == len(grid[1]) and told_determinant(grid[1]) in (1, -1) for grid in table.maps.values()])
+            calls = [(is_local, ())]
+            for point in points_of(table)[:2]:
+                row = tuple([source.randint(-3, 3) for _ in range(table.ranks[(point,)])])
+                calls += [(path_lead, (walk_from(table.space, point, source),)), (kept_base, (point,))]
+                calls += [(round_answer, (point, row)), (is_kept_base, (point, None))]
+            told = []
+            for function, arguments in calls * 2:
+                fresh = Table((), {}, {}) if table.space == () else table_sum(table, constant(table.space, 0))
+                self.assertEqual(fresh, table)
+                for asked in (fresh, table):
+                    if local or function is is_local:
+                        told.append((function, function(asked, *arguments)))
+                    else:
+                        refusal(self, function, (asked,) + arguments, InvalidOperation)
+                self.assertEqual((fresh, str(fresh), fresh.maps), (table, str(table), table.maps))
+            self.assertTrue(all([answer is local for function, answer in told if function is is_local]))
+            half = len(told) // 2
+            self.assertEqual(told[:half], told[half:])
+            self.assertEqual(told[::2], told[1::2])
+
+    def test_sizes_of_maps(self):
+        # One map that is not undone is enough, wherever it stands, and whatever its rank.
+        source = random.Random(10)
+        for rank in range(1, 5):
+            table = turned_table(constant(ROUND, rank), source)
+            self.assertIs(is_local(table), True)
+            for pair, grid in table.maps.items():
+                for other in (scaled(grid, 2), (rank, grid[1][:-1] + grid[1][:1]), scaled(grid, 0)):
+                    if rank == 1 and other == grid:
+                        continue
+                    bad = Table(ROUND, table.ranks, {**table.maps, pair: other})
+                    self.assertIs(is_local(bad), False)
+                    refusal(self, path_lead, (bad, (0,)), InvalidOperation)
+                    refusal(self, straight, (bad,), InvalidOperation)
+        wide = Table(EDGE, {(0,): 1, (1,): 1, (0, 1): 2}, {((0,), (0, 1)): (1, ((1,), (0,))), ((1,), (0, 1)): (1, (
+            (0,), (1,)))})
+        self.assertIs(is_local(wide), False)
 
 
 class Paths(unittest.TestCase):
@@ -437,6 +484,34 @@ class Straight(unittest.TestCase):
         frame.clear()
         self.assertEqual(straight(table)[1], {cell: ONE for cell in ROUND})
         self.assertEqual(table, constant(ROUND, 1))
+
+
+class Times(unittest.TestCase):
+    # The input of which it was told that it took long.
+    MAPS = {
+        ((0,), (0, 4)): ((3, 2), (4, 3)), ((0,), (0, 10)): ((-8, -5), (-3, -2)), ((0,), (0, 19)): ((2, 1), (1, 1)),
+        ((0, 4), (0, 4, 10)): ((1, -1), (0, -1)), ((0, 4), (0, 4, 19)): ((1, 0), (-1, -1)),
+        ((0, 10), (0, 4, 10)): ((-1, 3), (-1, 4)), ((0, 10), (0, 10, 19)): ((5, -4), (4, -3)),
+        ((0, 19), (0, 4, 19)): ((1, 1), (-2, -3)), ((0, 19), (0, 10, 19)): ((-11, -6), (-9, -5)),
+        ((4,), (0, 4)): ((-1, -1), (-2, -1)), ((4,), (4, 10)): ((-1, -1), (0, 1)), ((4,), (4, 19)): ((0, -1), (1, 1)),
+        ((4, 10), (0, 4, 10)): ((-1, -1), (-2, -1)), ((4, 10), (4, 10, 19)): ((0, -1), (-1, 0)),
+        ((4, 19), (0, 4, 19)): ((0, -1), (1, 3)), ((4, 19), (4, 10, 19)): ((1, 0), (0, 1)),
+        ((10,), (0, 10)): ((1, 1), (0, 1)), ((10,), (4, 10)): ((0, -1), (1, -1)), ((10,), (10, 19)): ((3, -1), (1, 0)),
+        ((10, 19), (0, 10, 19)): ((-1, 8), (-1, 7)), ((10, 19), (4, 10, 19)): ((-1, 2), (-1, 3)),
+        ((19,), (0, 19)): ((-1, 0), (3, -1)), ((19,), (4, 19)): ((-1, 0), (-2, 1)), ((19,), (10, 19)): ((-1, 2), (-1,
+            1))}
+
+    def test_no_map_is_looked_at_anew(self):
+        space = closed([(0, 4, 10), (0, 4, 19), (0, 10, 19), (4, 10, 19)])
+        table = Table(space, {cell: 2 for cell in space}, {pair: (2, rows) for pair, rows in self.MAPS.items()})
+        lead = path_lead(table, (19, 4))
+        self.assertEqual(times(table.maps[((4,), (4, 19))], lead), table.maps[((19,), (4, 19))])
+        self.assertLess(fastest(path_lead, table, (19, 4)), 4 * fastest(is_space, space))
+        base = kept_base(table, 0)
+        self.assertIs(is_kept_base(table, 0, base), True)
+        row = tuple([line[0] for line in base[1]]) if base[0] else (0, 0)
+        for function, arguments in ((round_answer, (0, row)), (kept_base, (0,)), (is_kept_base, (0, base))):
+            self.assertLess(fastest(function, table, *arguments), 20 * fastest(is_space, space))
 
 
 if __name__ == "__main__":

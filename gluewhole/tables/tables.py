@@ -21,6 +21,8 @@ class Table:
         self._space = space
         self._ranks = ascending(ranks)
         self._maps = ascending(maps)
+        # Whether each map is undone by a grid: found when it is asked first, and kept, as the maps stay.
+        self._local = None
 
     @property
     def space(self):
@@ -60,6 +62,15 @@ def told_ranks(table):
 def told_maps(table):
     """The dict that the table itself keeps, for functions of the package: these only read it."""
     return table._maps
+
+
+def plain_is_local(table):
+    """Whether each map of the table is undone by a grid."""
+    if table._local is None:
+        grids = list(table._maps.values())
+        fits = all([grid[0] == len(grid[1]) for grid in grids])
+        table._local = fits and all([is_undone(grid) for grid in grids])
+    return table._local
 
 
 def ascending(told):

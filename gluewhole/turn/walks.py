@@ -1,19 +1,14 @@
 """Walks on local tables: what paths lead to, told rounds, and the rows that these leave as they are."""
 
-from gluewhole.base.exact import is_nought_grid, is_undone, plain_difference, plain_grid, plain_led, plain_product
-from gluewhole.base.exact import plain_unit, undoing
+from gluewhole.base.exact import is_nought_grid, plain_difference, plain_grid, plain_led, plain_unit
+from gluewhole.base.exact import square_product, undoing
 from gluewhole.base.made import plain_kernel
 from gluewhole.base.numbers import check_fit, is_long_grid, is_row
 from gluewhole.errors import InvalidRow
 from gluewhole.rows.maps import is_kernel_base
 from gluewhole.space.spaces import check_ends, check_point_of, check_space, paths_from, pieces, plain_cells
 from gluewhole.space.spaces import plain_is_path
-from gluewhole.tables.tables import ascending, check_table, plain_led_by
-
-
-def plain_is_local(table):
-    """Whether each map of the table is undone by a grid."""
-    return all([grid[0] == len(grid[1]) and is_undone(grid) for grid in table.maps.values()])
+from gluewhole.tables.tables import ascending, check_table, plain_is_local, plain_led_by, told_maps, told_ranks
 
 
 def is_local(table):
@@ -33,20 +28,21 @@ def check_point_in(table, point):
     check_point_of(table.space, point)
 
 
-def step_lead(maps, point, further):
-    """The grid that leads from a point to a neighbour, by the cell of both."""
-    cell = tuple(sorted((point, further)))
-    return plain_product(undoing(maps[((further,), cell)]), maps[((point,), cell)])
+def stepped(maps, point, further, lead):
+    """What leads to a point, led on to a neighbour: to the cell of both, and by what undoes the neighbour's map."""
+    cell = (point, further) if point < further else (further, point)
+    return square_product(undoing(maps[((further,), cell)]), square_product(maps[((point,), cell)], lead))
 
 
 def path_lead(table, path):
     """The grid of all steps of a path, one behind the other."""
     check_table(table)
-    check_fit(plain_is_path(table.space, path), "this is no path of the table")
+    maps, ranks = told_maps(table), told_ranks(table)
+    check_fit(plain_is_path(ranks, path), "this is no path of the table")
     check_local(table)
-    maps, lead = table.maps, plain_unit(table.ranks[path[:1]])
+    lead = plain_unit(ranks[path[:1]])
     for point, further in zip(path, path[1:]):
-        lead = plain_product(step_lead(maps, point, further), lead)
+        lead = stepped(maps, point, further, lead)
     return lead
 
 
@@ -62,7 +58,7 @@ def told_rounds(space, paths):
     for cell in plain_cells(space, 1):
         if cell[0] in paths:
             ahead, behind = paths[cell[0]], paths[cell[1]]
-            if ahead[:-1] != behind and behind[:-1] != ahead:
+            if len(ahead) == len(behind) or ahead[:-1] != behind and behind[:-1] != ahead:
                 found[cell] = ahead + behind[::-1]
     return found
 
@@ -76,51 +72,62 @@ def rounds(space, point):
 
 def told_leads(table, paths):
     """The dict from the points with a told path to its lead: paths come behind those without their last point."""
-    maps, ranks, leads = table.maps, table.ranks, {}
+    maps, ranks, leads = told_maps(table), told_ranks(table), {}
     for point, path in paths.items():
-        if len(path) == 1:
-            leads[point] = plain_unit(ranks[path])
-        else:
-            leads[point] = plain_product(step_lead(maps, path[-2], point), leads[path[-2]])
+        leads[point] = stepped(maps, path[-2], point, leads[path[-2]]) if len(path) > 1 else plain_unit(ranks[path])
     return leads
 
 
-def round_differences(table, point):
-    """The leads of the told paths from a point, and for each told round the pair of it and of a grid.
+def round_difference(table, leads, cell):
+    """What the told paths to both ends of a round's cell make there of a row, the first less the second one: a grid.
 
-    The grid leads a row to what the told paths to both ends of the round's cell make of it there, one less the
-    other: so it leads just those rows to noughts which the round leaves as they are.
+    So it leads just those rows to noughts which the round leaves as they are.
     """
-    space, maps = table.space, table.maps
-    paths = paths_from(space, point)
-    leads, found = told_leads(table, paths), []
-    for cell, way in told_rounds(space, paths).items():
-        ahead = plain_product(maps[(cell[:1], cell)], leads[cell[0]])
-        behind = plain_product(maps[(cell[1:], cell)], leads[cell[1]])
-        found.append((way, plain_difference(ahead, behind)))
-    return leads, found
+    maps = told_maps(table)
+    ahead = square_product(maps[(cell[:1], cell)], leads[cell[0]])
+    return plain_difference(ahead, square_product(maps[(cell[1:], cell)], leads[cell[1]]))
+
+
+def rows_reached(table, paths, point, row):
+    """The dict from the points with a told path to what its lead makes of a row at its first point."""
+    maps, rows = told_maps(table), {point: row}
+    for further, path in paths.items():
+        if len(path) > 1:
+            cell = tuple(sorted(path[-2:]))
+            there = plain_led(maps[(path[-2:-1], cell)], rows[path[-2]])
+            rows[further] = plain_led(undoing(maps[((further,), cell)]), there)
+    return rows
 
 
 def round_answer(table, point, row):
     """The whole that has a row at a point and noughts on other pieces, or the first told round that changes it."""
     check_point_in(table, point)
-    if not is_row(row) or len(row) != table.ranks[(point,)]:
+    maps, ranks, space = told_maps(table), told_ranks(table), table.space
+    if not is_row(row) or len(row) != ranks[(point,)]:
         raise InvalidRow("the row has not as many numbers as the rank at the point")
     check_local(table)
-    leads, found = round_differences(table, point)
-    for way, grid in found:
-        if any(plain_led(grid, row)):
+    paths = paths_from(space, point)
+    rows = rows_reached(table, paths, point, row)
+    for cell, way in told_rounds(space, paths).items():
+        ahead = plain_led(maps[(cell[:1], cell)], rows[cell[0]])
+        if ahead != plain_led(maps[(cell[1:], cell)], rows[cell[1]]):
             return "round", way
-    ranks, whole = table.ranks, []
-    for cell in plain_cells(table.space, 0):
-        whole.extend(list(plain_led(leads[cell[0]], row)) if cell[0] in leads else [0] * ranks[cell])
+    whole = []
+    for cell in plain_cells(space, 0):
+        whole.extend(list(rows[cell[0]]) if cell[0] in rows else [0] * ranks[cell])
     return "whole", tuple(whole)
 
 
 def changes_at(table, point):
-    """The grid that leads just those rows to noughts which all told rounds at a point leave as they are."""
-    rows = [row for _, grid in round_differences(table, point)[1] for row in grid[1]]
-    return plain_grid(rows, table.ranks[(point,)])
+    """A grid that leads just those rows to noughts which all told rounds at a point leave as they are."""
+    space, found = table.space, {}
+    paths = paths_from(space, point)
+    leads = told_leads(table, paths)
+    for cell in told_rounds(space, paths):
+        for row in round_difference(table, leads, cell)[1]:
+            if any(row):
+                found[row] = True
+    return plain_grid(list(found), told_ranks(table)[(point,)])
 
 
 def kept_base(table, point):
@@ -134,7 +141,7 @@ def is_kept_base(table, point, value):
     """Whether the value is a grid whose columns are such a base, with integers of any length."""
     check_point_in(table, point)
     check_local(table)
-    if not is_long_grid(value) or len(value[1]) != table.ranks[(point,)]:
+    if not is_long_grid(value) or len(value[1]) != told_ranks(table)[(point,)]:
         return False
     return is_kernel_base(changes_at(table, point), value)
 
@@ -143,14 +150,15 @@ def straight(table):
     """A frame by which the table becomes a constant one, or the first told round that leads some row to another."""
     check_table(table)
     check_local(table)
-    check_fit(len(pieces(table.space)) == 1, "the space has not just one piece")
-    leads, found = round_differences(table, table.space[0][0])
-    for way, grid in found:
-        if not is_nought_grid(grid):
+    space, ranks, maps, frame = table.space, told_ranks(table), told_maps(table), {}
+    check_fit(len(pieces(space)) == 1, "the space has not just one piece")
+    paths = paths_from(space, space[0][0])
+    leads = told_leads(table, paths)
+    for cell, way in told_rounds(space, paths).items():
+        if not is_nought_grid(round_difference(table, leads, cell)):
             return "round", way
-    ranks, maps, frame = table.ranks, table.maps, {}
-    for cell in table.space:
+    for cell in space:
         # What leads from the first point to the cell; what undoes it makes the numbers alike everywhere.
-        lead = plain_product(plain_led_by(ranks, maps, cell[:1], cell), leads[cell[0]])
+        lead = square_product(plain_led_by(ranks, maps, cell[:1], cell), leads[cell[0]])
         frame[cell] = undoing(lead)
     return "frame", ascending(frame)
