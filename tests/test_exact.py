@@ -4,8 +4,8 @@ import random
 import unittest
 
 from gluewhole.base.exact import (
-    determinant, is_undone, plain_product, plain_turned, plain_unit, square_product, undoing)
-from gluewhole.base.quotients import solved
+    adjugate, determinant, is_undone, plain_product, plain_turned, plain_unit, square_product, undoing)
+from gluewhole.base.quotients import solved, undone_rows
 from tests.helper import EDGE_GRIDS, grids, scaled, times, told_determinant, transposed, undone_pair, unit
 
 LONG = 10 ** 30
@@ -26,6 +26,12 @@ class Squares(unittest.TestCase):
     def test_determinants(self):
         for _, rows in squares(random.Random(1), 5):
             self.assertEqual(determinant(rows), told_determinant(rows))
+
+    def test_adjugates(self):
+        for grid in squares(random.Random(9), 5):
+            found = (grid[0], adjugate(grid[1]))
+            self.assertEqual(times(grid, found), scaled(unit(grid[0]), told_determinant(grid[1])))
+            self.assertEqual(times(found, grid), scaled(unit(grid[0]), told_determinant(grid[1])))
 
     def test_undone_ones(self):
         source, kinds = random.Random(2), []
@@ -74,6 +80,21 @@ class Solved(unittest.TestCase):
                         self.assertGreater(found[0], 0)
                         self.assertEqual(times(grid, found[1]), scaled(wanted, found[0]))
         self.assertGreater(min(kinds.count(True), kinds.count(False)), 20)
+
+    def test_undone_rows(self):
+        source, kinds = random.Random(8), []
+        for many in range(7):
+            for width in range(9):
+                for bound in (1, 1, 2, 5, LONG):
+                    rows = tuple([tuple([source.randint(-bound, bound) for _ in range(width)]) for _ in range(many)])
+                    found = undone_rows(list(rows), width)
+                    told = solved((width, rows), unit(many))
+                    self.assertEqual(found, told)
+                    kinds.append(found is None)
+                    if found is not None:
+                        self.assertGreater(found[0], 0)
+                        self.assertEqual(times((width, rows), found[1]), scaled(unit(many), found[0]))
+        self.assertGreater(min(kinds.count(True), kinds.count(False)), 60)
 
 
 if __name__ == "__main__":

@@ -296,27 +296,30 @@ def near_nought(number, modulus):
     return (number + half) % modulus - half
 
 
-def undoing_of_few(rows):
-    """The rows that undo these few ones, by determinants."""
+def adjugate(rows):
+    """The rows that times these few ones, either way, are the unit times their determinant."""
     size = len(rows)
     if size <= 1:
-        return rows
-    unit = determinant(rows)
+        return ((1,),) * size
     if size == 2:
         (a, b), (c, d) = rows
-        return (unit * d, -unit * b), (-unit * c, unit * a)
+        return (d, -b), (-c, a)
     if size == 3:
         (a, b, c), (d, e, f), (g, h, i) = rows
-        found = (
+        return (
             (e * i - f * h, c * h - b * i, b * f - c * e), (f * g - d * i, a * i - c * g, c * d - a * f),
             (d * h - e * g, b * g - a * h, a * e - b * d))
-        return tuple([tuple([unit * number for number in row]) for row in found])
     found = []
     for column in range(size):
         rest = [row[:column] + row[column + 1:] for row in rows]
-        signs = [-unit if (column + place) % 2 == 1 else unit for place in range(size)]
+        signs = [-1 if (column + place) % 2 == 1 else 1 for place in range(size)]
         found.append(tuple([sign * determinant(rest[:at] + rest[at + 1:]) for at, sign in enumerate(signs)]))
     return tuple(found)
+
+
+def with_sign(rows, number):
+    """The rows, or with all signs changed for a number below 0."""
+    return rows if number > 0 else tuple([tuple([-item for item in row]) for row in rows])
 
 
 def undoing(grid):
@@ -327,7 +330,7 @@ def undoing(grid):
     """
     size = grid[0]
     if size <= FEW:
-        return size, undoing_of_few(grid[1])
+        return size, with_sign(adjugate(grid[1]), determinant(grid[1]))
     unit, bits = plain_unit(size), 1
     near = plain_grid(undone_modulo_two(grid[1]), size)
     product = plain_product(grid, near)

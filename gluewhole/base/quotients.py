@@ -5,7 +5,8 @@ Rows of fractions are reckoned with as pairs (bottom, tops) of one bottom above 
 
 from math import gcd
 
-from gluewhole.base.exact import plain_led, plain_product, plain_turned, row_less
+from gluewhole.base.exact import FEW, adjugate, determinant, plain_led, plain_product, plain_turned, plain_unit
+from gluewhole.base.exact import row_less, with_sign
 from gluewhole.base.numbers import is_long_integer
 from gluewhole.errors import InvalidRow
 
@@ -126,6 +127,21 @@ def solved(grid, wanted):
     for index, lead in enumerate(leads):
         rows[lead] = tuple([column[index] if n > 0 else -column[index] for column in columns])
     return abs(n), (many, tuple(rows))
+
+
+def undone_rows(rows, width):
+    """Integers (n, S), n above 0 and S a grid: the rows times S are n times the unit. None if there are none."""
+    many = len(rows)
+    if many > FEW:
+        return solved((width, rows), plain_unit(many))
+    leads, _, left = eliminated(rows, width)
+    if left:
+        return None
+    corner = [tuple([row[at] for at in leads]) for row in rows]
+    n, lines = determinant(corner), [(0,) * many] * width
+    for lead, line in zip(leads, with_sign(adjugate(corner), n)):
+        lines[lead] = line
+    return abs(n), (many, tuple(lines))
 
 
 def nearest_origin(grid, row):

@@ -1,9 +1,9 @@
 """False points: wholes that live on few seats, and tellings that differ from a whole at few seats."""
 
-from gluewhole.base.exact import plain_columns, plain_led, plain_turned, plain_unit, stairs_of
+from gluewhole.base.exact import plain_columns, plain_led, plain_turned, stairs_of
 from gluewhole.base.made import plain_kernel, plain_made_answer
 from gluewhole.base.numbers import check_between, check_fit
-from gluewhole.base.quotients import solved
+from gluewhole.base.quotients import undone_rows
 from gluewhole.errors import TooMany
 from gluewhole.near.lots import columns_at, differing_seats, ends_of_parts, is_lot_of, lots_number, lots_of, places_of
 from gluewhole.near.lots import seats_of
@@ -41,15 +41,16 @@ def columns_by_seats(sizes, grid):
 
 def undone_at(parts, height, lot):
     """A pair (n, G), n above 0, of which G times the columns at a lot is n times the unit, None if there is none."""
-    columns = tuple([column for at in lot for column in parts[at]])
-    found = solved((height, columns), plain_unit(len(columns)))
+    found = undone_rows([column for at in lot for column in parts[at]], height)
     return None if found is None else (found[0], plain_turned(found[1]))
 
 
 def loose_whole(sizes, grid, lot):
     """A whole other than 0 that lives on a lot with such a whole."""
     places, row = places_of(sizes, lot), [0] * grid[0]
-    base = plain_kernel(columns_at(grid, places))
+    # Most rows have noughts at a lot, or what others have: they change nothing.
+    rows = {line: True for line in columns_at(grid, places)[1] if any(line)}
+    base = plain_kernel((len(places), tuple(list(rows))))
     for at, numbers in zip(places, base[1]):
         row[at] = numbers[0]
     return tuple(row)
