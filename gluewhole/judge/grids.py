@@ -189,16 +189,12 @@ GRID_PAPERS = {
 
 def is_grid_claim(kind, members):
     """Whether the members are those of a well made claim of one of these kinds."""
-    if kind not in GRID_FORMS:
-        return False
     fits = GRID_FORMS[kind]
     return fits(members)
 
 
 def takes_grid_paper(kind, members, paper):
     """Whether the members are those of a well made claim of one of these kinds, and the value is a paper for it."""
-    if kind not in GRID_PAPERS:
-        return False
     fits = GRID_FORMS[kind]
     takes = GRID_PAPERS[kind]
     return fits(members) and takes(members, paper)

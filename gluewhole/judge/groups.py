@@ -188,16 +188,12 @@ GROUP_PAPERS = {
 
 def is_led_claim(kind, members):
     """Whether the members are those of a well made claim of one of these kinds."""
-    if kind not in GROUP_FORMS:
-        return False
     fits = GROUP_FORMS[kind]
     return fits(members)
 
 
 def takes_led_paper(kind, members, paper):
     """Whether the members are those of a well made claim of one of these kinds, and the value is a paper for it."""
-    if kind not in GROUP_PAPERS:
-        return False
     fits = GROUP_FORMS[kind]
     takes = GROUP_PAPERS[kind]
     return fits(members) and takes(members, paper)

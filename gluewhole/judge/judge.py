@@ -1,9 +1,9 @@
 """The checker: which values are well made claims, and which ones are papers for them."""
 
 from gluewhole.errors import InvalidClaim
-from gluewhole.judge.grids import is_grid_claim, takes_grid_paper
-from gluewhole.judge.groups import is_led_claim, takes_led_paper
-from gluewhole.judge.points import is_point_claim, takes_point_paper
+from gluewhole.judge.grids import GRID_PAPERS, is_grid_claim, takes_grid_paper
+from gluewhole.judge.groups import GROUP_PAPERS, is_led_claim, takes_led_paper
+from gluewhole.judge.points import POINT_PAPERS, is_point_claim, takes_point_paper
 
 OPPOSITES = {
     "undone": "not undone", "not undone": "undone", "alike": "unlike", "unlike": "alike", "made": "barred",
@@ -19,7 +19,11 @@ def is_claim(value):
     if not isinstance(value, tuple) or value == () or not isinstance(value[0], str):
         return False
     kind, members = value[0], value[1:]
-    return is_grid_claim(kind, members) or is_led_claim(kind, members) or is_point_claim(kind, members)
+    if kind in GRID_PAPERS:
+        return is_grid_claim(kind, members)
+    if kind in GROUP_PAPERS:
+        return is_led_claim(kind, members)
+    return kind in POINT_PAPERS and is_point_claim(kind, members)
 
 
 def takes(claim, paper):
@@ -27,9 +31,11 @@ def takes(claim, paper):
     if not isinstance(claim, tuple) or claim == () or not isinstance(claim[0], str):
         return False
     kind, members = claim[0], claim[1:]
-    if takes_grid_paper(kind, members, paper) or takes_led_paper(kind, members, paper):
-        return True
-    return takes_point_paper(kind, members, paper)
+    if kind in GRID_PAPERS:
+        return takes_grid_paper(kind, members, paper)
+    if kind in GROUP_PAPERS:
+        return takes_led_paper(kind, members, paper)
+    return kind in POINT_PAPERS and takes_point_paper(kind, members, paper)
 
 
 def opposite(claim):

@@ -194,10 +194,11 @@ def takes_safe(members, paper):
     return are_undone(sizes, grid, lots_of(sizes, 2 * k), paper)
 
 
-def differ_at_most(sizes, rows, telling, k):
-    """Whether each of some tellings differs from another one at so many seats at most."""
-    ends = ends_of_parts(sizes)
-    return all([sum([row[begin:end] != telling[begin:end] for begin, end in ends]) <= k for row in rows])
+def differ_at_most(sizes, row, telling, k):
+    """Whether two tellings differ at so many seats at most: they surely do if so few of their numbers are unlike."""
+    if sum([left != right for left, right in zip(row, telling)]) <= k:
+        return True
+    return len(differing_seats(sizes, row, telling)) <= k
 
 
 def takes_confused(members, paper):
@@ -206,12 +207,14 @@ def takes_confused(members, paper):
         return False
     sizes, grid, k = members
     width = sum(sizes)
-    if not are_rows(paper, width) or not is_least(k, 0) or not is_told_grid(grid) or grid[0] != width:
+    if not is_least(k, 0) or not all([isinstance(row, tuple) and len(row) == width for row in paper]):
+        return False
+    if not is_told_grid(grid) or grid[0] != width or not have_integers(paper):
         return False
     one, other, telling = paper
-    if one == other or not differ_at_most(sizes, (one, other), telling, k):
+    if one == other or not is_led_to_noughts(grid, one) or not is_led_to_noughts(grid, other):
         return False
-    return is_led_to_noughts(grid, one) and is_led_to_noughts(grid, other)
+    return differ_at_most(sizes, one, telling, k) and differ_at_most(sizes, other, telling, k)
 
 
 def takes_near(members, paper):
@@ -219,7 +222,7 @@ def takes_near(members, paper):
     if not is_near_claim(members):
         return False
     sizes, grid, telling, k = members
-    return is_whole_of(grid, paper) and differ_at_most(sizes, (paper,), telling, k)
+    return is_whole_of(grid, paper) and differ_at_most(sizes, paper, telling, k)
 
 
 def takes_far(members, paper):
@@ -310,15 +313,11 @@ POINT_PAPERS = {
 
 def is_point_claim(kind, members):
     """Whether the members are those of a well made claim of one of these kinds."""
-    if kind not in POINT_FORMS:
-        return False
     fits = POINT_FORMS[kind]
     return fits(members)
 
 
 def takes_point_paper(kind, members, paper):
     """Whether the members are those of a well made claim of one of these kinds, and the value is a paper for it."""
-    if kind not in POINT_PAPERS:
-        return False
     takes = POINT_PAPERS[kind]
     return takes(members, paper)
